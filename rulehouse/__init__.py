@@ -1,0 +1,1 @@
+"""Rulehouse: rules, what follows from them, and what does not."""

@@ -1,0 +1,31 @@
+"""Cases of rules with nots, and what comes of facts behind a set that is seen."""
+
+from rulehouse.facts import Facts
+from rulehouse.finding import Shelves, patterns_of, sorted_matches
+from rulehouse.growing import grown
+
+
+def _grown_wide(rules, facts):
+    """All facts and the heads of all matches, nots being passed over, in any order."""
+    return list(grown(patterns_of(rules), facts.listed(), {}))
+
+
+def wide_facts(rules, facts):
+    """The least set with all facts and the heads of matches in it, nots being passed over."""
+    return Facts(_grown_wide(rules, facts))
+
+
+def cases(rules, facts):
+    """The list of all pairs (number, match) of rules and matches in wide, nots being passed over."""
+    shelves = Shelves(_grown_wide(rules, facts))
+    found = []
+    for number, pattern in enumerate(patterns_of(rules)):
+        for calls in sorted_matches(pattern, shelves, {}, pattern.seeds):
+            found.append((number, calls))
+    return found
+
+
+def behind(rules, facts, seen):
+    """The least set with all facts and the heads of cases none of whose not facts is seen."""
+    barred = {fact: True for fact in seen.listed()}
+    return Facts(list(grown(patterns_of(rules), facts.listed(), barred)))

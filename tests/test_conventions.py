@@ -1,0 +1,153 @@
+"""Points [3], [4], [5]: lists and tuples, names of arguments, copies, and the same answer each time."""
+
+import copy
+import unittest
+
+from rulehouse.cases import behind, cases, wide_facts
+from rulehouse.errors import HouseError
+from rulehouse.facts import Facts
+from rulehouse.foldings import foldings, is_folding, least_part
+from rulehouse.following import heights, steps_for, what_follows
+from rulehouse.goals import answers, chain_to, goal_rules, goal_table, is_chain, is_goal_table, shows_not
+from rulehouse.joins import joined, plain_form, unfolded
+from rulehouse.levels import by_levels, is_not_ring, levels, ring_through_not
+from rulehouse.matching import answers_of, is_match, many_matches, matches
+from rulehouse.orders import best_order, join_sizes, summed_out
+from rulehouse.parts import is_atom, is_body, is_fact, is_part, is_rule, letters_of, put_in
+from rulehouse.rules import Rules, hangs_on, is_in_ring, rings
+from rulehouse.texts import line_of, write_facts, write_rules
+from rulehouse.trees import is_tree, least_steps, tree_of
+from rulehouse.worlds import is_world, world_without, worlds_within
+
+WAY = [[["way", "X", "Y"], [["e", "X", "Y"]]], [["way", "X", "Z"], [["e", "X", "Y"], ["way", "Y", "Z"]]]]
+NOTS = [[["p", "X"], [["q", "X"], ["not", ["r", "X"]]]], [["r", "X"], [["q", "X"], ["not", ["p", "X"]]]],
+        [["s"], [["unlike", 1, 2]]]]
+FLAT = [[["p", "X"], [["q", "X"], ["not", ["r", "X"]]]], [["s"], [["p", "X"]]]]
+EDGES = [["e", "a", "b"], ["e", "b", "c"], ["q", 1]]
+BODY = [["e", "X", "Y"], ["e", "Y", "Z"], ["unlike", "X", 1], ["not", ["q", "X"]]]
+PLAIN = [["e", "X", "Y"], ["e", "Y", "Z"], ["q", "W"]]
+TREE = [["way", "a", "b"], 0, [[["e", "a", "b"], None, []]]]
+GOAL = ["way", "b", "X"]
+TABLE = {("zz",): [["zz"]]}
+
+# Each call with its arguments under their names; Rules and Facts are made of lists anew each time.
+CALLS = [
+    (is_atom, {"thing": ["p", "X"]}), (is_fact, {"thing": ["p", 1]}), (is_part, {"thing": ["not", ["p"]]}),
+    (is_body, {"thing": BODY}), (is_rule, {"thing": WAY[1]}), (letters_of, {"body": BODY}),
+    (put_in, {"body": BODY, "calls": {"X": "a"}}), (hangs_on, {"rules": WAY, "relation": "way"}), (rings, {"rules": NOTS}),
+    (is_in_ring, {"rules": NOTS, "relation": "p"}), (plain_form, {"rule": WAY[1]}),
+    (joined, {"one": ["p", "X", "a"], "other": ["p", "Y", "Y"]}), (unfolded, {"rules": WAY, "number": 1, "index": 1}),
+    (line_of, {"thing": WAY[1]}), (line_of, {"thing": BODY}), (write_facts, {"facts": EDGES}), (write_rules, {"rules": NOTS}),
+    (matches, {"facts": EDGES, "body": BODY}), (many_matches, {"facts": EDGES, "body": BODY}),
+    (is_match, {"facts": EDGES, "body": BODY, "thing": {"X": "a", "Y": "b", "Z": "c"}}),
+    (answers_of, {"facts": EDGES, "question": WAY[0]}), (join_sizes, {"facts": EDGES, "body": PLAIN, "order": [2, 0, 1]}),
+    (best_order, {"facts": EDGES, "body": PLAIN}), (summed_out, {"facts": EDGES, "body": PLAIN, "letters": ["Y"]}),
+    (foldings, {"one": PLAIN, "other": PLAIN}),
+    (is_folding, {"one": PLAIN, "other": PLAIN, "thing": {"X": "X", "Y": "Y", "Z": "Z", "W": "W"}}),
+    (least_part, {"question": [["h", "X"], PLAIN]}), (what_follows, {"rules": WAY, "facts": EDGES}),
+    (heights, {"rules": WAY, "facts": EDGES}), (steps_for, {"rules": WAY, "facts": EDGES, "fact": ["way", "a", "c"]}),
+    (is_tree, {"rules": WAY, "facts": EDGES, "fact": ["way", "a", "b"], "thing": TREE}),
+    (least_steps, {"rules": WAY, "facts": EDGES, "fact": ["way", "a", "c"], "most": 3}),
+    (tree_of, {"rules": WAY, "facts": EDGES, "fact": ["way", "a", "c"], "most": None}),
+    (is_world, {"rules": WAY, "facts": EDGES, "thing": None}),
+    (world_without, {"rules": WAY, "facts": EDGES, "fact": ["way", "c", "a"]}),
+    (worlds_within, {"rules": WAY, "facts": [], "most": EDGES}),
+    (answers, {"rules": WAY, "facts": EDGES, "goal": GOAL}), (goal_table, {"rules": WAY, "facts": EDGES, "goal": GOAL}),
+    (is_goal_table, {"rules": WAY, "facts": EDGES, "goal": ["zz"], "thing": TABLE}),
+    (shows_not, {"rules": WAY, "facts": EDGES, "fact": ["zz"], "thing": {("zz",): []}}),
+    (chain_to, {"rules": WAY, "facts": EDGES, "goal": GOAL, "call": ["way", "c", None]}),
+    (is_chain, {"rules": WAY, "facts": EDGES, "goal": GOAL, "call": ["way", "c", None], "thing": [[1, [["e", "b", "c"]]]]}),
+    (goal_rules, {"rules": WAY, "goal": GOAL}), (wide_facts, {"rules": NOTS, "facts": EDGES}),
+    (cases, {"rules": NOTS, "facts": EDGES}), (behind, {"rules": NOTS, "facts": EDGES, "seen": [["p", 1]]}),
+    (levels, {"rules": FLAT}), (ring_through_not, {"rules": NOTS}),
+    (is_not_ring, {"rules": NOTS, "thing": [[0, 1], [1, 1]]}), (by_levels, {"rules": FLAT, "facts": EDGES}),
+]
+KIND_OF = {"rules": Rules, "facts": Facts, "seen": Facts, "most": Facts}
+
+
+def swapped(thing):
+    """The same with tuples for lists at every depth."""
+    if isinstance(thing, list):
+        return tuple([swapped(part) for part in thing])
+    if isinstance(thing, dict):
+        return {key: swapped(worth) for key, worth in thing.items()}
+    return thing
+
+
+def made(name, thing):
+    if name in KIND_OF and isinstance(thing, (list, tuple)):
+        return KIND_OF[name](thing)
+    return thing
+
+
+def plain(thing):
+    """A returned object with the sets and rules in it told as lists."""
+    if isinstance(thing, (Facts, Rules)):
+        return [type(thing).__name__, thing.listed()]
+    if isinstance(thing, tuple):
+        return tuple([plain(part) for part in thing])
+    if isinstance(thing, list):
+        return [plain(part) for part in thing]
+    if isinstance(thing, dict):
+        return [(plain(key), plain(worth)) for key, worth in thing.items()]
+    return thing
+
+
+def spoil(thing):
+    """Changes all lists and dicts of a returned object."""
+    if isinstance(thing, (list, tuple)):
+        for part in thing:
+            spoil(part)
+    if isinstance(thing, list):
+        thing.append("spoiled")
+    if isinstance(thing, dict):
+        for part in thing.values():
+            spoil(part)
+        thing["spoiled"] = 1
+
+
+class Conventions(unittest.TestCase):
+    def test_by_names_with_lists_and_with_tuples(self):
+        for call, told in CALLS:
+            arguments = copy.deepcopy(told)
+            by_name = plain(call(**{name: made(name, thing) for name, thing in arguments.items()}))
+            by_place = plain(call(*[made(name, thing) for name, thing in arguments.items()]))
+            by_tuples = plain(call(*[made(name, swapped(thing)) for name, thing in arguments.items()]))
+            self.assertEqual((by_name, by_tuples), (by_place, by_place), call)
+            self.assertEqual(arguments, told, call)
+            self.assertNotIn(by_name, (None, False), call) if call is not is_world else None
+
+    def test_what_is_returned_is_new_each_time(self):
+        for call, told in CALLS:
+            arguments = [made(name, thing) for name, thing in copy.deepcopy(told).items()]
+            first = call(*arguments)
+            shown = plain(first)
+            spoil(first)
+            self.assertEqual(plain(call(*arguments)), shown, call)
+
+    def test_sets_and_rules_are_the_same_behind_all_calls(self):
+        rules, facts = Rules(WAY), Facts(EDGES)
+        for call, told in CALLS:
+            arguments = {name: made(name, thing) for name, thing in told.items()}
+            for name, thing in (("rules", rules), ("facts", facts)):
+                if name in arguments and told[name] in (WAY, EDGES):
+                    arguments[name] = thing
+            call(**arguments)
+        self.assertEqual((rules, facts), (Rules(WAY), Facts(EDGES)))
+
+    def test_a_call_that_raises_changes_nothing(self):
+        facts, rules = Facts(EDGES), Rules(WAY)
+        for call in (lambda: rules | Rules([(("e",), [])]), lambda: rules.without(7), lambda: put_in(BODY, {"X": None}),
+                     lambda: tree_of(rules, facts, ("way", "a", "b"), -1), lambda: matches(facts, [("unlike", "X", 1)])):
+            self.assertRaises(HouseError, call)
+        self.assertEqual((facts, rules), (Facts(EDGES), Rules(WAY)))
+        self.assertEqual(BODY[0], ["e", "X", "Y"])
+
+    def test_free_answers_hang_on_what_is_asked_alone(self):
+        forward, backward = Facts(EDGES), Facts(EDGES[::-1] + EDGES)
+        for call, rest in ((tree_of, (("way", "a", "c"),)), (chain_to, (GOAL, ("e", "c", None)))):
+            self.assertEqual(call(Rules(WAY), forward, *rest), call(Rules(swapped(WAY)), backward, *rest))
+
+
+if __name__ == "__main__":
+    unittest.main()
