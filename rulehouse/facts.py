@@ -52,8 +52,8 @@ class Facts:
         """Whether all of these facts are of the other set."""
         return all([fact in other._known for fact in self._listed])
 
-    def __contains__(self, thing):
-        fact = as_fact(thing)
+    def __contains__(self, x):
+        fact = as_fact(x)
         return fact is not None and fact in self._known
 
     def __len__(self):

@@ -213,6 +213,8 @@ def is_goal_table(rules, facts, goal, table):
     for head, body in rules:
         things = things_in([("x",) + tuple(things)] + [
             ("x",) + tuple([term for part in [head] + list(body) for term in terms_of(part) if not is_letter(term)])])
+    # One thing at least, as letters that no way binds yet stand for any.
+    things = things or ["a"]
     if call_by(goal, {}) not in table:
         return False
     for call, told in table.items():

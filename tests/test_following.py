@@ -65,6 +65,7 @@ class Steps(unittest.TestCase):
         self.assertEqual(steps_for(rules=WAY, facts=EDGES, fact=["way", "b", "c"]), [(0, (("e", "b", "c"),))])
         self.assertEqual(steps_for(WAY, EDGES, ("e", "a", "b")), [])
         self.assertEqual(steps_for(WAY, EDGES, ("zz", 1)), [])
+        self.assertEqual((steps_for(WAY, EDGES, ("way", "a")), steps_for(WAY, EDGES, ("way", "a", "c", "d"))), ([], []))
 
     def test_their_order(self):
         rules = rules_of("p if unlike Y a, q X, q Y", "p", "p if q 1, q 1", "p if unlike 1 1")

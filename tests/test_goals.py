@@ -90,6 +90,8 @@ class Tables(unittest.TestCase):
     def test_goals_of_no_relation(self):
         self.assertEqual(goal_table(WAY, EDGES, ("zz", "X", 1)), {("zz", None, 1): []})
         self.assertEqual(goal_table(WAY, EDGES, ("way", "X")), {("way", None): []})
+        wide = ("way", 1, 2, 3, 4, 5, "X")
+        self.assertEqual(chain_to(WAY, EDGES, wide, wide[:6] + (None,)), [])
         self.assertEqual(goal_table(WAY, EDGES, ("e", "X", "b")), {("e", None, "b"): [("e", "a", "b")]})
         self.assertEqual(goal_table(WAY, EDGES, ("e", "X", "X")),
                          {("e", None, None): [("e", "a", "b"), ("e", "b", "c")]})
@@ -102,6 +104,14 @@ class Tables(unittest.TestCase):
         self.assertEqual(list(goal_table(rules, facts, ("s", "X"))), [("q", "b"), ("r", None), ("s", None)])
         self.assertEqual(list(goal_table(rules, facts, ("s", "a"))), [("s", "a")])
         self.assertEqual(list(goal_table(rules, facts, ("t",))), [("t",)])
+
+    def test_letters_of_unlikes_are_kept_in_mind(self):
+        facts = facts_of("q a", "q c", "r a", "r b")
+        for unlike in ("unlike X Y", "unlike Y X"):
+            rules = rules_of("p if q X, r Y, " + unlike + ", s Y", "t if q X, unlike X c, r Y, " + unlike + ", s Y")
+            self.assertEqual(list(goal_table(rules, facts, ("p",))), [
+                ("p",), ("q", None), ("r", None), ("s", "a"), ("s", "b")])
+            self.assertEqual(list(goal_table(rules, facts, ("t",))), [("q", None), ("r", None), ("s", "b"), ("t",)])
 
     def test_heads_with_things_and_letters_twice(self):
         rules = rules_of("p X X a if q X", "p X Y b if q Y, r X")
@@ -118,8 +128,11 @@ class Tables(unittest.TestCase):
                 {**TABLE, ("z", 1): [("z", True)]}, {**TABLE, ("e", "c", None): [("e", "b", "c")]},
                 {**TABLE, ("e", "b", None): []}, {**TABLE, ("way", "b", None): []}, {**TABLE, ("e", "c", None): "e"},
                 {**TABLE, ("e", "a", None): []}, {**TABLE, ("way", "a", None): [("way", "a", "b")]},
-                {**TABLE, ("e", "c", None): [("e", "c", "d")]}]:
+                {**TABLE, ("e", "c", None): [("e", "c", "d")]}, {**TABLE, ("zz",): [("z",)]}, {**TABLE, ("zz",): [("zz", 1)]},
+                {**TABLE, ("zz", None): [("z", 1)]}, {**TABLE, ("zz", None): [("zz",)]}, {**TABLE, (): []},
+                {**TABLE, ("z", 1, 2, 3, 4, 5, 6, 7): []}]:
             self.assertIs(is_goal_table(WAY, EDGES, FROM_B, thing), False, thing)
+        self.assertIs(is_goal_table(WAY, EDGES, FROM_B, {**TABLE, ("z", 1, 2, 3, 4, 5, None): [("z", 1, 2, 3, 4, 5, 6)]}), True)
         for call in TABLE:
             self.assertIs(is_goal_table(WAY, EDGES, FROM_B, {key: TABLE[key] for key in TABLE if key != call}), False)
         self.assertIs(is_goal_table(WAY, EDGES, ("way", "a", "X"), TABLE), False)
@@ -227,6 +240,22 @@ class Chains(unittest.TestCase):
         self.assertIs(is_chain(rules, facts, ("p", "a"), ("p", "a"), [(0, (("q", "a"),))]), False)
         self.assertIs(is_chain(rules, facts, ("p", "a"), ("r", "a"), [(0, (("q", "a"),)), (1, ())]), False)
         self.assertIs(is_chain(rules, facts, ("p", "a"), ("r", "a"), [(1, ())]), True)
+
+    def test_each_link_is_looked_through(self):
+        rules = rules_of("p a X if q X, q X, s X")
+        facts = facts_of("q 1", "r 1", "s 1", "q 1 1")
+        self.assertIs(is_chain(rules, facts, ("p", "Y", "X"), ("s", 1), [(0, (("q", 1), ("q", 1)))]), True)
+        for goal, call, link in (
+                (("p", "Y", "X"), ("s", 1), (0, (("q", 1), ("r", 1)))), (("p", "Y", "X"), ("s", 1), (0, (("q", 1),))),
+                (("p", "Y", "X"), ("s", 1), (0, (("q", 1), ("q", 1, 1)))), (("p", "Y", "X"), ("s", 2), (0, (("q", 2), ("q", 2)))),
+                (("p", "Y", "X"), ("s", 1), (0, (("q", 1), ("q", 1), ("s", 1)))), (("p", "Y", "X"), ("s", 1), (0, (1, 1))),
+                (("p", "b", "X"), ("s", 1), (0, (("q", 1), ("q", 1)))), (("p", "b", "X"), ("q", None), (0, ())),
+                (("p", "Y"), ("q", None), (0, ())), (("s", "Y", "X"), ("q", None), (0, ())),
+                (("p", "Y", 2), ("s", 1), (0, (("q", 1), ("q", 1))))):
+            self.assertIs(is_chain(rules, facts, goal, call, [link]), False, (goal, link))
+        self.assertIs(is_chain(WAY, EDGES, FROM_B, ("way", "z", None), [(1, (("e", "b", "z"),))]), False)
+        whole = (1, (("e", "a", "b"), ("way", "b", "c")))
+        self.assertIs(is_chain(WAY, EDGES, ("way", "a", "X"), ("way", "b", None), [whole]), False)
 
     def test_kinds(self):
         self.assertEqual(kinds_of(chain_to(WAY, EDGES, list(FROM_B), ["way", "c", None])),

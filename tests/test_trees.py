@@ -59,6 +59,23 @@ class IsTree(unittest.TestCase):
         self.assertIs(is_tree(rules, facts_of("p"), ("p",), (("p",), 2, ())), False)
         self.assertIs(is_tree(rules, Facts([]), ("p",), given), False)
 
+    def test_trees_of_other_facts_are_no_trees_of_atoms(self):
+        rules = rules_of("p a X if q X", "p X X if q X, r")
+        facts = facts_of("q 1", "s 1", "q 1 2", "q", "r", "q b")
+
+        def given(*fact):
+            return (fact, None, ())
+
+        self.assertIs(is_tree(rules, facts, ("p", "a", 1), (("p", "a", 1), 0, [given("q", 1)])), True)
+        for tree in ((0, [given("s", 1)]), (0, [given("q", 1, 2)]), (0, [given("q")]), (0, [given("q", "b")]),
+                     (1, [given("q", 1), given("r")]), (0, []), (0, [given("q", 1), given("q", 1)])):
+            self.assertIs(is_tree(rules, facts, ("p", "a", 1), (("p", "a", 1),) + tree), False, tree)
+        for trees in ("", {}, None, Facts([]), 0, ((),)):
+            self.assertIs(is_tree(rules, facts, ("r",), (("r",), None, trees)), False, trees)
+        self.assertIs(is_tree(rules, facts, ("r",), [["r"], None, []]), True)
+        self.assertIs(is_tree(rules, facts, ("p", "a"), (("p", "a"), 0, [given("q", 1)])), False)
+        self.assertIs(is_tree(rules, facts, ("p", "b", 1), (("p", "b", 1), 0, [given("q", 1)])), False)
+
     def test_unlikes_are_asked(self):
         rules = rules_of("p X if unlike X Y, q X, q Y")
         below = {thing: (("q", thing), None, ()) for thing in (1, 2)}
@@ -110,6 +127,11 @@ class LeastSteps(unittest.TestCase):
             tree = tree_of(rules, Facts([]), ("z",), most)
             self.assertTrue(is_tree(rules, Facts([]), ("z",), tree))
             self.assertEqual(steps_in(tree), least_steps(rules, Facts([]), ("z",), most))
+
+    def test_of_steps_of_one_height_the_cheaper_one(self):
+        rules = rules_of("z if a, b", "z if a", "z if b, a, a", "a if x", "b if x")
+        self.assertEqual(least_steps(rules, facts_of("x"), ("z",)), 2)
+        self.assertEqual(steps_in(tree_of(rules, facts_of("x"), ("z",), 2)), 2)
 
     def test_rules_without_atoms(self):
         rules = rules_of("p a if unlike 1 2")
