@@ -22,15 +22,21 @@ class Shelves:
         for places in list(drawers):
             _put_in_drawer(drawers[places], places, fact)
 
+    def drawer(self, kind, places):
+        """The dict from the things at some places to the facts of a kind (relation, length) that have them there.
+
+        It goes along with what is put to the shelves later on.
+        """
+        drawers = self._drawers.setdefault(kind, {(): {}})
+        if places not in drawers:
+            drawers[places] = _new_drawer(drawers[()].get((), []), places)
+        return drawers[places]
+
     def rows(self, atom, calls):
         """The facts that have the atom's relation, and what calls tells of its terms."""
-        drawers = self._drawers.get((atom[0], len(atom)))
-        if drawers is None:
-            return []
         places = tuple([place for place in range(1, len(atom)) if atom[place] in calls])
-        if places not in drawers:
-            drawers[places] = _new_drawer(drawers[()][()], places)
-        return drawers[places].get(tuple([calls[atom[place]] for place in places]), [])
+        drawer = self.drawer((atom[0], len(atom)), places)
+        return drawer.get(tuple([calls[atom[place]] for place in places]), [])
 
 
 def _put_in_drawer(drawer, places, fact):

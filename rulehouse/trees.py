@@ -1,8 +1,9 @@
 """Trees, the papers that show that a fact follows, and those with the least steps."""
 
 from rulehouse.errors import BadNumber
-from rulehouse.finding import Shelves, clashes, extended, patterns_of
-from rulehouse.following import all_heights, calls_by_head, checked_fact, steps_of
+from rulehouse.finding import clashes, extended, patterns_of
+from rulehouse.following import calls_by_head, checked_fact
+from rulehouse.growing import Growth
 from rulehouse.names import is_integer
 from rulehouse.parts import as_fact
 from rulehouse.rules import is_number_of, refuse_nots
@@ -51,20 +52,27 @@ def is_tree(rules, facts, fact, thing):
 
 
 class Steps:
-    """The steps of all that follows, and by how few of them each fact comes within each height.
+    """The steps up to a height, and by how few of them each fact comes within each height up to it.
 
     self.gains leads each fact to a list of triples (height, many, step), with fewer steps each:
     so many steps are the least of trees of at most this height, step being the last of them.
     """
 
-    def __init__(self, rules, facts):
-        shelves = Shelves(list(all_heights(rules, facts)))
-        self.steps = steps_of(patterns_of(rules), shelves)
-        self.using = {}
-        for index, step in enumerate(self.steps):
-            for fact in step[2]:
-                self.using.setdefault(fact, []).append(index)
-        self.gains = {fact: [(0, 0, None)] for fact in facts.listed()}
+    def __init__(self, rules, facts, most):
+        given = facts.listed()
+        self._steps = []
+        self._using = {}
+        self._many_used = 0
+        self._least = {fact: 0 for fact in given}
+        self.gains = {fact: [(0, 0, None)] for fact in given}
+        growth = Growth(patterns_of(rules), given, {})
+        touched = []
+        height = 0
+        while (touched or not growth.is_over()) and (most is None or height < most):
+            height += 1
+            more = growth.next_steps()
+            self._steps.extend(more)
+            touched = self.touched_by(self.grow(height, touched + more))
 
     def gain(self, fact, height):
         """The last triple of a fact up to a height (None: any), None if there is none."""
@@ -74,39 +82,32 @@ class Steps:
                 best = triple
         return best
 
-    def many_by(self, step):
-        """The number of the steps of a tree with a last step, None if its facts have no trees."""
-        many = 1
-        for fact in step[2]:
-            if fact not in self.gains:
-                return None
-            many += self.gains[fact][-1][1]
-        return many
-
-    def grow(self, most):
-        """Fills the gains up to a height, or till nothing gains any more."""
-        touched = list(range(len(self.steps)))
-        height = 0
-        while touched and (most is None or height < most):
-            height += 1
-            better = self.better_by(touched)
-            for fact, (many, step) in better.items():
-                self.gains.setdefault(fact, []).append((height, many, step))
-            again = {index: True for fact in better for index in self.using.get(fact, [])}
-            touched = sorted(list(again))
-
-    def better_by(self, touched):
-        """The dict from the facts that gain by some steps to (many, step)."""
+    def grow(self, height, steps):
+        """Puts what comes by some steps at a height to the gains: the facts that came ahead by more steps."""
         better = {}
-        for index in touched:
-            step = self.steps[index]
-            many = self.many_by(step)
-            fact = step[0]
-            if many is None or (fact in self.gains and self.gains[fact][-1][1] <= many):
-                continue
-            if fact not in better or many < better[fact][0]:
-                better[fact] = (many, step)
-        return better
+        for step in steps:
+            many = 1
+            for fact in step[2]:
+                many += self._least[fact]
+            head = step[0]
+            if (head not in self._least or many < self._least[head]) and (head not in better or many < better[head][0]):
+                better[head] = (many, step)
+        improved = [fact for fact in better if fact in self._least]
+        for fact, (many, step) in better.items():
+            self._least[fact] = many
+            self.gains.setdefault(fact, []).append((height, many, step))
+        return improved
+
+    def touched_by(self, improved):
+        """The list of the steps, of those that are kept, that use one of some facts."""
+        if not improved:
+            return []
+        for index in range(self._many_used, len(self._steps)):
+            for fact in self._steps[index][2]:
+                self._using.setdefault(fact, []).append(index)
+        self._many_used = len(self._steps)
+        touched = {index: True for fact in improved for index in self._using.get(fact, [])}
+        return [self._steps[index] for index in sorted(list(touched))]
 
     def needed(self, fact, most):
         """The dict from (height, fact) of all gains that a tree of a fact is made of to the gains."""
@@ -141,9 +142,7 @@ def _steps_up_to(rules, facts, fact, most):
     kept = checked_fact(fact)
     if most is not None and (not is_integer(most) or most < 0):
         raise BadNumber(most)
-    steps = Steps(rules, facts)
-    steps.grow(most)
-    return steps, kept
+    return Steps(rules, facts, most), kept
 
 
 def least_steps(rules, facts, fact, most=None):

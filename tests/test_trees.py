@@ -128,6 +128,15 @@ class LeastSteps(unittest.TestCase):
             self.assertTrue(is_tree(rules, Facts([]), ("z",), tree))
             self.assertEqual(steps_in(tree), least_steps(rules, Facts([]), ("z",), most))
 
+    def test_a_step_that_is_found_as_its_fact_gains(self):
+        rules = rules_of("x if a, b, c", "x if m", "m if n", "n if g", "a if g", "b if g", "c if g", "w if v", "v if g",
+                         "z if x, w", "y if z")
+        self.assertEqual([least_steps(rules, facts_of("g"), ("x",), most) for most in range(5)], [None, None, 4, 3, 3])
+        self.assertEqual([least_steps(rules, facts_of("g"), ("z",), most) for most in range(6)],
+                         [None, None, None, 7, 6, 6])
+        self.assertEqual([least_steps(rules, facts_of("g"), ("y",), most) for most in (3, 4, 5, None)], [None, 8, 7, 7])
+        self.assertEqual(steps_in(tree_of(rules, facts_of("g"), ("y",))), 7)
+
     def test_of_steps_of_one_height_the_cheaper_one(self):
         rules = rules_of("z if a, b", "z if a", "z if b, a, a", "a if x", "b if x")
         self.assertEqual(least_steps(rules, facts_of("x"), ("z",)), 2)
@@ -172,6 +181,23 @@ class Limits(unittest.TestCase):
         self.assertFalse(is_tree(rules, facts, ("q", 198), tree))
         self.assertIsNone(least_steps(rules, facts, ("q", 199), 60))
         self.assertEqual(least_steps(rules, facts, ("q", 60), 60), 60)
+
+    def test_rows_of_edges(self):
+        rules = rules_of("p X Z if p X Y, p Y Z", "p X Y if e X Y")
+        for many in range(1, 31):
+            facts = Facts([("e", n, n + 1) for n in range(many)])
+            end = ("p", 0, many)
+            self.assertEqual(least_steps(rules, facts, end), 2 * many - 1)
+            most = many % 8
+            least = 2 * many - 1 if most > 0 and many <= 2 ** (most - 1) else None
+            self.assertEqual(least_steps(rules, facts, end, most), least)
+            tree = tree_of(rules, facts, end, most)
+            if least is None:
+                self.assertIsNone(tree)
+                continue
+            self.assertTrue(is_tree(rules, facts, end, tree))
+            self.assertEqual(steps_in(tree), least)
+            self.assertLessEqual(height_of(tree), most)
 
     def test_many_steps(self):
         rules = rules_of("t X Z if t X Y, t Y Z")
