@@ -1,8 +1,8 @@
 """Cases of rules with nots, and what comes of facts behind a set that is seen."""
 
 from rulehouse.facts import Facts
-from rulehouse.finding import Shelves, patterns_of, sorted_matches
-from rulehouse.growing import grown
+from rulehouse.finding import Shelves, calls_by, filled, patterns_of, sorted_matches
+from rulehouse.growing import Growth, grown
 
 
 def _grown_wide(rules, facts):
@@ -23,6 +23,25 @@ def cases(rules, facts):
         for calls in sorted_matches(pattern, shelves, {}, pattern.seeds):
             found.append((number, calls))
     return found
+
+
+def nots_by(pattern, facts):
+    """The facts behind the nots of a body where its atoms become facts, each once."""
+    calls = calls_by(pattern, facts)
+    return tuple(list({filled(atom, calls): True for atom in pattern.nots}))
+
+
+def wide_cases(patterns, facts):
+    """The pair of the dict from all facts of wide to rounds, and the list of all cases.
+
+    A case is told here as a triple (head, plain facts, not facts).
+    """
+    growth = Growth(patterns, facts, {})
+    found = []
+    while not growth.is_over():
+        for head, number, below in growth.next_steps():
+            found.append((head, below, nots_by(patterns[number], below)))
+    return growth.rounds, found
 
 
 def behind(rules, facts, seen):

@@ -89,6 +89,15 @@ def extended(atom, fact, calls):
     return more
 
 
+def calls_by(pattern, facts):
+    """The calls by which the atoms of a body become facts, told in their order."""
+    calls = {**pattern.seeds}
+    for atom, fact in zip(pattern.atoms, facts):
+        for term, thing in zip(atom[1:], fact[1:]):
+            calls[term] = thing
+    return calls
+
+
 def clashes(unlikes, calls):
     """Whether two terms that are told unlike are bound to the same."""
     for one, other in unlikes:

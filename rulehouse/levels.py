@@ -4,6 +4,7 @@ from rulehouse.errors import RingThroughNot
 from rulehouse.facts import Facts
 from rulehouse.finding import Pattern
 from rulehouse.growing import grown
+from rulehouse.linking import is_strict_ring, least_levels, strict_ring
 from rulehouse.parts import atom_of
 from rulehouse.rules import atoms_of, is_number_of
 
@@ -19,29 +20,9 @@ def _links(rules):
     return found
 
 
-def _shortest(links, start, end):
-    """The list of as few links as can be from one relation to another, None if there is none."""
-    ways = {start: []}
-    left = [start]
-    while left and end not in ways:
-        later = []
-        for link, (one, other, is_not) in links.items():
-            if one in left and other not in ways:
-                ways[other] = ways[one] + [link]
-                later.append(other)
-        left = later
-    return ways.get(end)
-
-
 def ring_through_not(rules):
     """A not ring of as few links as can be, None if there is none."""
-    links = _links(rules)
-    best = None
-    for link, (one, other, is_not) in links.items():
-        way = _shortest(links, other, one) if is_not else None
-        if way is not None and (best is None or len(way) + 1 < len(best)):
-            best = [link] + way
-    return best
+    return strict_ring(_links(rules))
 
 
 def is_not_ring(rules, thing):
@@ -57,32 +38,15 @@ def is_not_ring(rules, thing):
         if not is_number_of(link[1], listed[link[0]][1]) or tuple(link) not in links:
             return False
         told.append(links[tuple(link)])
-    for ahead, link in zip(told[-1:] + told[:-1], told):
-        if ahead[1] != link[0]:
-            return False
-    return any([link[2] for link in told])
-
-
-def _raised(found, links):
-    """The levels behind one more look at all links."""
-    more = dict(found)
-    for one, other, is_not in list(links.values()):
-        more[one] = max(more[one], more[other] + (1 if is_not else 0))
-    return more
+    return is_strict_ring(told)
 
 
 def levels(rules):
     """The dict from all relations, ascending, to their levels, None if there are none."""
     if ring_through_not(rules) is not None:
         return None
-    links = _links(rules)
     relations = {atom[0]: True for rule in rules.listed() for atom in atoms_of(rule)}
-    found = {relation: 0 for relation in sorted(list(relations))}
-    more = _raised(found, links)
-    while more != found:
-        found = more
-        more = _raised(found, links)
-    return found
+    return least_levels(_links(rules), list(relations))
 
 
 def _refuse_rings(rules):
@@ -91,13 +55,18 @@ def _refuse_rings(rules):
         raise RingThroughNot(ring)
 
 
+def grown_at(rules, found, level, standing):
+    """The list of what stands behind a level, of rules with levels, if what stands ahead of it is standing."""
+    patterns = [Pattern(body, head) for head, body in rules.listed() if found[head[0]] == level]
+    # What stands behind nots is of lesser levels, so nothing of it comes at this one.
+    return list(grown(patterns, standing, {fact: True for fact in standing}))
+
+
 def by_levels(rules, facts):
     """The Facts of what comes of facts level by level."""
     _refuse_rings(rules)
     found = levels(rules)
     standing = facts.listed()
     for level in range(max(list(found.values()), default=-1) + 1):
-        patterns = [Pattern(body, head) for head, body in rules.listed() if found[head[0]] == level]
-        # What stands behind nots is of lesser levels, so nothing of it comes at this one.
-        standing = list(grown(patterns, standing, {fact: True for fact in standing}))
+        standing = grown_at(rules, found, level, standing)
     return Facts(standing)

@@ -205,6 +205,23 @@ class Dice:
         rules = [self.rule(3, made, both, "XYZ", things, extras) for _ in range(many)]
         return rules, self.facts(self.random.randint(0, 6), both if self.random.random() < 0.3 else given, things)
 
+    def flat(self, many, names="abcdef"):
+        """Rules with nots over relations without places, and some facts of these."""
+        rules = []
+        for _ in range(many):
+            body = []
+            for _ in range(self.random.randint(0, 3)):
+                atom = (self.random.choice(names),)
+                body.append(("not", atom) if self.random.random() < 0.55 else atom)
+            rules.append(((self.random.choice(names),), tuple(body)))
+        return rules, [(self.random.choice(names),) for _ in range(self.random.choice((0, 0, 1, 2)))]
+
+    def any_nots(self, seed):
+        """One or the other kind of program with nots."""
+        if seed % 3 == 0:
+            return self.program(seed % 7, ("not", "unlike"))
+        return self.flat(1 + seed % 8, "abcdef"[:2 + seed % 5])
+
 
 def is_goal_table(rules, facts, goal, table):
     """By the words of goal tables, of a dict from calls to lists of agreeing facts."""
@@ -253,3 +270,38 @@ def _is_closed_along(rule, call, table, things):
             if put(atoms[many], calls) not in table[asked]:
                 break
     return True
+
+
+def ground_cases(rules, facts):
+    """All cases, as (number, calls, head, plain facts, not facts)."""
+    wide = follows(rules, facts, ("not",))
+    found = []
+    for number, (head, body) in enumerate(rules):
+        for calls in matches(wide, body, ("not",)):
+            found.append((number, calls, put(head, calls), [put(atom, calls) for atom in plain(body)],
+                          [put(part[1], calls) for part in body if part[0] == "not"]))
+    return found
+
+
+def behind(cases, facts, seen):
+    found = set(facts)
+    while True:
+        more = found | {head for _, _, head, below, nots in cases
+                        if all([fact in found for fact in below]) and not any([fact in seen for fact in nots])}
+        if more == found:
+            return found
+        found = more
+
+
+def turns(cases, facts):
+    found = [set(), behind(cases, facts, set())]
+    while behind(cases, facts, found[-1]) != found[-2]:
+        found.append(behind(cases, facts, found[-1]))
+    return found
+
+
+def subsets(facts):
+    """All sets of some of the facts."""
+    facts = list(facts)
+    for told in product((False, True), repeat=len(facts)):
+        yield {fact for fact, is_in in zip(facts, told) if is_in}
