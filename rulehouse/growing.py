@@ -20,11 +20,19 @@ class Growth:
     def __init__(self, patterns, facts, barred):
         self.rounds = {fact: 0 for fact in facts}
         self._many = 0
-        self._fresh = facts
+        self._fresh = list(facts)
         self._barred = barred
         self._shelves = Shelves(facts)
         self._strides = [Stride(number, pattern, self._shelves) for number, pattern in enumerate(patterns)]
         self._steps = _steps_of_nothing(patterns, barred)
+
+    def add(self, facts):
+        """Puts facts to those that are there."""
+        for fact in facts:
+            if fact not in self.rounds:
+                self.rounds[fact] = self._many
+                self._fresh.append(fact)
+                self._shelves.put(fact)
 
     def is_over(self):
         """Whether the next round has nothing new to go on from."""

@@ -16,13 +16,26 @@ def atoms_of(rule):
     return found
 
 
-def _check_even(rules):
+def _uneven_place(rules):
+    """The first pair (index, relation) at which a relation has another number of places, None if it has none."""
     places = {}
     for index, rule in enumerate(rules):
         for atom in atoms_of(rule):
             if places.get(atom[0], len(atom)) != len(atom):
-                raise Uneven(index, atom[0])
+                return index, atom[0]
             places[atom[0]] = len(atom)
+    return None
+
+
+def is_even(rules):
+    """Whether each relation in a list of rules has one number of places."""
+    return _uneven_place(rules) is None
+
+
+def _check_even(rules):
+    place = _uneven_place(rules)
+    if place is not None:
+        raise Uneven(place[0], place[1])
 
 
 def _check_safe(rules):
