@@ -2,7 +2,7 @@
 
 from rulehouse.facts import Facts
 from rulehouse.finding import Shelves, calls_by, filled, patterns_of, sorted_matches
-from rulehouse.growing import Growth, grown
+from rulehouse.growing import grown, grown_steps
 
 
 def _grown_wide(rules, facts):
@@ -36,12 +36,8 @@ def wide_cases(patterns, facts):
 
     A case is told here as a triple (head, plain facts, not facts).
     """
-    growth = Growth(patterns, facts, {})
-    found = []
-    while not growth.is_over():
-        for head, number, below in growth.next_steps():
-            found.append((head, below, nots_by(patterns[number], below)))
-    return growth.rounds, found
+    rounds, steps = grown_steps(patterns, facts)
+    return rounds, [(head, below, nots_by(patterns[number], below)) for head, number, below in steps]
 
 
 def behind(rules, facts, seen):

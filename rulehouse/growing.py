@@ -61,3 +61,12 @@ def grown(patterns, facts, barred):
     while not growth.is_over():
         growth.next_steps()
     return growth.rounds
+
+
+def grown_steps(patterns, facts):
+    """The pair of the dict from all that comes of facts to rounds, and the list of all steps, each once."""
+    growth = Growth(patterns, facts, {})
+    steps = []
+    while not growth.is_over():
+        steps.extend(growth.next_steps())
+    return growth.rounds, steps

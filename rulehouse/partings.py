@@ -67,7 +67,7 @@ class Ground:
         bits = {fact: 1 << index for index, fact in enumerate(self._facts)}
         rows = {(bits[told], _sum_of(bits, below), _sum_of(bits, barred)): True for told, below, barred in found}
         # What has its head in its body, or its body behind its nots, leads to nothing.
-        self.rows = [row for row in list(rows) if row[0] & row[1] == 0 and row[1] & row[2] == 0]
+        self.leads = [row for row in list(rows) if row[0] & row[1] == 0 and row[1] & row[2] == 0]
         self.plain = _sum_of(bits, plain)
         self.head = bits.get(head, 0)
         self.barred = _sum_of(bits, [fact for fact in nots if fact in bits])
@@ -94,13 +94,13 @@ class Parting:
 
     def look_at(self, ground, taken, out):
         """Looks for lesser pairs whose there has what is taken, and lacks what is out."""
-        decided = [row for row in ground.rows if row[2] & out == row[2]]
+        decided = [row for row in ground.leads if row[2] & out == row[2]]
         there = _closed(taken, decided)
         if there & (out | ground.barred) or _closed(ground.plain, decided) & ground.head:
             return
         if self.sizes is not None and many_bits(there) > self.sizes[0]:
             return
-        left = _undecided(ground.rows, there, out)
+        left = _undecided(ground.leads, there, out)
         if left == 0:
             self.take(ground, there)
             return
@@ -110,7 +110,7 @@ class Parting:
 
     def take(self, ground, there):
         """Takes the least pair with this there, if it is less than the one found so far."""
-        rows = [row for row in ground.rows if row[2] & there == 0]
+        rows = [row for row in ground.leads if row[2] & there == 0]
         start = ground.plain if there & ground.head else 0
         here = _closed(start, rows)
         sizes = (many_bits(there), many_bits(here))

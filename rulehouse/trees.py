@@ -30,25 +30,35 @@ def _is_step(pattern, fact, facts):
     return not clashes(pattern.unlikes, calls)
 
 
+def tree_nodes(patterns, facts, thing):
+    """The list of the pairs (fact, number) of all trees in any object that is a tree, None of any other."""
+    nodes = []
+    # A list of what is left to look through, as trees may be deeper than calls should be.
+    left = [thing]
+    while left:
+        tree = left.pop()
+        fact = _fact_told_by(tree)
+        if fact is None:
+            return None
+        told, number, trees = tree
+        if number is None:
+            if fact not in facts or len(trees) > 0:
+                return None
+        elif not is_number_of(number, patterns):
+            return None
+        elif not _is_step(patterns[number], fact, [_fact_told_by(below) for below in trees]):
+            return None
+        nodes.append((fact, number))
+        left.extend(trees)
+    return nodes
+
+
 def is_tree(rules, facts, fact, thing):
     """Whether any object is a tree of a fact."""
     refuse_nots(rules)
     if checked_fact(fact) != _fact_told_by(thing):
         return False
-    patterns = patterns_of(rules)
-    # A list of what is left to look through, as trees may be deeper than calls should be.
-    left = [thing]
-    while left:
-        told, number, trees = left.pop()
-        if number is None:
-            if told not in facts or len(trees) > 0:
-                return False
-        elif not is_number_of(number, patterns):
-            return False
-        elif not _is_step(patterns[number], as_fact(told), [_fact_told_by(tree) for tree in trees]):
-            return False
-        left.extend(trees)
-    return True
+    return tree_nodes(patterns_of(rules), facts, thing) is not None
 
 
 class Steps:

@@ -12,6 +12,7 @@ METHODS = set("""append clear copy count endswith extend find get index insert i
     setdefault split splitlines startswith strip update upper values zfill bit_length""".split())
 BARRED = (ast.GeneratorExp, ast.Yield, ast.YieldFrom, ast.Global, ast.AsyncFunctionDef, ast.Await, ast.Try, ast.Set,
           ast.Div, ast.AnnAssign, ast.With, ast.Match)
+LIBRARY = {"heapq": {"heappush", "heappop"}, "math": {"gcd", "lcm", "factorial"}}
 WORDS = ("type", "typing", "enum", "dataclass", "overload", "namedtuple", "_wall", "_WallAttr")
 
 
@@ -21,6 +22,11 @@ def files():
 
 def tree_of(path):
     return ast.parse(path.read_text())
+
+
+def own_imports(path):
+    return [node for node in tree_of(path).body
+            if isinstance(node, ast.ImportFrom) and node.module not in LIBRARY]
 
 
 def local_names(tree):
@@ -55,8 +61,9 @@ class Language(unittest.TestCase):
                     for word in WORDS:
                         self.assertNotIn(word, node.value.split(), path)
                 if isinstance(node, ast.ImportFrom):
-                    self.assertTrue(node.module.startswith("rulehouse."), path)
-                    self.assertEqual(node.level, 0, path)
+                    names = {alias.name for alias in node.names}
+                    self.assertTrue(node.module.startswith("rulehouse.") or names <= LIBRARY[node.module], path)
+                    self.assertEqual((node.level, [alias.asname for alias in node.names]), (0, [None] * len(names)), path)
                 self.assertNotIsInstance(node, ast.Import, path)
 
     def test_builtins_and_methods(self):
@@ -103,8 +110,7 @@ class Language(unittest.TestCase):
                 self.assertTrue(name[0].isupper(), path)
 
     def test_imports_do_not_come_round(self):
-        beside = {path.stem: {node.module.split(".")[1] for node in tree_of(path).body
-                              if isinstance(node, ast.ImportFrom)} for path in files()}
+        beside = {path.stem: {node.module.split(".")[1] for node in own_imports(path)} for path in files()}
         left = dict(beside)
         while left:
             free = [name for name, others in left.items() if not others & set(left)]
@@ -113,14 +119,13 @@ class Language(unittest.TestCase):
 
     def test_each_import_names_the_defining_file(self):
         for path in files():
-            for node in tree_of(path).body:
-                if isinstance(node, ast.ImportFrom):
-                    there = tree_of(FOLDER / (node.module.split(".")[1] + ".py"))
-                    defined = [other.name for other in there.body if isinstance(other, (ast.FunctionDef, ast.ClassDef))]
-                    defined += [target.id for other in there.body if isinstance(other, ast.Assign)
-                                for target in other.targets]
-                    for alias in node.names:
-                        self.assertIn(alias.name, defined, path)
+            for node in own_imports(path):
+                there = tree_of(FOLDER / (node.module.split(".")[1] + ".py"))
+                defined = [other.name for other in there.body if isinstance(other, (ast.FunctionDef, ast.ClassDef))]
+                defined += [target.id for other in there.body if isinstance(other, ast.Assign)
+                            for target in other.targets]
+                for alias in node.names:
+                    self.assertIn(alias.name, defined, path)
 
 
 if __name__ == "__main__":
