@@ -216,6 +216,20 @@ class Dice:
             rules.append(((self.random.choice(names),), tuple(body)))
         return rules, [(self.random.choice(names),) for _ in range(self.random.choice((0, 0, 1, 2)))]
 
+    def winding(self):
+        """Rules of a pool, many of which go round, and up to six facts."""
+        pool = [(("p", "X", "Y"), (("e", "X", "Y"),)), (("p", "X", "Z"), (("p", "X", "Y"), ("p", "Y", "Z"))),
+                (("p", "X", "Z"), (("e", "X", "Y"), ("p", "Y", "Z"))), (("q", "X"), (("p", "X", "X"),)),
+                (("q", "X"), (("p", "X", "Y"), ("q", "Y"))), (("q", "X"), (("f", "X"),)), (("n",), (("q", "X"), ("q", "Y"))),
+                (("n",), (("n",), ("q", "X"))), (("q", "X"), (("n",), ("e", "X", "Y"))), (("m",), (("n",), ("n",))),
+                (("n",), (("unlike", 1, 2),)), (("p", "X", "Y"), (("p", "Y", "X"),)), (("q", "X"), (("q", "X"),)),
+                (("f", "X"), (("e", "X", "X"),)), (("m",), (("p", "X", "Y"), ("q", "Y"), ("unlike", "X", "Y"))),
+                (("p", "X", "X"), (("f", "X"),)), (("n",), (("m",),)), (("q", "a"), (("e", "b", "X"),))]
+        rules = self.random.sample(pool, self.random.randint(2, 6))
+        facts = self.facts(self.random.randint(1, 6), {"e": 2, "f": 1} if self.random.random() < 0.8 else {"e": 2, "q": 1, "n": 0},
+                           ["a", "b", 3])
+        return rules, facts
+
     def any_nots(self, seed):
         """One or the other kind of program with nots."""
         if seed % 3 == 0:

@@ -103,7 +103,7 @@ class Language(unittest.TestCase):
             self.assertEqual(len(every), len(set(every)), path)
             inside = {name for node in tree.body if isinstance(node, (ast.FunctionDef, ast.ClassDef))
                       for name in local_names(node)}
-            self.assertEqual(set(), inside & set(imports + classes + functions), path)
+            self.assertEqual(set(), inside & set(imports + classes), path)
             used = {node.id for node in ast.walk(tree) if isinstance(node, ast.Name)}
             self.assertEqual(set(), set(imports) - used, path)
             for name in classes:
