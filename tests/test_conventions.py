@@ -4,9 +4,13 @@ import copy
 import unittest
 
 from rulehouse.cases import behind, cases, wide_facts
+from rulehouse.company import (adds_nothing, company, holds, is_company, lean, may_stand_for, pair_against, parting_pair,
+                               too_many)
+from rulehouse.costs import cheapest, cost_line, costs, tree_cost
 from rulehouse.errors import HouseError
 from rulehouse.facts import Facts
 from rulehouse.foldings import foldings, is_folding, least_part
+from rulehouse.folds import Folds, fold_levels, fold_ring, folded, is_fold_ring
 from rulehouse.following import heights, steps_for, what_follows
 from rulehouse.goals import answers, chain_to, goal_rules, goal_table, is_chain, is_goal_table, shows_not
 from rulehouse.joins import joined, plain_form, unfolded
@@ -14,10 +18,16 @@ from rulehouse.levels import by_levels, is_not_ring, levels, ring_through_not
 from rulehouse.matching import answers_of, is_match, many_matches, matches
 from rulehouse.orders import best_order, join_sizes, summed_out
 from rulehouse.parts import is_atom, is_body, is_fact, is_part, is_rule, letters_of, put_in
+from rulehouse.polynomials import polynomial, polynomial_to, worth
+from rulehouse.reasons import blame, is_least_break, is_least_set, least_breaks, least_sets, role
 from rulehouse.rules import Rules, hangs_on, is_in_ring, rings
+from rulehouse.steady import is_no_world_with, is_steady, no_world_with, steady_worlds, world_with
 from rulehouse.texts import line_of, write_facts, write_rules
+from rulehouse.threes import argued, argument, is_halves, open_facts, sure_facts, turns, verdict
+from rulehouse.treecounts import plain_trees, round_tree, tree_count, trees_with
 from rulehouse.trees import is_tree, least_steps, tree_of
 from rulehouse.worlds import is_world, world_without, worlds_within
+from rulehouse.worths import are_worths, worths_for
 
 WAY = [[["way", "X", "Y"], [["e", "X", "Y"]]], [["way", "X", "Z"], [["e", "X", "Y"], ["way", "Y", "Z"]]]]
 NOTS = [[["p", "X"], [["q", "X"], ["not", ["r", "X"]]]], [["r", "X"], [["q", "X"], ["not", ["p", "X"]]]],
@@ -29,6 +39,13 @@ PLAIN = [["e", "X", "Y"], ["e", "Y", "Z"], ["q", "W"]]
 TREE = [["way", "a", "b"], 0, [[["e", "a", "b"], None, []]]]
 GOAL = ["way", "b", "X"]
 TABLE = {("zz",): [["zz"]]}
+ODD = [[["o"], [["not", ["o"]]]]]
+PRICES = {("e", "a", "b"): 3, ("e", "b", "c"): 1, ("q", 1): 0}
+FOLDS = [["count", ["n", "X"], ["Y"], [["way", "X", "Y"], ["not", ["q", "X"]]]], ["least", ["m"], ["X", "Y"], [["e", "X", "Y"]]]]
+RING_FOLDS = [["count", ["e", "X"], ["Y"], [["way", "X", "Y"]]]]
+COMPANY = [Rules([]), Facts([]), Facts([["p"]])]
+# Calls whose arguments are of one kind in name and of another one here.
+ATOMS = (joined, foldings, is_folding)
 
 # Each call with its arguments under their names; Rules and Facts are made of lists anew each time.
 CALLS = [
@@ -61,8 +78,49 @@ CALLS = [
     (cases, {"rules": NOTS, "facts": EDGES}), (behind, {"rules": NOTS, "facts": EDGES, "seen": [["p", 1]]}),
     (levels, {"rules": FLAT}), (ring_through_not, {"rules": NOTS}),
     (is_not_ring, {"rules": NOTS, "thing": [[0, 1], [1, 1]]}), (by_levels, {"rules": FLAT, "facts": EDGES}),
+    (turns, {"rules": NOTS, "facts": EDGES}), (sure_facts, {"rules": NOTS, "facts": EDGES}),
+    (open_facts, {"rules": NOTS, "facts": EDGES}), (verdict, {"rules": NOTS, "facts": EDGES, "fact": ["p", 1]}),
+    (argument, {"rules": FLAT, "facts": EDGES, "fact": ["p", 1]}),
+    (argued, {"rules": FLAT, "facts": EDGES, "fact": ["p", 1], "thing": [["sure", 0, {"X": 1}]]}),
+    (is_halves, {"rules": FLAT, "facts": EDGES, "low": EDGES + [["p", 1], ["s"]], "high": EDGES + [["s"], ["p", 1]]}),
+    (is_steady, {"rules": NOTS, "facts": EDGES, "thing": EDGES + [["p", 1], ["s"]]}),
+    (steady_worlds, {"rules": NOTS, "facts": EDGES}),
+    (world_with, {"rules": NOTS, "facts": EDGES, "have": [["r", 1]], "lack": [["p", 1]]}),
+    (no_world_with, {"rules": ODD, "facts": EDGES, "have": [], "lack": [["z"]]}),
+    (is_no_world_with, {"rules": ODD, "facts": EDGES, "have": [], "lack": [],
+                        "thing": ["split", ["o"], ["clash"], ["clash"]]}),
+    (holds, {"rules": FLAT, "here": EDGES, "there": EDGES + [["p", 1], ["s"], ["r", 1]]}),
+    (may_stand_for, {"one": FLAT, "other": FLAT[::-1]}), (adds_nothing, {"rules": WAY, "more": WAY[:1]}),
+    (pair_against, {"rules": FLAT, "more": WAY}), (parting_pair, {"one": FLAT, "other": WAY}),
+    (company, {"one": FLAT, "other": WAY}), (is_company, {"one": [[["p"], []]], "other": [], "thing": COMPANY}),
+    (too_many, {"rules": WAY + WAY}), (lean, {"rules": WAY + WAY}), (fold_levels, {"rules": WAY, "folds": FOLDS}),
+    (fold_ring, {"rules": WAY, "folds": RING_FOLDS}), (is_fold_ring, {"rules": WAY, "folds": RING_FOLDS,
+                                                                    "thing": [["fold", 0, 0], ["rule", 0, 0]]}),
+    (folded, {"facts": EDGES, "rules": WAY, "folds": FOLDS}),
+    (tree_cost, {"facts": EDGES, "rules": WAY, "prices": PRICES, "fees": [1, 2], "thing": TREE}),
+    (costs, {"facts": EDGES, "rules": WAY, "prices": PRICES, "fees": [1, 2]}),
+    (cheapest, {"facts": EDGES, "rules": WAY, "prices": PRICES, "fees": [1, 2], "fact": ["way", "a", "c"]}),
+    (cost_line, {"facts": EDGES, "rules": WAY, "prices": PRICES, "fees": [1, 2], "fact": ["way", "a", "c"],
+                 "given": ["e", "a", "b"]}),
+    (are_worths, {"facts": EDGES, "rules": WAY, "prices": PRICES, "fees": [1, 2], "thing": {("way", "a", "b"): 1}}),
+    (worths_for, {"facts": EDGES, "rules": WAY, "prices": PRICES, "fees": [1, 2], "fact": ["way", "a", "c"]}),
+    (least_sets, {"rules": WAY, "facts": EDGES, "fact": ["way", "a", "c"]}),
+    (is_least_set, {"rules": WAY, "facts": EDGES, "fact": ["way", "a", "c"], "thing": [["e", "b", "c"], ["e", "a", "b"]]}),
+    (least_breaks, {"rules": WAY, "facts": EDGES, "fact": ["way", "a", "c"]}),
+    (is_least_break, {"rules": WAY, "facts": EDGES, "fact": ["way", "a", "c"], "thing": [["e", "b", "c"]]}),
+    (role, {"rules": WAY, "facts": EDGES, "fact": ["way", "a", "c"], "given": ["e", "a", "b"]}),
+    (blame, {"rules": WAY, "facts": EDGES, "fact": ["way", "a", "c"], "given": ["e", "a", "b"]}),
+    (tree_count, {"rules": WAY, "facts": EDGES, "fact": ["way", "a", "c"], "most": 2}),
+    (round_tree, {"rules": [[["q", "X"], [["q", "X"]]]], "facts": EDGES, "fact": ["q", 1]}),
+    (plain_trees, {"rules": WAY, "facts": EDGES, "fact": ["way", "a", "c"]}),
+    (trees_with, {"rules": WAY, "facts": EDGES, "fact": ["way", "a", "c"],
+                  "product": [[["e", "b", "c"], 1], [["e", "a", "b"], 1]]}),
+    (polynomial, {"rules": WAY, "facts": EDGES, "fact": ["way", "a", "c"]}),
+    (polynomial_to, {"rules": WAY, "facts": EDGES, "fact": ["way", "a", "c"], "height": 2}),
+    (worth, {"polynomial": {((("q", 1), 2),): 3}, "worths": {("q", 1): 4}}),
 ]
-KIND_OF = {"rules": Rules, "facts": Facts, "seen": Facts, "most": Facts}
+KIND_OF = {"rules": Rules, "facts": Facts, "seen": Facts, "most": Facts, "low": Facts, "high": Facts, "have": Facts,
+           "lack": Facts, "here": Facts, "there": Facts, "one": Rules, "other": Rules, "more": Rules, "folds": Folds}
 
 
 def swapped(thing):
@@ -74,15 +132,17 @@ def swapped(thing):
     return thing
 
 
-def made(name, thing):
-    if name in KIND_OF and isinstance(thing, (list, tuple)):
+def made(call, name, thing):
+    if name == "thing" and call is is_steady:
+        return Facts(thing)
+    if name in KIND_OF and isinstance(thing, (list, tuple)) and not (call in ATOMS and name in ("one", "other")):
         return KIND_OF[name](thing)
     return thing
 
 
 def plain(thing):
     """A returned object with the sets and rules in it told as lists."""
-    if isinstance(thing, (Facts, Rules)):
+    if isinstance(thing, (Facts, Rules, Folds)):
         return [type(thing).__name__, thing.listed()]
     if isinstance(thing, tuple):
         return tuple([plain(part) for part in thing])
@@ -110,16 +170,16 @@ class Conventions(unittest.TestCase):
     def test_by_names_with_lists_and_with_tuples(self):
         for call, told in CALLS:
             arguments = copy.deepcopy(told)
-            by_name = plain(call(**{name: made(name, thing) for name, thing in arguments.items()}))
-            by_place = plain(call(*[made(name, thing) for name, thing in arguments.items()]))
-            by_tuples = plain(call(*[made(name, swapped(thing)) for name, thing in arguments.items()]))
+            by_name = plain(call(**{name: made(call, name, thing) for name, thing in arguments.items()}))
+            by_place = plain(call(*[made(call, name, thing) for name, thing in arguments.items()]))
+            by_tuples = plain(call(*[made(call, name, swapped(thing)) for name, thing in arguments.items()]))
             self.assertEqual((by_name, by_tuples), (by_place, by_place), call)
             self.assertEqual(arguments, told, call)
             self.assertNotIn(by_name, (None, False), call) if call is not is_world else None
 
     def test_what_is_returned_is_new_each_time(self):
         for call, told in CALLS:
-            arguments = [made(name, thing) for name, thing in copy.deepcopy(told).items()]
+            arguments = [made(call, name, thing) for name, thing in copy.deepcopy(told).items()]
             first = call(*arguments)
             shown = plain(first)
             spoil(first)
@@ -128,7 +188,7 @@ class Conventions(unittest.TestCase):
     def test_sets_and_rules_are_the_same_behind_all_calls(self):
         rules, facts = Rules(WAY), Facts(EDGES)
         for call, told in CALLS:
-            arguments = {name: made(name, thing) for name, thing in told.items()}
+            arguments = {name: made(call, name, thing) for name, thing in told.items()}
             for name, thing in (("rules", rules), ("facts", facts)):
                 if name in arguments and told[name] in (WAY, EDGES):
                     arguments[name] = thing

@@ -27,6 +27,25 @@ FUNCTIONS = {
               "shows_not(rules, facts, fact, thing)", "chain_to(rules, facts, goal, call)",
               "is_chain(rules, facts, goal, call, thing)", "goal_rules(rules, goal)"],
     "cases": ["wide_facts(rules, facts)", "cases(rules, facts)", "behind(rules, facts, seen)"],
+    "threes": ["turns(rules, facts)", "sure_facts(rules, facts)", "open_facts(rules, facts)", "verdict(rules, facts, fact)",
+               "argument(rules, facts, fact)", "argued(rules, facts, fact, thing)", "is_halves(rules, facts, low, high)"],
+    "steady": ["is_steady(rules, facts, thing)", "steady_worlds(rules, facts)", "world_with(rules, facts, have, lack)",
+               "no_world_with(rules, facts, have, lack)", "is_no_world_with(rules, facts, have, lack, thing)"],
+    "company": ["holds(rules, here, there)", "may_stand_for(one, other)", "adds_nothing(rules, more)",
+                "pair_against(rules, more)", "parting_pair(one, other)", "company(one, other)",
+                "is_company(one, other, thing)", "too_many(rules)", "lean(rules)"],
+    "folds": ["fold_levels(rules, folds)", "fold_ring(rules, folds)", "is_fold_ring(rules, folds, thing)",
+              "folded(facts, rules, folds)"],
+    "costs": ["tree_cost(facts, rules, prices, fees, thing)", "costs(facts, rules, prices, fees)",
+              "cheapest(facts, rules, prices, fees, fact)", "cost_line(facts, rules, prices, fees, fact, given)"],
+    "worths": ["are_worths(facts, rules, prices, fees, thing)", "worths_for(facts, rules, prices, fees, fact)"],
+    "reasons": ["least_sets(rules, facts, fact)", "is_least_set(rules, facts, fact, thing)",
+                "least_breaks(rules, facts, fact)", "is_least_break(rules, facts, fact, thing)",
+                "role(rules, facts, fact, given)", "blame(rules, facts, fact, given)"],
+    "treecounts": ["tree_count(rules, facts, fact, most=None)", "round_tree(rules, facts, fact)",
+                   "plain_trees(rules, facts, fact)", "trees_with(rules, facts, fact, product)"],
+    "polynomials": ["polynomial(rules, facts, fact)", "polynomial_to(rules, facts, fact, height)",
+                    "worth(polynomial, worths)"],
     "levels": ["levels(rules)", "ring_through_not(rules)", "is_not_ring(rules, thing)", "by_levels(rules, facts)"],
 }
 CLASSES = {
@@ -35,6 +54,7 @@ CLASSES = {
                                   "__eq__"],
     ("rules", "Rules", "rules"): ["listed(self)", "made(self)", "given(self)", "about(self, relation)",
                                   "without(self, number)", "__len__", "__or__", "__eq__"],
+    ("folds", "Folds", "folds"): ["listed(self)", "__len__", "__eq__"],
 }
 
 
