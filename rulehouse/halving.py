@@ -2,7 +2,7 @@
 
 
 def _best_bit(follows, taken, out, many):
-    """The bit that a set which tells most has or lacks: one of a least set, if the others follow without what is out."""
+    """A bit to part sets by: of a least set without what is out, but not of what is taken."""
     left = ((1 << many) - 1) & ~out
     for index in range(many):
         bit = 1 << index
