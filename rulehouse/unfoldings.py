@@ -49,7 +49,7 @@ def _behind_round(rules, facts):
 
 
 def first_apart(one, other):
-    """A pair (facts, fact) with a fact that comes by a round of the one behind one of the other, but not turned round."""
+    """A pair (facts, fact): the fact comes by a round of the one behind one of the other, but not turned round."""
     refuse_unplain(one)
     refuse_unplain(other)
     heads = other.listed()
