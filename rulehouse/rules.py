@@ -16,11 +16,18 @@ def atoms_of(rule):
     return found
 
 
-def _uneven_place(rules):
+def check_even(rows):
+    """Raises Uneven for the first place in rows of atoms at which a relation has another number of places."""
+    place = _uneven_place(rows)
+    if place is not None:
+        raise Uneven(place[0], place[1])
+
+
+def _uneven_place(rows):
     """The first pair (index, relation) at which a relation has another number of places, None if it has none."""
     places = {}
-    for index, rule in enumerate(rules):
-        for atom in atoms_of(rule):
+    for index, atoms in enumerate(rows):
+        for atom in atoms:
             if places.get(atom[0], len(atom)) != len(atom):
                 return index, atom[0]
             places[atom[0]] = len(atom)
@@ -29,13 +36,7 @@ def _uneven_place(rules):
 
 def is_even(rules):
     """Whether each relation in a list of rules has one number of places."""
-    return _uneven_place(rules) is None
-
-
-def _check_even(rules):
-    place = _uneven_place(rules)
-    if place is not None:
-        raise Uneven(place[0], place[1])
+    return _uneven_place([atoms_of(rule) for rule in rules]) is None
 
 
 def _check_safe(rules):
@@ -55,7 +56,7 @@ def checked_rules(rules):
         if rule is None:
             raise BadRule(index)
         kept.append(rule)
-    _check_even(kept)
+    check_even([atoms_of(rule) for rule in kept])
     _check_safe(kept)
     return tuple(kept)
 

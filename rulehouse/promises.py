@@ -1,0 +1,102 @@
+"""Promises, which facts keep or break."""
+
+from rulehouse.errors import BadPromise, Loose
+from rulehouse.finding import Pattern, Shelves, filled, sorted_matches
+from rulehouse.names import is_integer
+from rulehouse.parts import as_atom, as_body, atom_of, is_plain, loose_letters
+from rulehouse.rules import check_even
+
+
+def as_atoms(thing):
+    """The tuple of the atoms that any object lists, None if it lists anything else."""
+    if not isinstance(thing, (list, tuple)):
+        return None
+    atoms = tuple([as_atom(part) for part in thing])
+    return None if None in atoms else atoms
+
+
+def _as_promise(thing):
+    """The promise that any object is, of tuples, None if it is none."""
+    if not isinstance(thing, (list, tuple)) or len(thing) != 2:
+        return None
+    body = as_body(thing[0])
+    ways = as_atoms(thing[1])
+    return None if body is None or ways is None else (body, ways)
+
+
+def _atoms_of(promise):
+    """The atoms of a promise, body and then ways, also those behind nots."""
+    atoms = [atom_of(part) for part in promise[0]]
+    return [atom for atom in atoms if atom is not None] + list(promise[1])
+
+
+def _checked_promises(promises):
+    if not isinstance(promises, (list, tuple)):
+        raise BadPromise(0)
+    kept = []
+    for index, thing in enumerate(promises):
+        promise = _as_promise(thing)
+        if promise is None:
+            raise BadPromise(index)
+        kept.append(promise)
+    check_even([_atoms_of(promise) for promise in kept])
+    for index, (body, ways) in enumerate(kept):
+        loose = loose_letters([part for part in body if not is_plain(part)] + list(ways), body)
+        if loose:
+            raise Loose(index, loose[0])
+    return tuple(kept)
+
+
+class Promises:
+    """A list of promises that never changes, called by their numbers."""
+
+    def __init__(self, promises):
+        self._promises = _checked_promises(promises)
+
+    def listed(self):
+        """The list of the promises."""
+        return list(self._promises)
+
+    def all_broken(self, facts):
+        """The list of the pairs (number, match) at which facts break promises."""
+        shelves = Shelves(facts.listed())
+        found = []
+        for number, (body, ways) in enumerate(self._promises):
+            pattern = Pattern(body + ways)
+            told = Pattern(body)
+            for match in sorted_matches(told, shelves, shelves.known, pattern.seeds):
+                calls = {**pattern.seeds, **match}
+                if not any([filled(way, calls) in shelves.known for way in ways]):
+                    found.append((number, match))
+        return found
+
+    def __len__(self):
+        return len(self._promises)
+
+    def __eq__(self, other):
+        return isinstance(other, Promises) and self._promises == other._promises
+
+
+class Clause:
+    """A promise taken apart: what must stand for it to matter, and what may stand for it to be kept."""
+
+    def __init__(self, promise):
+        body, ways = promise
+        whole = Pattern(body + ways)
+        told = Pattern(body)
+        self.atoms = told.atoms
+        self.nots = told.nots
+        self.ways = ways
+        self.unlikes = told.unlikes
+        self.letters = told.letters
+        self.seeds = whole.seeds
+
+
+def clauses_of(promises):
+    """The list of the clauses of promises."""
+    return [Clause(promise) for promise in promises.listed()]
+
+
+def is_number_in(promises, number):
+    """Whether any object is the number of a promise."""
+    return is_integer(number) and 0 <= number < len(promises)
