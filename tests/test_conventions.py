@@ -3,7 +3,10 @@
 import copy
 import unittest
 
+from rulehouse.breaking import are_safe_closings, breaking, done_deed, looks, safe_closings
 from rulehouse.cases import behind, cases, wide_facts
+from rulehouse.chances import chance, chance_given, is_splits, level, level_papers, shares, splits
+from rulehouse.closings import are_closings, closings, facts_apart
 from rulehouse.company import (adds_nothing, company, holds, is_company, lean, may_stand_for, pair_against, parting_pair,
                                too_many)
 from rulehouse.costs import cheapest, cost_line, costs, tree_cost
@@ -19,6 +22,9 @@ from rulehouse.matching import answers_of, is_match, many_matches, matches
 from rulehouse.orders import best_order, join_sizes, summed_out
 from rulehouse.parts import is_atom, is_body, is_fact, is_part, is_rule, letters_of, put_in
 from rulehouse.polynomials import polynomial, polynomial_to, worth
+from rulehouse.programs import least_rules, parting_facts, rule_tree, rule_world, spare_rules, unfollowed
+from rulehouse.promises import Promises
+from rulehouse.retelling import not_retold, retold
 from rulehouse.reasons import blame, is_least_break, is_least_set, least_breaks, least_sets, role
 from rulehouse.rules import Rules, hangs_on, is_in_ring, rings
 from rulehouse.steady import is_no_world_with, is_steady, no_world_with, steady_worlds, world_with
@@ -26,6 +32,8 @@ from rulehouse.texts import line_of, write_facts, write_rules
 from rulehouse.threes import argued, argument, is_halves, open_facts, sure_facts, turns, verdict
 from rulehouse.treecounts import plain_trees, round_tree, tree_count, trees_with
 from rulehouse.trees import is_tree, least_steps, tree_of
+from rulehouse.unfoldings import expansions, first_apart, slow_facts
+from rulehouse.ways import is_way_paper, parting_way, way_paper, word_machine, words_of
 from rulehouse.worlds import is_world, world_without, worlds_within
 from rulehouse.worths import are_worths, worths_for
 
@@ -40,6 +48,9 @@ TREE = [["way", "a", "b"], 0, [[["e", "a", "b"], None, []]]]
 GOAL = ["way", "b", "X"]
 TABLE = {("zz",): [["zz"]]}
 ODD = [[["o"], [["not", ["o"]]]]]
+CHANCES = {("e", "a", "b"): [1, 2], ("e", "b", "c"): [2, 4], ("q", 1): [1, 1]}
+PROMISES = [[[["e", "X", "Y"]], [["e", "Y", "X"]]], [[["e", "X", "Y"], ["e", "Y", "Z"]], [["e", "X", "Z"]]],
+            [[["e", "X", "Y"], ["not", ["f", "X"]]], [["e", "X", "X"]]]]
 PRICES = {("e", "a", "b"): 3, ("e", "b", "c"): 1, ("q", 1): 0}
 FOLDS = [["count", ["n", "X"], ["Y"], [["way", "X", "Y"], ["not", ["q", "X"]]]], ["least", ["m"], ["X", "Y"], [["e", "X", "Y"]]]]
 RING_FOLDS = [["count", ["e", "X"], ["Y"], [["way", "X", "Y"]]]]
@@ -118,9 +129,37 @@ CALLS = [
     (polynomial, {"rules": WAY, "facts": EDGES, "fact": ["way", "a", "c"]}),
     (polynomial_to, {"rules": WAY, "facts": EDGES, "fact": ["way", "a", "c"], "height": 2}),
     (worth, {"polynomial": {((("q", 1), 2),): 3}, "worths": {("q", 1): 4}}),
+    (level, {"rules": WAY, "facts": EDGES, "fact": ["way", "a", "c"], "levels": PRICES}),
+    (level_papers, {"rules": WAY, "facts": EDGES, "fact": ["way", "a", "c"], "levels": PRICES}),
+    (chance, {"rules": WAY, "facts": EDGES, "fact": ["way", "a", "c"], "chances": CHANCES}),
+    (chance_given, {"rules": WAY, "facts": EDGES, "fact": ["way", "a", "c"], "chances": CHANCES, "follow": [["q", 1]],
+                    "lack": [["zz"]]}),
+    (splits, {"rules": WAY, "facts": EDGES, "fact": ["way", "a", "c"]}),
+    (is_splits, {"rules": WAY, "facts": [["e", "a", "b"]], "fact": ["way", "a", "b"],
+                 "thing": [[[[["e", "a", "b"]], []]], [[[], [["e", "a", "b"]]]]]}),
+    (shares, {"rules": WAY, "facts": EDGES, "fact": ["way", "a", "c"]}),
+    (rule_tree, {"rules": WAY, "rule": [["way", "X", "Y"], [["e", "X", "Y"], ["q", "X"]]]}),
+    (rule_world, {"rules": WAY, "rule": [["way", "X", "Y"], [["e", "Y", "X"]]]}),
+    (unfollowed, {"one": [[["p"], []]], "other": WAY}), (parting_facts, {"one": WAY, "other": WAY[1:]}),
+    (spare_rules, {"rules": WAY + WAY}), (least_rules, {"rules": WAY + WAY}), (expansions, {"rules": WAY, "height": 2}),
+    (slow_facts, {"rules": WAY, "many": 2}), (first_apart, {"one": [[["p", "X"], [["way", "X", "Y"]]]], "other": WAY}),
+    (words_of, {"rules": WAY, "relation": "way", "most": 3}), (word_machine, {"rules": WAY, "relation": "way"}),
+    (parting_way, {"one": WAY, "other": WAY[:1], "relation": "way"}),
+    (way_paper, {"one": WAY[:1], "other": WAY, "relation": "way"}),
+    (is_way_paper, {"one": WAY[:1], "other": WAY, "relation": "way", "thing": [[0, 0], [1, 1]]}),
+    (retold, {"rules": WAY, "relation": "way", "views": ["way"]}),
+    (not_retold, {"rules": WAY + [[["v", "X", "Y"], [["f", "X", "Y"]]]], "relation": "way", "views": ["v"]}),
+    (closings, {"promises": PROMISES, "number": 2}), (facts_apart, {"promises": PROMISES, "number": 0}),
+    (are_closings, {"promises": [[[["p"]], [["q"]]], [[["p"]], [["q"]]]], "number": 1,
+                    "thing": [[{}, ["split", 0, {}, [["shut", ["q"]]]]]]}),
+    (done_deed, {"facts": EDGES, "deed": [[], [["q", 1]], [["q", 2]]]}),
+    (breaking, {"promises": PROMISES, "kind": [[["e", "X", "Y"]], [["q", 1]], [["e", "Y", "c"]]], "number": 0}),
+    (safe_closings, {"promises": PROMISES, "kind": [[["e", "X", "Y"]], [["q", 1]], [["e", "X", "Y"]]], "number": 0}),
+    (are_safe_closings, {"promises": [[[["p"]], [["q"]]]], "kind": [[], [], [["q"]]], "number": 0, "thing": []}),
+    (looks, {"promises": PROMISES, "deed": [[], [], [["e", 1, 2]]]}),
 ]
 KIND_OF = {"rules": Rules, "facts": Facts, "seen": Facts, "most": Facts, "low": Facts, "high": Facts, "have": Facts,
-           "lack": Facts, "here": Facts, "there": Facts, "one": Rules, "other": Rules, "more": Rules, "folds": Folds}
+           "lack": Facts, "here": Facts, "there": Facts, "one": Rules, "other": Rules, "more": Rules, "folds": Folds, "promises": Promises}
 
 
 def swapped(thing):
@@ -135,6 +174,8 @@ def swapped(thing):
 def made(call, name, thing):
     if name == "thing" and call is is_steady:
         return Facts(thing)
+    if name == "lack" and call is chance_given:
+        return thing
     if name in KIND_OF and isinstance(thing, (list, tuple)) and not (call in ATOMS and name in ("one", "other")):
         return KIND_OF[name](thing)
     return thing
@@ -142,7 +183,7 @@ def made(call, name, thing):
 
 def plain(thing):
     """A returned object with the sets and rules in it told as lists."""
-    if isinstance(thing, (Facts, Rules, Folds)):
+    if isinstance(thing, (Facts, Rules, Folds, Promises)):
         return [type(thing).__name__, thing.listed()]
     if isinstance(thing, tuple):
         return tuple([plain(part) for part in thing])

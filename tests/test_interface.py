@@ -46,6 +46,18 @@ FUNCTIONS = {
                    "plain_trees(rules, facts, fact)", "trees_with(rules, facts, fact, product)"],
     "polynomials": ["polynomial(rules, facts, fact)", "polynomial_to(rules, facts, fact, height)",
                     "worth(polynomial, worths)"],
+    "chances": ["level(rules, facts, fact, levels)", "level_papers(rules, facts, fact, levels)",
+                "chance(rules, facts, fact, chances)", "chance_given(rules, facts, fact, chances, follow, lack)",
+                "splits(rules, facts, fact)", "is_splits(rules, facts, fact, thing)", "shares(rules, facts, fact)"],
+    "programs": ["rule_tree(rules, rule)", "rule_world(rules, rule)", "unfollowed(one, other)", "parting_facts(one, other)",
+                 "spare_rules(rules)", "least_rules(rules)"],
+    "unfoldings": ["expansions(rules, height)", "slow_facts(rules, many)", "first_apart(one, other)"],
+    "ways": ["words_of(rules, relation, most)", "word_machine(rules, relation)", "parting_way(one, other, relation)",
+             "way_paper(one, other, relation)", "is_way_paper(one, other, relation, thing)"],
+    "retelling": ["retold(rules, relation, views)", "not_retold(rules, relation, views)"],
+    "closings": ["closings(promises, number)", "are_closings(promises, number, thing)", "facts_apart(promises, number)"],
+    "breaking": ["done_deed(facts, deed)", "breaking(promises, kind, number)", "safe_closings(promises, kind, number)",
+                 "are_safe_closings(promises, kind, number, thing)", "looks(promises, deed)"],
     "levels": ["levels(rules)", "ring_through_not(rules)", "is_not_ring(rules, thing)", "by_levels(rules, facts)"],
 }
 CLASSES = {
@@ -55,6 +67,7 @@ CLASSES = {
     ("rules", "Rules", "rules"): ["listed(self)", "made(self)", "given(self)", "about(self, relation)",
                                   "without(self, number)", "__len__", "__or__", "__eq__"],
     ("folds", "Folds", "folds"): ["listed(self)", "__len__", "__eq__"],
+    ("promises", "Promises", "promises"): ["listed(self)", "all_broken(self, facts)", "__len__", "__eq__"],
 }
 
 
