@@ -73,14 +73,24 @@ def _are_alike(one, other):
     return pair is not None and len(one[1]) == len(other[1]) and _is_paired(one[1], other[1], pair[0], pair[1])
 
 
-def unlike_rules(rules):
-    """The first ones of rules that are alike, with each atom once."""
-    found = []
-    shelves = {}
-    for told in rules:
+class Kinds:
+    """Plain rules with each atom once, the first ones of those that are alike, called by their numbers."""
+
+    def __init__(self):
+        self._kept = []
+        self._shelves = {}
+
+    def put(self, told):
+        """The number of the rule that is kept and like one; if there is none, this one is kept."""
         rule = _with_atoms_once(told)
-        shelf = shelves.setdefault(_alike_key(rule), [])
-        if not any([_are_alike(rule, other) for other in shelf]):
-            shelf.append(rule)
-            found.append(rule)
-    return found
+        shelf = self._shelves.setdefault(_alike_key(rule), [])
+        for number in shelf:
+            if _are_alike(rule, self._kept[number]):
+                return number
+        shelf.append(len(self._kept))
+        self._kept.append(rule)
+        return len(self._kept) - 1
+
+    def all_kept(self):
+        """The list of the rules that are kept."""
+        return list(self._kept)

@@ -98,7 +98,7 @@ def _with_fresh(calls, rule, first):
     return more, first
 
 
-def _unfolded_by(rule, index, other):
+def unfolded_by(rule, index, other):
     """The rule with another rule's body in the place of an atom, None if it can't be."""
     pair = _taken_together(rule[1][index], other[0])
     if pair is None:
@@ -119,5 +119,5 @@ def unfolded(rules, number, index):
     rule = listed[number]
     if not is_number_of(index, rule[1]) or not is_plain(rule[1][index]):
         raise NoPart(index)
-    found = [_unfolded_by(rule, index, other) for other in listed]
+    found = [unfolded_by(rule, index, other) for other in listed]
     return [other for other in found if other is not None]

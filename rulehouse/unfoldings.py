@@ -1,6 +1,6 @@
 """Expansions of plain rules, how many rounds are enough, and which rules may be used first."""
 
-from rulehouse.alike import unlike_rules
+from rulehouse.alike import Kinds
 from rulehouse.errors import BadNumber
 from rulehouse.expanding import taken_together
 from rulehouse.finding import patterns_of
@@ -11,14 +11,18 @@ from rulehouse.programs import frozen, refuse_unplain
 
 def _expansions(rules, height):
     """The expansions of a height, one of those that are alike."""
-    earlier = []
-    last = unlike_rules(rules.listed())
+    kinds = Kinds()
+    last = {kinds.put(rule): True for rule in rules.listed()}
     for _ in range(height - 1):
-        others = last + earlier
-        wanted = [True] * len(last) + [False] * len(earlier)
-        earlier = unlike_rules(others)
-        last = unlike_rules([made for rule in rules.listed() for made in taken_together(rule, others, wanted)])
-    return last
+        others = kinds.all_kept()
+        wanted = [number in last for number in range(len(others))]
+        ahead = last
+        found = [made for rule in rules.listed() for made in taken_together(rule, others, wanted)]
+        last = {kinds.put(made): True for made in found}
+        # Where nothing is new and the last ones are those ahead, all next ones are, too.
+        if last == ahead and len(kinds.all_kept()) == len(others):
+            break
+    return [rule for number, rule in enumerate(kinds.all_kept()) if number in last]
 
 
 def expansions(rules, height):
