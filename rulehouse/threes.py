@@ -67,8 +67,7 @@ def _claims_that_tell(patterns, facts, found, fact):
     for index in range(2, len(found)):
         if index % 2 == 1:
             some = found[index - 2] - found[index]
-            if len(some) > 0:
-                claims.append(("never", tuple(some.listed())))
+            claims.append(("never", tuple(some.listed())))
             if fact in some:
                 return claims
             continue

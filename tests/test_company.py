@@ -73,6 +73,7 @@ class Pairs(unittest.TestCase):
         self.assertIs(holds(TWO, facts_of("q", "r"), facts_of("q")), False)
         self.assertIs(holds(TWO, NONE, facts_of("q")), False)
         self.assertIs(holds(EMPTY, NONE, facts_of("q")), True)
+        self.assertIs(holds(EMPTY, facts_of("q"), NONE), False)
         self.assertIs(holds(rules_of("p if not p"), NONE, facts_of("p")), True)
         self.assertIs(holds(rules_of("p if not p"), NONE, NONE), False)
         self.assertIs(holds(rules_of("p"), NONE, facts_of("p")), False)

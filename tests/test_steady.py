@@ -112,6 +112,8 @@ class Papers(unittest.TestCase):
                 ("split", ("p",), None, CLASH), ("split", ("p", 1), CLASH, CLASH), ("split", None, CLASH, CLASH),
                 ("split", ("p",), CLASH, ("split", ("q",), CLASH, CLASH)), {0: "clash"}, ["split"], [CLASH]]:
             self.assertIs(is_no_world_with(NO_P, NONE, NONE, NONE, thing), False, thing)
+        for thing in (("crash",), ("split",), [None], [["clash"]]):
+            self.assertIs(is_no_world_with(NO_P, NONE, facts_of("p"), NONE, thing), False)
         more = ("split", ("p",), ("split", ("p",), CLASH, CLASH), CLASH)
         self.assertIs(is_no_world_with(rules=NO_P, facts=NONE, have=NONE, lack=NONE, thing=more), True)
         for thing in (CLASH, paper, more):

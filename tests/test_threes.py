@@ -123,6 +123,10 @@ class Arguments(unittest.TestCase):
                        [never, ("sure", 2, None)], [never, ("sure", 7, {})], [never, ("sure", -5, {})], [never, ("sure", 6, {})],
                        [never, ("sure", 2, {}, None)], [never, ("never", 2, {})], [never, ("sure", [("p",), ("q",)])]):
             self.assertIsNone(argued(rules, none, ("p",), claims), claims)
+        later = rules_of("p if not w", "q if p", "r if q, not z", "z if p")
+        self.assertEqual(argued(later, none, ("q",), [("never", [("p",)]), ("never", [("q",)])]), "never")
+        self.assertEqual(argued(later, none, ("r",), [("never", [("p",)]), ("never", [("q",)]), ("never", [("r",)])]), "never")
+        self.assertIsNone(argued(later, none, ("r",), [("never", [("p",)]), ("never", [("r",)]), ("never", [("q",)])]))
         told = argument(rules, none, ("t",))
         self.assertEqual(told[0], ("never", (("p",), ("q",))))
         self.assertEqual(kinds_of(told), kinds_of([("never", (("p",), ("q",))), ("sure", 2, {}),
@@ -132,6 +136,7 @@ class Arguments(unittest.TestCase):
         rules = rules_of("p if p", "q if not p", "r if q, unlike X Y, e X Y", "s X if e X Y, unlike X Y, not q")
         given = facts_of("p", "e 1 1", "e 1 2")
         self.assertIsNone(argued(rules, given, ("q",), [("never", [("p",)])]))
+        self.assertIsNone(argued(rules, given, ("q",), [("never", [("p",)]), ("sure", 1, {})]))
         self.assertEqual(argued(rules, given, ("q",), [("never", [("q",)])]), "never")
         self.assertEqual(argued(rules, given, ("r",), [("never", [("r",), ("q",)])]), "never")
         claims = [("never", [("q",)]), ("sure", 3, {"X": 1, "Y": 2})]
