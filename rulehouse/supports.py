@@ -38,24 +38,23 @@ class Supports:
         return [bits] * self._many
 
     def _row_by(self, below):
-        """The row of the sets from which all of some facts follow, None if one of them has none yet."""
+        """The row of the sets from which all of some facts follow, as far as it is known."""
         row = [self._full] * self._many
         for fact in below:
-            if fact not in self._rows:
-                return None
             row = [one & other for one, other in zip(row, self._rows[fact])]
         return row
 
     def _fill(self):
-        """Puts what comes by steps to the rows, till nothing is new."""
+        """Puts what comes by steps to the rows, till nothing is new.
+
+        Steps stand behind those that make what they need, so all that they need has a row.
+        """
         touched = list(range(len(self._steps)))
         while touched:
             again = {}
             for index in touched:
                 head, number, below = self._steps[index]
                 row = self._row_by(below)
-                if row is None:
-                    continue
                 last = self._rows.get(head, [0] * self._many)
                 more = [one | other for one, other in zip(last, row)]
                 if more != last:

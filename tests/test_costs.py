@@ -151,6 +151,15 @@ class Costs(unittest.TestCase):
         self.assertEqual(cheapest(facts_of("a"), rules, {("a",): 2}, [0, 0, 0, 2, 0, 0], ("a",))[0], 2)
         self.assertIsNone(cheapest(Facts([]), rules, {}, [0] * 6, ("y",)))
 
+    def test_leaves_count_and_not_steps(self):
+        rules = rules_of("z if a, b", "z if c", "c if d", "d if e", "e if a")
+        facts, prices = facts_of("a", "b"), {("a",): 0, ("b",): 0}
+        self.assertEqual(leaves(cheapest(facts, rules, prices, [0] * 5, ("z",))[1]), 1)
+        bare = rules_of("z if a, b", "z if c", "c if d", "d")
+        self.assertEqual(leaves(cheapest(facts, bare, prices, [0] * 4, ("z",))[1]), 1)
+        given = rules_of("z if c, d", "c", "d", "z if m", "m if n", "n if o", "o if a")
+        self.assertEqual(cheapest(facts, given, prices, [0] * 7, ("z",))[1][1], 3)
+
     def test_kinds(self):
         self.assertEqual(kinds_of(cheapest(EDGES, WAY, PRICES, FEES, ["way", "a", "b"])), kinds_of((5, FIVE)))
 
