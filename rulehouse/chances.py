@@ -176,6 +176,6 @@ def shares(rules, facts, fact):
     for index, given in enumerate(supports.base):
         bit = 1 << index
         begun = [orders[sizes[number]] for number, is_one in enumerate(follows)
-                 if not is_one and number & bit == 0 and follows[number | bit]]
+                 if not is_one and follows[number | bit]]
         found[given] = lowest(sum(begun), factorial(many))
     return found

@@ -31,7 +31,7 @@ class Rounds:
         return [step for step in self._branches.steps[fact] if all([heights[other] < height for other in step[1]])]
 
     def grow(self):
-        """Goes one height on; whether anything is new."""
+        """Goes one height on."""
         height = len(self._inside)
         inside = {}
         is_round = dict(self._is_round[-1])
@@ -42,10 +42,8 @@ class Rounds:
                     inside[fact] = inside[fact] | self._inside[-1][other]
                     if other in self._is_round[-1] or self._inside[-1][other] & bit:
                         is_round[fact] = True
-        is_new = inside != self._inside[-1] or len(is_round) > len(self._is_round[-1])
         self._inside.append(inside)
         self._is_round.append(is_round)
-        return is_new
 
     def has(self, fact):
         """Whether some tree of a fact up to the height that was reached has a fact below itself."""

@@ -186,6 +186,14 @@ class Splits(unittest.TestCase):
         self.assertEqual(splits(FREE, Facts([]), ("p",)), ([((), ())], []))
         self.assertEqual(splits(rules=FREE, facts=Facts([]), fact=["q"]), ([], [((), ())]))
 
+    def test_each_split_tells_what_it_should(self):
+        rules, facts = rules_of("p if a", "p if b"), facts_of("a", "b")
+        a, b = ("a",), ("b",)
+        for thing in (([((), ())], []), ([], [((), ())]), ([((a,), ()), ((b,), ())], []), ([((a,), ()), ((), (a,))], []),
+                      ([((a,), ())], [((), (a,))]), ([((a,), ()), ((b,), ())], [((), (a, b))])):
+            self.assertIs(is_splits(rules, facts, ("p",), thing), False, thing)
+        self.assertIs(is_splits(rules, facts, ("p",), ([((a,), ()), ((b,), (a,))], [((), (a, b))])), True)
+
     def test_wrong_splits(self):
         yes, no = [((A_C,), ()), ((A_B, B_C), (A_C,))], [((), (A_B, A_C)), ((A_B,), (A_C, B_C))]
         for thing in odd_objects() + [

@@ -145,6 +145,8 @@ class RoundTrees(unittest.TestCase):
         tree = round_tree(rules, Facts([]), ("q",))
         self.assertEqual(height_of(tree), 7)
         self.assertTrue(is_tree(rules, Facts([]), ("q",), tree) and goes_round(tree))
+        longer = rules_of("p if r", "r if s", "s if t", "t if u", "u if p", "s if p", "s", "t", "u")
+        self.assertEqual(height_of(round_tree(longer, Facts([]), ("p",))), 6)
         self.assertEqual(kinds_of(round_tree(rules_of("p if p"), facts_of("p"), ("p",))), kinds_of((("p",), 0, (given,))))
 
     def test_against_the_words(self):
