@@ -42,6 +42,16 @@ class Retold(unittest.TestCase):
         self.assertEqual(kinds_of(retold(RULES, "w", ["u", "v"])), kinds_of([(False, {"u": 0, "v": 1}), (True, {"u": 0, "v": 1})]))
         self.assertEqual(kinds_of(not_retold(RULES, "w", ["v"])), kinds_of(("a", "b", "a")))
 
+    def test_words_of_rows_that_are_not_good(self):
+        rules = rules_of("v X Y if a X Y", "v X Y if b X Y", "w X Y if a X Y", "w X Z if a X Y, v Y Z", "w X Z if b X Y, v Y Z")
+        self.assertEqual(retold(rules, "w", ["v"]), [(False, {"v": 1}), (False, {"v": 2}), (True, {})])
+        self.assertEqual(not_retold(rules, "w", ["v"]), ("a",))
+        ends = rules_of("u X Z if a X Y, b Y Z", "w X Z if a X Y, b Y Z", "w X Y if b X Y")
+        self.assertEqual(not_retold(ends, "w", ["u"]), ("b",))
+        twice = rules_of("u X Z if a X Y, b Y Z", "w X V if a X Y, b Y Z, a Z V", "w X V if a X Y, b Y Z, u Z V")
+        self.assertEqual(retold(twice, "w", ["u"]), [(False, {"u": 1}), (False, {"u": 2}), (True, {})])
+        self.assertEqual(not_retold(twice, "w", ["u"]), ("a", "b", "a"))
+
     def test_views_without_words(self):
         rules = rules_of("n X Y if n X Y", "v X Y if a X Y", "w X Y if b X Y")
         # No row of signs comes of a row with such a view, so it is good.

@@ -153,6 +153,20 @@ class Expansions(unittest.TestCase):
         self.same(expansions(rules_of("p X if e X Y, p Y", "p X if e Y X, p Y"), 2), "p X if e X Y, e Y Z, p Z", "p X if e X Y, e Z Y, p Z",
                   "p X if e Y X, e Y Z, p Z", "p X if e Y X, e Z Y, p Z")
 
+    def test_rules_that_are_hard_to_tell_apart(self):
+        pairs = "p if e A B, e B A, e C D, e D C"
+        ring = "p if e A B, e B C, e C D, e D A"
+        self.same(expansions(rules_of(pairs, ring, "p if e D B, e A C, e C D, e B A", "p if e A D, e C B, e D A, e B C"), 1), pairs, ring)
+        self.same(expansions(rules_of("p A B if e A C, e B D", "p A B if e A D, e B C", "p A B if e A C, e B C, e B D"), 1),
+                  "p A B if e A C, e B D", "p A B if e A C, e B C, e B D")
+        self.same(expansions(rules_of("p 1 if e 1 a", "p 1 if e 1 b", "p 2 if e 2 a", "p A if e A a", "p A if e A 1"), 1),
+                  "p 1 if e 1 a", "p 1 if e 1 b", "p 2 if e 2 a", "p A if e A a", "p A if e A 1")
+        self.same(expansions(rules_of("p A if q A B, q B A, r C", "p A if q A B, q B A, r A", "p B if q A B, q B A, r A"), 1),
+                  "p A if q A B, q B A, r C", "p A if q A B, q B A, r A", "p A if q A B, q B A, r B")
+        # What was made of the one atom decides what may be made of the others.
+        self.same(expansions(rules_of("p if q A, q B, r A B", "q 1", "r 1 2"), 2), "p if q B, r 1 B", "p if q A, r A 1", "p if r 1 1",
+                  "p if q 1, q 2", "p if q 2")
+
     def test_errors(self):
         for call in (expansions, slow_facts):
             for rules in (ROUGH, NOTS):

@@ -82,6 +82,13 @@ class WayRules(unittest.TestCase):
                     call(rules)
                 self.assertEqual(caught.exception.index, 1, row)
 
+    def test_relations_with_other_numbers_of_places(self):
+        for row in ("way X Y if f X, g Y", "way X Y if t X Y Y", "way X Y if edge X Z, t Z Y 1", "t X Y Z if t2 X Y Z", "g X if f X"):
+            for call in CALLS:
+                with self.assertRaises(NoWay) as caught:
+                    call(rules_of("v X Y if edge X Y", row))
+                self.assertEqual(caught.exception.index, 1, row)
+
     def test_order_of_errors(self):
         bad = rules_of("p X if q X")
         for call in CALLS:
