@@ -207,6 +207,12 @@ class Looks(unittest.TestCase):
         self.assertEqual(looks(promises, ((), (), ())), [])
         self.assertEqual(kinds_of(looks(promises, ((), (("n", 1),), ()))), kinds_of([(0, {"X": 1})]))
 
+    def test_other_relations_touch_nothing(self):
+        promises = Promises([((("e", "X", "Y"), ("k", "X")), (("g", "X", "Y"),))])
+        for fact in (("h", 1), ("k", 1, 2), ("k",), ("e", 1)):
+            self.assertEqual(looks(promises, ((), (("g", 1, 2),), (fact,))), [(0, {"X": 1, "Y": 2})], fact)
+            self.assertEqual(looks(promises, ((), (("g", 1, 2), fact), ())), [(0, {"X": 1, "Y": 2})], fact)
+
     def test_what_can_not_be_broken_is_no_look(self):
         promises = Promises([((("p", "X"),), (("q", "X"),)), ((("q", "X"),), ())])
         # No facts that keep both have a p, so the put one alone can break.

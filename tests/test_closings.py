@@ -127,7 +127,8 @@ class Closings(unittest.TestCase):
         self.assertIs(are_closings(THREE, 2, right), True)
         again = ("split", 0, turn, (split,))
         self.assertIs(are_closings(THREE, 2, (first, (case, again))), True)
-        for thing in odd_objects() + [[first], [second, first], [first, second, second], [first, (case, shut)], [first, (case,)],
+        for thing in odd_objects() + [[first], [second, first], [first, second, second], [first, None], [None, second],
+                                      [first, "ab"], [first, 5], [first, (case, shut)], [first, (case,)],
                                       [first, (case, split, ())], [first, ({**case, "Z": 0}, split)], [first, ({"X": 0, "Y": True}, split)],
                                       [first, ({"X": 0, "Y": 2}, split)], [first, ({"X": 0}, split)], {0: first, 1: second}]:
             self.assertIs(are_closings(THREE, 2, thing), False, thing)
@@ -135,7 +136,8 @@ class Closings(unittest.TestCase):
                 ("split", 1, long, (shut,)), ("split", 2, turn, (shut,)), ("split", 0, turn, (shut,)), ("split", 0, turn, ()),
                 ("split", 0, turn, (split[3][0], split[3][0])), ("split", 0, {"X": 1, "Y": 0}, split[3]), ("split", 0, long, split[3]),
                 ("split", True, long, split[3]), ("split", 3, turn, split[3]), ("split", -1, turn, split[3]), ("split", 0, turn, shut),
-                ("split", 0, turn, None), ("shut",), ("shut", ("e", 0, 1)), ("shut", "e"), ("shut", None), ("split", 0, turn),
+                ("split", 0, turn, None), ("shut",), ("shut", ("e", 0, 1)), ("split", 0, turn, (("split", 1, long, (("shot", ("e", 0, 0)),)),)),
+                ("parted",) + split[1:], ("split", 0, turn, (("split", 1, long, (("shut", ("e", 0, True)),)),)), ("shut", "e"), ("shut", None), ("split", 0, turn),
                 ("split", 0, None, split[3]), ("shut",) + split[1:], ("split", 0, {"X": False, "Y": 1}, split[3])]:
             self.assertIs(are_closings(THREE, 2, [first, (case, closing)]), False, closing)
 
@@ -147,7 +149,11 @@ class Closings(unittest.TestCase):
         unlike_ones = Promises([((("p", "X"), ("p", "Y"), ("unlike", "X", "Y")), ()), ((("p", 1), ("p", 2)), ()), ((("p", "X"), ("p", 1)), ())])
         self.assertIsNotNone(closings(unlike_ones, 1))
         self.assertEqual(facts_apart(unlike_ones, 2), facts_of("p 1"))
-        self.assertIs(are_closings(unlike_ones, 2, [({"X": 1}, ("split", 0, {"X": 1, "Y": 1}, ()))]), False)
+        alone = Promises([((("p", "X"), ("p", "Y"), ("unlike", "X", "Y")), ()), ((("p", 1),), ())])
+        self.assertEqual(facts_apart(alone, 1), facts_of("p 1"))
+        self.assertIs(are_closings(alone, 1, [({}, ("split", 0, {"X": 1, "Y": 1}, ()))]), False)
+        more = Promises(alone.listed()[:1] + [((("p", 1), ("p", 2)), ())])
+        self.assertIs(are_closings(more, 1, [({}, ("split", 0, {"X": 1, "Y": 2}, ()))]), True)
 
     def test_errors(self):
         for call in (closings, facts_apart, lambda *told: are_closings(*told, None)):
