@@ -27,6 +27,8 @@ def cases(rules, facts):
 
 def nots_by(pattern, facts):
     """The facts behind the nots of a body where its atoms become facts, each once."""
+    if not pattern.nots:
+        return ()
     calls = calls_by(pattern, facts)
     return tuple(list({filled(atom, calls): True for atom in pattern.nots}))
 

@@ -76,3 +76,11 @@ class Facts:
 
     def __eq__(self, other):
         return isinstance(other, Facts) and self._listed == other._listed
+
+
+def facts_in_order(rows):
+    """The Facts of unlike facts that stand in THE ORDER already: they need not be looked at again."""
+    made = Facts(())
+    made._listed = tuple(rows)
+    made._known = {fact: True for fact in rows}
+    return made

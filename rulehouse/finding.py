@@ -71,8 +71,10 @@ class Pattern:
 
 
 def patterns_of(rules):
-    """The list of the patterns of rules."""
-    return [Pattern(body, head) for head, body in rules.listed()]
+    """The tuple of the patterns of rules, made once and kept with them."""
+    if "patterns" not in rules.memory:
+        rules.memory["patterns"] = tuple([Pattern(body, head) for head, body in rules.listed()])
+    return rules.memory["patterns"]
 
 
 def filled(atom, calls):

@@ -23,7 +23,8 @@ class Growth:
         self._fresh = list(facts)
         self._barred = barred
         self._shelves = Shelves(facts)
-        self._strides = [Stride(number, pattern, self._shelves) for number, pattern in enumerate(patterns)]
+        self._strides = [Stride(number, pattern, self._shelves) for number, pattern in enumerate(patterns)
+                         if pattern.atoms]
         self._steps = _steps_of_nothing(patterns, barred)
 
     def add(self, facts):

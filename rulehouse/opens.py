@@ -1,77 +1,66 @@
 """What is open, told in bits, with what the cases say there: halves are narrowed by it."""
 
-from rulehouse.cases import wide_cases
-from rulehouse.facts import Facts
-from rulehouse.finding import patterns_of
-from rulehouse.threes import sure_and_possible
+from rulehouse.facts import facts_in_order
+from rulehouse.turning import closed, turning_of
 
 
 class Opens:
-    """The open facts, each with a bit, in THE ORDER, and the cases that hang on them alone.
+    """The open facts, and the cases that hang on them alone.
 
     Sure facts are in both halves however these are narrowed, and what is not possible in none: so
     sets of facts between the two are told by the bits of their open facts.
     """
 
-    def __init__(self, rules, facts):
-        self._sure, self._possible = sure_and_possible(rules, facts)
-        self.facts = (self._possible - self._sure).listed()
-        self._bits = {fact: 1 << index for index, fact in enumerate(self.facts)}
-        self._wide, found = wide_cases(patterns_of(rules), facts.listed())
+    def __init__(self, turning):
+        self._turning = turning
+        self._sure = turning.sure
+        self._possible = turning.possible
+        self._open = turning.possible & ~turning.sure
+        self._by_bit = {turning.bits[fact]: fact for fact in turning.facts_of(self._open)}
         rows = {}
-        for head, below, nots in found:
-            if head in self._bits:
-                row = (self._bits[head], self._bits_of(below, self._sure), self._bits_of_nots(nots))
-                if None not in row:
-                    rows[row] = True
+        for head, below, nots in turning.leads:
+            if head & self._open and below & ~self._possible == 0 and nots & self._sure == 0:
+                rows[(head, below & self._open, nots & self._open)] = True
         self._rows = list(rows)
         self._behind = {}
 
-    def _bits_of(self, facts, passed):
-        """The bits of facts, those of a set being passed over; None if others are not open."""
-        bits = 0
-        for fact in facts:
-            if fact in self._bits:
-                bits = bits | self._bits[fact]
-            elif fact not in passed:
-                return None
-        return bits
-
-    def _bits_of_nots(self, nots):
-        """The bits of facts behind nots, None if one is sure."""
-        if any([fact in self._sure for fact in nots]):
-            return None
-        return self._bits_of([fact for fact in nots if fact in self._bits], ())
-
     def is_wide(self, fact):
         """Whether a fact is one of wide."""
-        return fact in self._wide
+        return fact in self._turning.bits
 
     def all_bits(self):
         """The bits of all open facts."""
-        return (1 << len(self.facts)) - 1
+        return self._open
 
-    def fact_of(self, bit):
-        """The open fact with a bit."""
-        return [fact for fact in self.facts if self._bits[fact] == bit][0]
+    def first_of(self, bits):
+        """The pair of the first open fact with one of some bits, and its bit."""
+        return self._by_bit[bits & -bits], bits & -bits
 
     def bits_held(self, facts):
         """The bits of the open ones of facts, None if one is not possible: then no world has them."""
-        return self._bits_of(facts, self._sure)
+        found = 0
+        for fact in facts:
+            bit = self._turning.bits.get(fact, 0)
+            if bit & self._possible == 0:
+                return None
+            found = found | bit
+        return found & self._open
 
     def bits_lacked(self, facts):
         """The bits of the open ones of facts, None if one is sure: then no world lacks them."""
-        return self._bits_of_nots(facts)
+        found = 0
+        for fact in facts:
+            found = found | self._turning.bits.get(fact, 0)
+        return None if found & self._sure else found & self._open
 
     def world(self, bits):
         """The Facts of all that is sure, and of the open facts with some bits."""
-        return self._sure | Facts([fact for fact in self.facts if self._bits[fact] & bits])
+        return facts_in_order(self._turning.facts_of(self._sure | bits))
 
     def behind(self, seen):
         """The bits of the set behind the one with some bits."""
         if seen not in self._behind:
-            rows = [(head, below) for head, below, nots in self._rows if nots & seen == 0]
-            self._behind[seen] = _closed(rows)
+            self._behind[seen] = closed(0, [row for row in self._rows if row[2] & seen == 0])
         return self._behind[seen]
 
     def narrowed(self, low, high):
@@ -84,13 +73,11 @@ class Opens:
             low, high = lower, upper
 
 
-def _closed(rows):
-    """The least bits that have each head whose other bits they have."""
-    found = 0
-    last = None
-    while found != last:
-        last = found
-        for head, below in rows:
-            if below & found == below:
-                found = found | head
-    return found
+def opens_of(rules, facts):
+    """The Opens of rules and facts; the last one is kept with the rules, as calls often ask the same ones."""
+    turning = turning_of(rules, facts)
+    kept = rules.memory.get("opens")
+    if kept is None or kept[0] != facts:
+        kept = (facts, Opens(turning))
+        rules.memory["opens"] = kept
+    return kept[1]

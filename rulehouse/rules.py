@@ -66,6 +66,8 @@ class Rules:
 
     def __init__(self, rules):
         self._rules = checked_rules(rules)
+        # Rules never change: what others make of them, and need again, they keep here.
+        self.memory = {}
 
     def listed(self):
         """The list of the rules."""

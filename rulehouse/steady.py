@@ -2,7 +2,7 @@
 
 from rulehouse.cases import behind
 from rulehouse.facts import Facts
-from rulehouse.opens import Opens
+from rulehouse.opens import opens_of
 from rulehouse.parts import as_fact
 
 CLASH = ("clash",)
@@ -13,10 +13,6 @@ def is_steady(rules, facts, thing):
     return isinstance(thing, Facts) and behind(rules, facts, thing) == thing
 
 
-def _first_bit(bits):
-    return bits & -bits
-
-
 def _worlds(opens, low, high, only_one):
     """The bits of the steady worlds between two sets, in their order, perhaps only the first one."""
     low, high = opens.narrowed(low, high)
@@ -24,7 +20,7 @@ def _worlds(opens, low, high, only_one):
         return []
     if low == high:
         return [low]
-    bit = _first_bit(high - low)
+    bit = opens.first_of(high - low)[1]
     found = _worlds(opens, low | bit, high, only_one)
     if found and only_one:
         return found
@@ -33,7 +29,7 @@ def _worlds(opens, low, high, only_one):
 
 def steady_worlds(rules, facts):
     """The list of all steady worlds."""
-    opens = Opens(rules, facts)
+    opens = opens_of(rules, facts)
     return [opens.world(bits) for bits in _worlds(opens, 0, opens.all_bits(), False)]
 
 
@@ -48,7 +44,7 @@ def _bounds(opens, have, lack):
 
 def world_with(rules, facts, have, lack):
     """A steady world that has all of one set and none of another one, None if there is none."""
-    opens = Opens(rules, facts)
+    opens = opens_of(rules, facts)
     bounds = _bounds(opens, have, lack)
     found = [] if bounds is None else _worlds(opens, bounds[0], bounds[1], True)
     return opens.world(found[0]) if found else None
@@ -61,17 +57,17 @@ def _paper(opens, low, high):
         return CLASH
     if lower == upper:
         return None
-    bit = _first_bit(upper - lower)
+    fact, bit = opens.first_of(upper - lower)
     one = _paper(opens, low | bit, high)
     other = None if one is None else _paper(opens, low, high - bit)
     if other is None:
         return None
-    return ("split", opens.fact_of(bit), one, other)
+    return ("split", fact, one, other)
 
 
 def no_world_with(rules, facts, have, lack):
     """A paper that there is no steady world with one set and without another one, None if there is."""
-    opens = Opens(rules, facts)
+    opens = opens_of(rules, facts)
     bounds = _bounds(opens, have, lack)
     return CLASH if bounds is None else _paper(opens, bounds[0], bounds[1])
 
@@ -94,21 +90,30 @@ def _halved(opens, bounds, fact):
     return one, other
 
 
+def _is_sheet(thing):
+    """Whether any object begins as a paper does."""
+    if not isinstance(thing, (list, tuple)):
+        return False
+    return (len(thing) == 1 and thing[0] == "clash") or (len(thing) == 4 and thing[0] == "split")
+
+
 def is_no_world_with(rules, facts, have, lack, thing):
     """Whether any object is a paper that there is no steady world with one set and without another one."""
-    opens = Opens(rules, facts)
+    if not _is_sheet(thing):
+        return False
+    opens = opens_of(rules, facts)
     # A list of what is left to look through, as papers may be deeper than calls should be.
     left = [(thing, _bounds(opens, have, lack))]
     while left:
         paper, bounds = left.pop()
-        if not isinstance(paper, (list, tuple)) or len(paper) not in (1, 4):
+        if not _is_sheet(paper):
             return False
         if len(paper) == 1:
-            if paper[0] != "clash" or not _is_clash(opens, bounds):
+            if not _is_clash(opens, bounds):
                 return False
             continue
         fact = as_fact(paper[1])
-        if paper[0] != "split" or fact is None or not opens.is_wide(fact):
+        if fact is None or not opens.is_wide(fact):
             return False
         one, other = _halved(opens, bounds, fact)
         left.append((paper[2], one))

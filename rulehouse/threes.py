@@ -2,49 +2,39 @@
 
 from rulehouse.arguing import Hearing
 from rulehouse.cases import behind
-from rulehouse.facts import Facts
+from rulehouse.facts import facts_in_order
 from rulehouse.finding import calls_by, letters_alone, patterns_of
 from rulehouse.following import checked_fact
 from rulehouse.growing import Growth
+from rulehouse.turning import turning_of
 
 
 def turns(rules, facts):
     """The list of sets, each behind the one ahead of it, up to the first two that are behind each other."""
-    found = [Facts([])]
-    found.append(behind(rules, facts, found[0]))
-    coming = behind(rules, facts, found[1])
-    while coming != found[-2]:
-        found.append(coming)
-        coming = behind(rules, facts, coming)
-    return found
-
-
-def sure_and_possible(rules, facts):
-    """The pair of the sets of sure and of possible facts."""
-    found = turns(rules, facts)
-    if len(found) % 2 == 0:
-        return found[-2], found[-1]
-    return found[-1], found[-2]
+    turning = turning_of(rules, facts)
+    return [facts_in_order(turning.facts_of(bits)) for bits in turning.turned]
 
 
 def sure_facts(rules, facts):
     """The Facts of all that is sure."""
-    return sure_and_possible(rules, facts)[0]
+    turning = turning_of(rules, facts)
+    return facts_in_order(turning.facts_of(turning.sure))
 
 
 def open_facts(rules, facts):
     """The Facts of all that is possible and not sure."""
-    sure, possible = sure_and_possible(rules, facts)
-    return possible - sure
+    turning = turning_of(rules, facts)
+    return facts_in_order(turning.facts_of(turning.possible & ~turning.sure))
 
 
 def verdict(rules, facts, fact):
     """Whether a fact is "sure", "never" or "open"."""
     kept = checked_fact(fact)
-    sure, possible = sure_and_possible(rules, facts)
-    if kept in sure:
+    turning = turning_of(rules, facts)
+    bit = turning.bits.get(kept, 0)
+    if bit & turning.sure:
         return "sure"
-    return "open" if kept in possible else "never"
+    return "open" if bit & turning.possible else "never"
 
 
 def _sure_claims(patterns, facts, barred, told):

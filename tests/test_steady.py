@@ -184,5 +184,21 @@ class Limits(unittest.TestCase):
         self.assertEqual(len(steady_worlds(rules, facts)), 2)
 
 
+class Again(unittest.TestCase):
+    def test_the_same_rules_with_other_facts_in_between(self):
+        rules = rules_of("p if not q", "q if not p", "r if p, f", "w if f, q, not w")
+        for _ in range(3):
+            for facts in (NONE, facts_of("f"), facts_of("p"), facts_of("f", "q")):
+                alone = Rules(rules.listed())
+                self.assertEqual(steady_worlds(rules, facts), steady_worlds(alone, facts))
+                for have in (NONE, facts_of("q"), facts_of("r"), facts_of("zz")):
+                    alone = Rules(rules.listed())
+                    self.assertEqual(no_world_with(rules, facts, have, NONE), no_world_with(alone, facts, have, NONE))
+                    paper = no_world_with(rules, facts, have, NONE)
+                    self.assertEqual(is_no_world_with(rules, facts, have, NONE, paper), paper is not None)
+                    self.assertEqual(is_no_world_with(rules, facts, have, NONE, CLASH),
+                                     is_no_world_with(Rules(rules.listed()), facts, have, NONE, CLASH))
+
+
 if __name__ == "__main__":
     unittest.main()

@@ -50,6 +50,34 @@ class Turns(unittest.TestCase):
         self.assertEqual([verdict(WIN, MOVES, ("win", thing)) for thing in "abcd"], ["open", "open", "sure", "never"])
         self.assertEqual(verdict(rules=WIN, facts=MOVES, fact=["move", "a", "b"]), "sure")
 
+    def test_rows_of_moves(self):
+        for many in range(1, 41):
+            facts = Facts([("move", at, at + 1) for at in range(many)])
+            sure = [at for at in range(many + 1) if (many - at) % 2 == 1]
+            self.assertEqual(sure_facts(WIN, facts), facts | Facts([("win", at) for at in sure]))
+            self.assertEqual(open_facts(WIN, facts), Facts([]))
+            for at in range(many + 1):
+                self.assertEqual(verdict(WIN, facts, ("win", at)), "sure" if at in sure else "never")
+            self.assertEqual(len(turns(WIN, facts)), many + 2)
+
+    def test_rings_of_moves(self):
+        for many in range(2, 41):
+            facts = Facts([("move", at, (at + 1) % many) for at in range(many)])
+            wins = Facts([("win", at) for at in range(many)])
+            self.assertEqual((sure_facts(WIN, facts), open_facts(WIN, facts)), (facts, wins))
+            self.assertEqual({verdict(WIN, facts, fact) for fact in wins.listed()}, {"open"})
+            self.assertEqual(turns(WIN, facts), [Facts([]), facts | wins, facts])
+
+    def test_the_same_rules_with_other_facts_in_between(self):
+        rules = rules_of("win X if move X Y, not win Y", "left X if move X Y, not move Y X")
+        every = [facts_of(*rows) for rows in (["move 1 2"], ["move 1 2", "move 2 1"], [], ["win 1", "move 2 1"])]
+        for _ in range(3):
+            for facts in every:
+                alone = Rules(rules.listed())
+                self.assertEqual(turns(rules, facts), turns(alone, facts))
+                for fact in (("win", 1), ("win", 2), ("left", 1)):
+                    self.assertEqual(verdict(rules, facts, fact), verdict(Rules(rules.listed()), facts, fact))
+
     def test_nothing_at_all(self):
         self.assertEqual(turns(rules=Rules([]), facts=Facts([])), [Facts([]), Facts([])])
         self.assertEqual(turns(Rules([]), MOVES), [Facts([]), MOVES, MOVES])

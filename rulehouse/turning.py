@@ -1,0 +1,75 @@
+"""Turns of rules with nots, told in bits: the cases are found once, and each turn goes through them."""
+
+from rulehouse.cases import wide_cases
+from rulehouse.finding import patterns_of
+from rulehouse.parts import atom_key
+
+
+class Turning:
+    """All cases of rules and facts in bits, one for each fact of wide, in THE ORDER, and the turns.
+
+    self.leads has the triples (head, plain facts, not facts) of the unlike cases that can tell
+    anything: what is given needs no case, and holds no case up. Facts behind nots outside wide are
+    left out, as no turn has them.
+    """
+
+    def __init__(self, rules, facts):
+        rounds, found = wide_cases(patterns_of(rules), facts.listed())
+        self.bits = {fact: 1 << index for index, fact in enumerate(sorted(list(rounds), key=atom_key))}
+        self.held = self._sum_of(facts.listed())
+        rows = {}
+        for head, below, nots in found:
+            row = (self.bits[head], self._sum_of(below) & ~self.held, self._sum_of(nots))
+            if row[0] & self.held == 0 and row[0] & row[1] == 0:
+                rows[row] = True
+        self.leads = list(rows)
+        self.turned = self._all_turns()
+        sure, possible = self.turned[-2:]
+        if len(self.turned) % 2 == 1:
+            sure, possible = possible, sure
+        self.sure = sure
+        self.possible = possible
+
+    def _sum_of(self, facts):
+        found = 0
+        for fact in facts:
+            if fact in self.bits:
+                found = found | self.bits[fact]
+        return found
+
+    def behind(self, seen):
+        """The bits of what is behind the facts with some bits."""
+        return closed(self.held, [row for row in self.leads if row[2] & seen == 0])
+
+    def _all_turns(self):
+        found = [0, (1 << len(self.bits)) - 1]
+        coming = self.behind(found[1])
+        while coming != found[-2]:
+            found.append(coming)
+            coming = self.behind(coming)
+        return found
+
+    def facts_of(self, bits):
+        """The list of the facts with some bits, in THE ORDER."""
+        return [fact for fact, bit in self.bits.items() if bits & bit]
+
+
+def closed(start, rows):
+    """The least bits that have those of a start, and the first of each row whose second they have."""
+    found = start
+    last = None
+    while found != last:
+        last = found
+        for row in rows:
+            if row[1] & found == row[1]:
+                found = found | row[0]
+    return found
+
+
+def turning_of(rules, facts):
+    """The Turning of rules and facts; the last one is kept with the rules, as calls often ask the same ones."""
+    kept = rules.memory.get("turning")
+    if kept is None or kept[0] != facts:
+        kept = (facts, Turning(rules, facts))
+        rules.memory["turning"] = kept
+    return kept[1]
