@@ -38,15 +38,20 @@ def _checked_kind(promises, kind, number):
     return kept
 
 
+def first_broken(promises, kind, number):
+    """What breaking tells of a kind, of tuples, and the number of a promise."""
+    search = _search(promises, kind)
+    for case in cases_of(promises, kind, number):
+        if case.is_touched:
+            grounds = search.grounds(case.all_things())
+            if grounds.closing(case.held, case.barred) is None:
+                return (Facts(grounds.left_open()), case.calls, case.match)
+    return None
+
+
 def breaking(promises, kind, number):
     """A triple (facts, calls, match) by which a deed of a kind breaks a promise, None if none can."""
-    kept = _checked_kind(promises, kind, number)
-    search = _search(promises, kept)
-    for case in cases_of(promises, kept, number):
-        grounds = search.grounds(case.all_things())
-        if grounds.closing(case.held, case.barred) is None:
-            return (Facts(grounds.left_open()), case.calls, case.match)
-    return None
+    return first_broken(promises, _checked_kind(promises, kind, number), number)
 
 
 def safe_closings(promises, kind, number):
@@ -106,7 +111,7 @@ def _has_all(calls, others):
 def _broken_matches(promises, deed, number):
     """The list of the matches of a promise, up to names of new things, at which a deed can break it."""
     search = _search(promises, deed)
-    cases = cases_of(promises, deed, number)
+    cases = [case for case in cases_of(promises, deed, number) if case.is_touched]
     return [case.match for case in cases if search.grounds(case.all_things()).closing(case.held, case.barred) is None]
 
 

@@ -53,15 +53,21 @@ def closings(promises, number):
     return found
 
 
-def facts_apart(promises, number):
-    """Facts that keep all other promises and break the one with a number, None if it follows from them."""
-    check_number(promises, number)
+def apart(promises, number):
+    """The pair (facts, match) of facts that keep all other promises and break one at the match, None if it follows."""
     search = _search(promises, number)
     for case, held, barred in _cases(promises, number):
         grounds = search.grounds(list(case.values()))
         if grounds.closing(held, barred) is None:
-            return Facts(grounds.left_open())
+            return Facts(grounds.left_open()), case
     return None
+
+
+def facts_apart(promises, number):
+    """Facts that keep all other promises and break the one with a number, None if it follows from them."""
+    check_number(promises, number)
+    found = apart(promises, number)
+    return None if found is None else found[0]
 
 
 def is_same_case(thing, case):

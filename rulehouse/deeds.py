@@ -3,7 +3,7 @@
 from rulehouse.closings import parts_of_promises
 from rulehouse.finding import Pattern, clashes, filled
 from rulehouse.freezing import calls_up_to_names, first_new, things_named
-from rulehouse.parts import as_body, letters_in
+from rulehouse.parts import as_body, filled_part, letters_in
 from rulehouse.promises import as_atoms, clauses_of
 
 KIND = 0
@@ -30,6 +30,14 @@ def as_deed(thing):
     return kind
 
 
+def can_be_done(body, facts, calls):
+    """Whether a deed of a kind with a body can be done in facts by calls for all letters."""
+    filled_body = [filled_part(part, calls) for part in body]
+    if any([part[0] == "unlike" and part[1] == part[2] for part in filled_body]):
+        return False
+    return all([part in facts for part in filled_body if part[0] != "unlike"])
+
+
 def things_asked(promises, kind):
     """The things of promises and of a kind."""
     return things_named(parts_of_promises(promises) + [part for parts in kind for part in parts])
@@ -38,11 +46,13 @@ def things_asked(promises, kind):
 class Case:
     """A case of a kind of deeds and a promise: what is put in for the letters of both, what is held and barred."""
 
-    def __init__(self, calls, match, held, barred):
+    def __init__(self, calls, match, held, barred, is_touched):
         self.calls = calls
         self.match = match
         self.held = held
         self.barred = barred
+        # Where the deed changes nothing that the match hangs on, what kept the promise keeps it.
+        self.is_touched = is_touched
 
     def all_things(self):
         """The things that are put in for letters."""
@@ -79,7 +89,9 @@ class Doing:
         if any([fact in taken and fact not in put for fact in needed]) or any([fact in put for fact in lacking]):
             return None
         held = [filled(atom, mine) for atom in self._body.atoms] + [fact for fact in needed if fact not in put]
-        return Case(calls, match, held, [fact for fact in lacking if fact not in taken])
+        barred = [fact for fact in lacking if fact not in taken]
+        is_touched = len(barred) < len(lacking) or any([fact in put for fact in needed])
+        return Case(calls, match, held, barred, is_touched)
 
 
 def cases_of(promises, kind, number):

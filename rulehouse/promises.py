@@ -2,8 +2,9 @@
 
 from rulehouse.errors import BadPromise, Loose
 from rulehouse.finding import Pattern, Shelves, filled, sorted_matches
+from rulehouse.matching import is_match
 from rulehouse.names import is_integer
-from rulehouse.parts import as_atom, as_body, atom_of, is_plain, loose_letters
+from rulehouse.parts import as_atom, as_body, atom_of, filled_part, is_plain, loose_letters
 from rulehouse.rules import check_even
 
 
@@ -24,7 +25,7 @@ def _as_promise(thing):
     return None if body is None or ways is None else (body, ways)
 
 
-def _atoms_of(promise):
+def atoms_of_promise(promise):
     """The atoms of a promise, body and then ways, also those behind nots."""
     atoms = [atom_of(part) for part in promise[0]]
     return [atom for atom in atoms if atom is not None] + list(promise[1])
@@ -39,7 +40,7 @@ def _checked_promises(promises):
         if promise is None:
             raise BadPromise(index)
         kept.append(promise)
-    check_even([_atoms_of(promise) for promise in kept])
+    check_even([atoms_of_promise(promise) for promise in kept])
     for index, (body, ways) in enumerate(kept):
         loose = loose_letters([part for part in body if not is_plain(part)] + list(ways), body)
         if loose:
@@ -75,6 +76,26 @@ class Promises:
 
     def __eq__(self, other):
         return isinstance(other, Promises) and self._promises == other._promises
+
+
+class Bundle:
+    """Promises put together as they are: what one calls a relation may have other places in another one."""
+
+    def __init__(self, promises):
+        self._promises = tuple(promises)
+
+    def listed(self):
+        """The list of the promises."""
+        return list(self._promises)
+
+    def __len__(self):
+        return len(self._promises)
+
+
+def breaks_at(facts, promise, thing):
+    """Whether any object is a match at which facts break a promise."""
+    body, ways = promise
+    return is_match(facts, body, thing) and not any([filled_part(way, thing) in facts for way in ways])
 
 
 class Clause:
