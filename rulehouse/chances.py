@@ -2,12 +2,11 @@
 
 from math import factorial
 
-from rulehouse.errors import BadChances, BadFact, BadLevels
-from rulehouse.facts import Facts
+from rulehouse.errors import BadChances, BadLevels
+from rulehouse.facts import Facts, list_of_facts
 from rulehouse.following import all_heights
 from rulehouse.halving import all_halves, is_parted
 from rulehouse.names import is_integer
-from rulehouse.parts import as_fact
 from rulehouse.prices import odd_key
 from rulehouse.ratios import as_fraction, lowest
 from rulehouse.reasons import as_set, checked_question_of
@@ -94,21 +93,12 @@ def chance(rules, facts, fact, chances):
     return lowest(_share(supports.base, chances, supports.follows_from(kept)), whole)
 
 
-def _checked_list(facts):
-    if not isinstance(facts, (list, tuple)):
-        raise BadFact(0)
-    for index, thing in enumerate(facts):
-        if as_fact(thing) is None:
-            raise BadFact(index)
-    return [as_fact(thing) for thing in facts]
-
-
 def chance_given(rules, facts, fact, chances, follow, lack):
     """The chance that a fact follows where all of some follow, and none of others, None where these never do."""
     kept = checked_question_of(rules, fact)
     _check_chances(facts, chances)
-    following = _checked_list(follow)
-    lacking = _checked_list(lack)
+    following = list_of_facts(follow)
+    lacking = list_of_facts(lack)
     supports = Supports(rules, facts)
     holds = [True] * (1 << len(supports.base))
     for other in following:

@@ -5,16 +5,21 @@ from rulehouse.names import is_integer, term_key
 from rulehouse.parts import as_fact, atom_key
 
 
-def checked_facts(facts):
-    """The tuple of the unlike facts of a list, in THE ORDER; BadFact for the first that is none."""
+def list_of_facts(facts):
+    """The list of the facts that an object lists, tuples; BadFact for the first thing that is none."""
     if not isinstance(facts, (list, tuple)):
         raise BadFact(0)
-    found = {}
+    found = []
     for index, thing in enumerate(facts):
-        fact = as_fact(thing)
-        if fact is None:
+        found.append(as_fact(thing))
+        if found[-1] is None:
             raise BadFact(index)
-        found[fact] = True
+    return found
+
+
+def _checked_facts(facts):
+    """The tuple of the unlike facts of a list, in THE ORDER; BadFact for the first that is none."""
+    found = {fact: True for fact in list_of_facts(facts)}
     return tuple(sorted(list(found), key=atom_key))
 
 
@@ -22,7 +27,7 @@ class Facts:
     """A set of facts that never changes, made of a list."""
 
     def __init__(self, facts):
-        self._listed = checked_facts(facts)
+        self._listed = _checked_facts(facts)
         self._known = {fact: True for fact in self._listed}
 
     def listed(self):

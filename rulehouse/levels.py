@@ -2,7 +2,7 @@
 
 from rulehouse.errors import RingThroughNot
 from rulehouse.facts import Facts
-from rulehouse.finding import Pattern
+from rulehouse.finding import Pattern, patterns_of
 from rulehouse.growing import grown
 from rulehouse.linking import is_strict_ring, least_levels, strict_ring
 from rulehouse.parts import atom_of
@@ -62,11 +62,27 @@ def grown_at(rules, found, level, standing):
     return list(grown(patterns, standing, {fact: True for fact in standing}))
 
 
+def refuse_rings_through_nots(rules):
+    """Raises RingThroughNot with a not ring of as few links as can be, if there is one."""
+    _stages(rules)
+
+
+def _stages(rules):
+    """The list, level by level, of the lists of patterns with this level, made once and kept with the rules."""
+    if "stages" not in rules.memory:
+        _refuse_rings(rules)
+        found = levels(rules)
+        patterns = patterns_of(rules)
+        rules.memory["stages"] = [[pattern for pattern in patterns if found[pattern.head[0]] == level]
+                                  for level in range(max(list(found.values()), default=-1) + 1)]
+    return rules.memory["stages"]
+
+
 def by_levels(rules, facts):
     """The Facts of what comes of facts level by level."""
-    _refuse_rings(rules)
-    found = levels(rules)
     standing = facts.listed()
-    for level in range(max(list(found.values()), default=-1) + 1):
-        standing = grown_at(rules, found, level, standing)
+    for patterns in _stages(rules):
+        if patterns:
+            # What stands behind nots is of lesser levels, so nothing of it comes at this one.
+            standing = list(grown(patterns, standing, {fact: True for fact in standing}))
     return Facts(standing)

@@ -63,10 +63,23 @@ class Supports:
                         again[user] = True
             touched = sorted(list(again))
 
+    def _told_by(self, row):
+        return [bits >> number & 1 == 1 for bits in row for number in range(1 << self._low)]
+
     def follows_from(self, fact):
         """The list, by the numbers of all sets, of whether a fact follows from them."""
-        row = self._rows.get(fact, [0] * self._many)
-        return [bits >> number & 1 == 1 for bits in row for number in range(1 << self._low)]
+        return self._told_by(self._rows.get(fact, [0] * self._many))
+
+    def one_follows_from(self, rows):
+        """The list, by the numbers of all sets, of whether all facts of one row, at least, follow from them."""
+        found = [0] * self._many
+        for facts in rows:
+            found = [one | other for one, other in zip(found, self._row_by(facts))]
+        return self._told_by(found)
+
+    def all_facts(self):
+        """The list of all facts that follow from some set."""
+        return list(self._rows)
 
     def set_of(self, number):
         """The set with a number, a tuple."""
