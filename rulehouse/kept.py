@@ -98,7 +98,7 @@ def _numbers_told(facts, thing):
     if not isinstance(thing, dict):
         return None
     for key, number in thing.items():
-        if not isinstance(key, tuple) or as_fact(key) is None or not is_integer(number) or number < 0:
+        if as_fact(key) is None or not is_integer(number) or number < 0:
             return None
     if not all([fact in thing for fact in facts.listed()]):
         return None

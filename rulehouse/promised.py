@@ -7,7 +7,7 @@ from rulehouse.errors import NotGiven
 from rulehouse.facts import Facts
 from rulehouse.matching import is_call_of
 from rulehouse.names import is_thing
-from rulehouse.parts import atom_of, filled_part, is_plain, letters_in
+from rulehouse.parts import filled_part, letters_in
 from rulehouse.promises import Bundle, Promises, atoms_of_promise, breaks_at
 from rulehouse.rules import is_number_of, refuse_nots
 
@@ -21,23 +21,13 @@ def _check_given(rules, given):
             raise NotGiven(number)
 
 
-def _at_the_beginning(promise, made):
-    """What is left of a promise where no fact of made relations stands, None if it can't be broken there."""
-    body, ways = promise
-    if any([is_plain(part) and part[0] in made for part in body]):
-        return None
-    kept = tuple([part for part in body if part[0] != "not" or atom_of(part)[0] not in made])
-    return (kept, tuple([way for way in ways if way[0] not in made]))
-
-
 def _broken_at_first(rules, given, promise):
     """A pair (facts, match) of a beginning that breaks a promise, None if there is none."""
-    left = _at_the_beginning(promise, rules.made())
-    found = None if left is None else apart(Bundle(given.listed() + [left]), len(given))
-    if found is None:
+    made = rules.made()
+    if any([part[0] in made for part in promise[0]]):
         return None
-    facts, match = found
-    return facts, {letter: match[letter] for letter in letters_in(promise[0])}
+    # Nothing forces facts of made relations to stand: given promises do not tell of them.
+    return apart(Bundle(given.listed() + [promise]), len(given))
 
 
 def _kind_of(rule):

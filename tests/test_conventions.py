@@ -12,18 +12,25 @@ from rulehouse.company import (adds_nothing, company, holds, is_company, lean, m
 from rulehouse.costs import cheapest, cost_line, costs, tree_cost
 from rulehouse.errors import HouseError
 from rulehouse.facts import Facts
+from rulehouse.floating import floating, floating_ring, is_floating
 from rulehouse.foldings import foldings, is_folding, least_part
 from rulehouse.folds import Folds, fold_levels, fold_ring, folded, is_fold_ring
 from rulehouse.following import heights, steps_for, what_follows
 from rulehouse.goals import answers, chain_to, goal_rules, goal_table, is_chain, is_goal_table, shows_not
 from rulehouse.joins import joined, plain_form, unfolded
+from rulehouse.kept import Kept, is_kept
 from rulehouse.levels import by_levels, is_not_ring, levels, ring_through_not
+from rulehouse.madeways import fresh_matches, ways
 from rulehouse.matching import answers_of, is_match, many_matches, matches
+from rulehouse.matters import matters
+from rulehouse.merging import merged, odd_ones
 from rulehouse.orders import best_order, join_sizes, summed_out
 from rulehouse.parts import is_atom, is_body, is_fact, is_part, is_rule, letters_of, put_in
 from rulehouse.polynomials import polynomial, polynomial_to, worth
 from rulehouse.programs import least_rules, parting_facts, rule_tree, rule_world, spare_rules, unfollowed
+from rulehouse.promised import falling_out, is_falling_out, promised
 from rulehouse.promises import Promises
+from rulehouse.repairs import broken, in_repairs, left_out, quarrels, repair_papers, repairs
 from rulehouse.retelling import not_retold, retold
 from rulehouse.reasons import blame, is_least_break, is_least_set, least_breaks, least_sets, role
 from rulehouse.rules import Rules, hangs_on, is_in_ring, rings
@@ -34,6 +41,7 @@ from rulehouse.treecounts import plain_trees, round_tree, tree_count, trees_with
 from rulehouse.trees import is_tree, least_steps, tree_of
 from rulehouse.unfoldings import expansions, first_apart, slow_facts
 from rulehouse.ways import is_way_paper, parting_way, way_paper, word_machine, words_of
+from rulehouse.wishes import bars, grants, is_bars, joint_sets, lean_changes, least_changes
 from rulehouse.worlds import is_world, world_without, worlds_within
 from rulehouse.worths import are_worths, worths_for
 
@@ -54,9 +62,13 @@ PROMISES = [[[["e", "X", "Y"]], [["e", "Y", "X"]]], [[["e", "X", "Y"], ["e", "Y"
 PRICES = {("e", "a", "b"): 3, ("e", "b", "c"): 1, ("q", 1): 0}
 FOLDS = [["count", ["n", "X"], ["Y"], [["way", "X", "Y"], ["not", ["q", "X"]]]], ["least", ["m"], ["X", "Y"], [["e", "X", "Y"]]]]
 RING_FOLDS = [["count", ["e", "X"], ["Y"], [["way", "X", "Y"]]]]
+WANTED = [[[["way", "X", "Y"]], [["e", "X", "Y"]]], [[["way", "X", "Y"]], [["way", "Y", "X"]]]]
+DENIALS = [[["way", "X", "Y"], ["way", "Y", "Z"], ["unlike", "X", "Z"]]]
 COMPANY = [Rules([]), Facts([]), Facts([["p"]])]
 # Calls whose arguments are of one kind in name and of another one here.
 ATOMS = (joined, foldings, is_folding)
+PROMISING = (promised, falling_out, is_falling_out)
+GIVEN = (role, blame, cost_line)
 
 # Each call with its arguments under their names; Rules and Facts are made of lists anew each time.
 CALLS = [
@@ -156,10 +168,36 @@ CALLS = [
     (breaking, {"promises": PROMISES, "kind": [[["e", "X", "Y"]], [["q", 1]], [["e", "Y", "c"]]], "number": 0}),
     (safe_closings, {"promises": PROMISES, "kind": [[["e", "X", "Y"]], [["q", 1]], [["e", "X", "Y"]]], "number": 0}),
     (are_safe_closings, {"promises": [[[["p"]], [["q"]]]], "kind": [[], [], [["q"]]], "number": 0, "thing": []}),
+    (promised, {"rules": WAY, "given": PROMISES[:1], "wanted": WANTED}),
+    (falling_out, {"rules": WAY, "given": PROMISES[:1], "wanted": WANTED}),
+    (is_falling_out, {"rules": [[["p"], []]], "given": [], "wanted": [[[["p"]], []], [[["p"]], [["q"]]]],
+                      "thing": [[0, 0, Facts([]), {}, {}], [1, 0, Facts([]), {}, {}]]}),
+    (ways, {"rules": WAY, "facts": EDGES, "fact": ["way", "a", "b"]}),
+    (fresh_matches, {"rules": FLAT, "number": 0, "old": [["r", 1]], "new": EDGES}),
+    (is_kept, {"rules": FLAT, "facts": [["q", 1]], "thing": {("q", 1): 0, ("p", 1): 1, ("s",): 2}}),
+    (floating, {"rules": [[["p"], [["p"]]], [["p"], [["e", "X", "Y"]]]], "facts": EDGES[:1], "some": EDGES[:1]}),
+    (floating_ring, {"rules": [[["p"], [["p"]]], [["p"], [["e", "X", "Y"]]]], "facts": EDGES[:1], "some": EDGES[:1]}),
+    (is_floating, {"rules": [[["p"], [["p"]]]], "facts": EDGES, "thing": [["p"]]}),
+    (merged, {"base": EDGES, "one": EDGES[1:], "other": EDGES[:2] + [["q", 7]]}),
+    (odd_ones, {"rules": FLAT, "base": [["q", 1], ["q", 2]], "one": [["q", 1]], "other": [["q", 2]]}),
+    (matters, {"rules": FLAT[1:], "relation": "s", "fact": ["p", 1]}),
+    (grants, {"rules": WAY, "facts": EDGES, "wanted": [["way", "c", "a"]], "barred": [["q", 1]], "menu": [["e", "c", "a"]],
+              "thing": [[["q", 1]], [["e", "c", "a"]]]}),
+    (least_changes, {"rules": WAY, "facts": EDGES, "wanted": [["way", "c", "a"]], "barred": [["q", 1]], "menu": [["e", "c", "a"]]}),
+    (lean_changes, {"rules": WAY, "facts": EDGES, "wanted": [["way", "c", "a"]], "barred": [["q", 1]], "menu": [["e", "c", "a"]]}),
+    (joint_sets, {"rules": WAY, "facts": EDGES, "wanted": [["way", "a", "c"], ["q", 1]]}),
+    (bars, {"rules": WAY, "facts": EDGES, "wanted": [["way", "a", "c"]], "barred": [["way", "b", "c"]], "menu": []}),
+    (is_bars, {"rules": WAY, "facts": EDGES, "wanted": [["q", 1]], "barred": [["q", 1]], "menu": [],
+               "thing": [[[["q", 1]], [["q", 1], None, []]]]}),
+    (broken, {"rules": WAY, "facts": EDGES, "denials": DENIALS}), (quarrels, {"rules": WAY, "facts": EDGES, "denials": DENIALS}),
+    (left_out, {"rules": WAY, "facts": EDGES, "denials": DENIALS}), (repairs, {"rules": WAY, "facts": EDGES, "denials": DENIALS}),
+    (in_repairs, {"rules": WAY, "facts": EDGES, "denials": DENIALS, "fact": ["way", "a", "b"]}),
+    (repair_papers, {"rules": WAY, "facts": EDGES, "denials": DENIALS, "fact": ["way", "a", "b"]}),
     (looks, {"promises": PROMISES, "deed": [[], [], [["e", 1, 2]]]}),
 ]
 KIND_OF = {"rules": Rules, "facts": Facts, "seen": Facts, "most": Facts, "low": Facts, "high": Facts, "have": Facts,
-           "lack": Facts, "here": Facts, "there": Facts, "one": Rules, "other": Rules, "more": Rules, "folds": Folds, "promises": Promises}
+           "lack": Facts, "here": Facts, "there": Facts, "one": Rules, "other": Rules, "more": Rules, "folds": Folds,
+           "promises": Promises, "given": Promises, "wanted": Promises, "old": Facts, "new": Facts, "base": Facts}
 
 
 def swapped(thing):
@@ -174,8 +212,10 @@ def swapped(thing):
 def made(call, name, thing):
     if name == "thing" and call is is_steady:
         return Facts(thing)
-    if name == "lack" and call is chance_given:
+    if (name == "lack" and call is chance_given) or (name == "wanted" and call not in PROMISING) or (name == "given" and call in GIVEN):
         return thing
+    if name in ("one", "other") and call in (merged, odd_ones):
+        return Facts(thing)
     if name in KIND_OF and isinstance(thing, (list, tuple)) and not (call in ATOMS and name in ("one", "other")):
         return KIND_OF[name](thing)
     return thing

@@ -58,6 +58,19 @@ FUNCTIONS = {
     "closings": ["closings(promises, number)", "are_closings(promises, number, thing)", "facts_apart(promises, number)"],
     "breaking": ["done_deed(facts, deed)", "breaking(promises, kind, number)", "safe_closings(promises, kind, number)",
                  "are_safe_closings(promises, kind, number, thing)", "looks(promises, deed)"],
+    "promised": ["promised(rules, given, wanted)", "falling_out(rules, given, wanted)",
+                 "is_falling_out(rules, given, wanted, thing)"],
+    "madeways": ["ways(rules, facts, fact)", "fresh_matches(rules, number, old, new)"],
+    "kept": ["is_kept(rules, facts, thing)"],
+    "floating": ["floating(rules, facts, some)", "is_floating(rules, facts, thing)", "floating_ring(rules, facts, some)"],
+    "merging": ["merged(base, one, other)", "odd_ones(rules, base, one, other)"],
+    "matters": ["matters(rules, relation, fact)"],
+    "wishes": ["grants(rules, facts, wanted, barred, menu, thing)", "least_changes(rules, facts, wanted, barred, menu)",
+               "lean_changes(rules, facts, wanted, barred, menu)", "joint_sets(rules, facts, wanted)",
+               "bars(rules, facts, wanted, barred, menu)", "is_bars(rules, facts, wanted, barred, menu, thing)"],
+    "repairs": ["broken(rules, facts, denials)", "quarrels(rules, facts, denials)", "left_out(rules, facts, denials)",
+                "repairs(rules, facts, denials)", "in_repairs(rules, facts, denials, fact)",
+                "repair_papers(rules, facts, denials, fact)"],
     "levels": ["levels(rules)", "ring_through_not(rules)", "is_not_ring(rules, thing)", "by_levels(rules, facts)"],
 }
 CLASSES = {
@@ -67,6 +80,8 @@ CLASSES = {
     ("rules", "Rules", "rules"): ["listed(self)", "made(self)", "given(self)", "about(self, relation)",
                                   "without(self, number)", "__len__", "__or__", "__eq__"],
     ("folds", "Folds", "folds"): ["listed(self)", "__len__", "__eq__"],
+    ("kept", "Kept", "rules, facts"): ["given(self)", "standing(self)", "numbers(self)", "change(self, put, take)",
+                                       "version(self)", "given_at(self, version)", "back(self, version)"],
     ("promises", "Promises", "promises"): ["listed(self)", "all_broken(self, facts)", "__len__", "__eq__"],
 }
 

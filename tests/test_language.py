@@ -12,7 +12,7 @@ METHODS = set("""append clear copy count endswith extend find get index insert i
     setdefault split splitlines startswith strip update upper values zfill bit_length""".split())
 BARRED = (ast.GeneratorExp, ast.Yield, ast.YieldFrom, ast.Global, ast.AsyncFunctionDef, ast.Await, ast.Try, ast.Set,
           ast.Div, ast.AnnAssign, ast.With, ast.Match)
-LIBRARY = {"heapq": {"heappush", "heappop"}, "math": {"gcd", "lcm", "factorial"}}
+LIBRARY = {"heapq": {"heappush", "heappop"}, "math": {"gcd", "lcm", "factorial"}, "itertools": {"permutations"}}
 WORDS = ("type", "typing", "enum", "dataclass", "overload", "namedtuple", "_wall", "_WallAttr")
 
 

@@ -81,6 +81,13 @@ class Matters(unittest.TestCase):
         told = matters(rules_of("p X if e X, e Y, g X Y", "p X if e Y, g X Y"), "p", ("e", 4))
         self.assertTrue(shows(rules_of("p X if e X, e Y, g X Y", "p X if e Y, g X Y").listed(), "p", ("e", 4), told))
 
+    def test_heads_that_can_not_be_taken_together(self):
+        rules = rules_of("q X if p b X", "p a X if e X", "p b X if f X", "p X X if g X", "p b a if h")
+        for fact, told in ((("e", 1), False), (("f", 1), True), (("g", "b"), True), (("g", "a"), False), (("h",), True)):
+            found = matters(rules, "q", fact)
+            self.assertEqual(found is not None, told, fact)
+            self.assertTrue(found is None or shows(rules.listed(), "q", fact, found))
+
     def test_errors(self):
         both = rules_of("p X if q X, unlike X 1", "q X if q X, not r X")
         with self.assertRaises(HasNot) as caught:

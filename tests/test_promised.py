@@ -176,10 +176,11 @@ class Promised(unittest.TestCase):
                  (number, index, facts, {letter: 9 for letter in calls}, match),
                  (number, index, facts, calls, {letter: True for letter in match}),
                  first[:3] + ({"X": 0},) + first[4:], first[:3] + ((),) + first[4:], first[:1] + (0,) + first[2:],
-                 first[:2] + (facts_of("way 0 0"),) + first[3:]]
+                 first[:2] + (facts_of("way 0 0"),) + first[3:], first[:2] + (first[2] | facts_of("edge 8 9"),) + first[3:],
+                 (number, index, facts | facts_of("edge 8 9"), calls, match)]
         for thing in odd_objects() + wrong:
-            self.assertIs(is_falling_out(WAY, GIVEN, WANTED, [thing]), False, thing)
-            self.assertIs(is_falling_out(WAY, GIVEN, WANTED, rows + [thing]), False, thing)
+            for ahead in ([], [one for one in rows if one[1] is None], [one for one in rows if one[1] is None][1:], rows):
+                self.assertIs(is_falling_out(WAY, GIVEN, WANTED, ahead + [thing]), False, thing)
         for thing in odd_objects() + [rows + rows[:1], {}, {0: 1}, "", Facts([])]:
             if thing not in ([], ()):
                 self.assertIs(is_falling_out(WAY, GIVEN, WANTED, thing), False, thing)
