@@ -95,6 +95,15 @@ class Changes(unittest.TestCase):
         self.assertEqual(lean_changes(rules, facts_of("a", "d"), [("q",)], [("bad",)], [("b",), ("c",)]), [
             ((("a",),), (("b",), ("c",)))])
 
+    def test_the_order_of_changes(self):
+        rules = rules_of("bad if a, b", "bad if a, c", "w if x", "w if y, z")
+        a, b, c, x, y, z = [(name,) for name in "abcxyz"]
+        told = (rules, Facts([a, b, c]), [("w",)], [("bad",)], [x, y, z])
+        self.assertEqual(lean_changes(*told), [((a,), (x,)), ((a,), (y, z)), ((b, c), (x,)), ((b, c), (y, z))])
+        rules = rules_of("bad if a, b", "w if x", "w if y")
+        self.assertEqual(least_changes(rules, Facts([a, b, c]), [("w",)], [("bad",)], [y, x]), [
+            ((a,), (x,)), ((a,), (y,)), ((b,), (x,)), ((b,), (y,))])
+
     def test_grants(self):
         told = (WAY, EDGES, [("way", 3, 2)], [("way", 1, 2)], [("edge", 3, 2), ("edge", 2, 2), ONE_TWO])
         for thing in (((ONE_TWO, ONE_THREE), (("edge", 3, 2),)), [[list(ONE_THREE), ONE_TWO], [["edge", 3, 2]]],
