@@ -74,7 +74,8 @@ class Dealings:
         found = []
         for index, name in enumerate(self.done):
             for other in self.done[index + 1:]:
-                found.extend([(name, other, "write", told) for told in self.written[name] if told in self.written[other]])
+                both = [told for told in self.written[name] if told in self.written[other]]
+                found.extend([(name, other, "write", told) for told in both])
             for relation in self.seen[name]:
                 source = self._seen_from(name, relation)
                 if source is not None:
