@@ -5,7 +5,7 @@ from rulehouse.finding import Pattern, Shelves, filled, sorted_matches
 from rulehouse.matching import is_match
 from rulehouse.names import is_integer
 from rulehouse.parts import as_atom, as_body, atom_of, filled_part, is_plain, loose_letters
-from rulehouse.rules import check_even
+from rulehouse.rules import are_even, check_even
 
 
 def as_atoms(thing):
@@ -16,7 +16,7 @@ def as_atoms(thing):
     return None if None in atoms else atoms
 
 
-def _as_promise(thing):
+def as_promise(thing):
     """The promise that any object is, of tuples, None if it is none."""
     if not isinstance(thing, (list, tuple)) or len(thing) != 2:
         return None
@@ -31,21 +31,35 @@ def atoms_of_promise(promise):
     return [atom for atom in atoms if atom is not None] + list(promise[1])
 
 
+def _loose_in(promise):
+    """The letters that make a promise loose, in the order of body and then ways."""
+    body, ways = promise
+    return loose_letters([part for part in body if not is_plain(part)] + list(ways), body)
+
+
 def _checked_promises(promises):
     if not isinstance(promises, (list, tuple)):
         raise BadPromise(0)
     kept = []
     for index, thing in enumerate(promises):
-        promise = _as_promise(thing)
+        promise = as_promise(thing)
         if promise is None:
             raise BadPromise(index)
         kept.append(promise)
     check_even([atoms_of_promise(promise) for promise in kept])
-    for index, (body, ways) in enumerate(kept):
-        loose = loose_letters([part for part in body if not is_plain(part)] + list(ways), body)
+    for index, promise in enumerate(kept):
+        loose = _loose_in(promise)
         if loose:
             raise Loose(index, loose[0])
     return tuple(kept)
+
+
+def as_promise_alone(thing):
+    """The promise that any object is, of tuples, None if it is none or Promises does not take it alone."""
+    promise = as_promise(thing)
+    if promise is None or not are_even([atoms_of_promise(promise)]):
+        return None
+    return None if _loose_in(promise) else promise
 
 
 class Promises:

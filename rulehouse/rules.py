@@ -34,9 +34,22 @@ def _uneven_place(rows):
     return None
 
 
+def are_even(rows):
+    """Whether each relation in rows of atoms has one number of places."""
+    return _uneven_place(rows) is None
+
+
 def is_even(rules):
     """Whether each relation in a list of rules has one number of places."""
-    return _uneven_place([atoms_of(rule) for rule in rules]) is None
+    return are_even([atoms_of(rule) for rule in rules])
+
+
+def as_rule_alone(thing):
+    """The rule that any object is, of tuples, None if it is none or Rules does not take it alone."""
+    rule = as_rule(thing)
+    if rule is None or not is_even([rule]) or loose_in_rule(rule):
+        return None
+    return rule
 
 
 def _check_safe(rules):

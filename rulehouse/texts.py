@@ -61,7 +61,7 @@ def _term_in(word):
     return None
 
 
-def _part_in(text):
+def part_told(text):
     """The part that has a text, None if there is none."""
     words = text.split(" ")
     if words[0] == "not":
@@ -69,24 +69,24 @@ def _part_in(text):
     return as_part(words[:1] + [_term_in(word) for word in words[1:]])
 
 
-def _body_in(text):
+def body_told(text):
     """The tuple of parts that has a text, None if there is none."""
     if text == "":
         return ()
-    return as_body([_part_in(part) for part in text.split(", ")])
+    return as_body([part_told(part) for part in text.split(", ")])
 
 
-def _rule_in(text):
+def rule_told(text):
     """The rule that has a text, None if there is none."""
     head, word, body = text.partition(IF)
     if word != "" and body == "":
         return None
-    return as_rule((_part_in(head), _body_in(body)))
+    return as_rule((part_told(head), body_told(body)))
 
 
 def fact_in(line):
     """The fact that has a text."""
-    fact = as_fact(_part_in(line)) if isinstance(line, str) else None
+    fact = as_fact(part_told(line)) if isinstance(line, str) else None
     if fact is None:
         raise BadText(line)
     return fact
@@ -94,7 +94,7 @@ def fact_in(line):
 
 def rule_in(line):
     """The rule that has a text, safe or not."""
-    rule = _rule_in(line) if isinstance(line, str) else None
+    rule = rule_told(line) if isinstance(line, str) else None
     if rule is None:
         raise BadText(line)
     return rule
@@ -102,7 +102,7 @@ def rule_in(line):
 
 def body_in(line):
     """The body that has a text."""
-    body = _body_in(line) if isinstance(line, str) else None
+    body = body_told(line) if isinstance(line, str) else None
     if body is None:
         raise BadText(line)
     return list(body)
@@ -118,39 +118,40 @@ def write_rules(rules):
     return "".join([_rule_text(rule) + "\n" for rule in rules.listed()])
 
 
-def _lines_of(text):
+def lines_of(text):
     """The lines of a text, and behind them what stands behind the last line feed."""
     if not isinstance(text, str):
         raise BadLine(0)
     return text.split("\n")
 
 
-def _check_end(lines):
+def check_end(lines):
+    """Raises BadLine if the last line lacks its line feed."""
     if lines[-1] != "":
         raise BadLine(len(lines) - 1)
 
 
 def read_facts(text):
     """The set of facts that has a text."""
-    lines = _lines_of(text)
+    lines = lines_of(text)
     facts = []
     for index, line in enumerate(lines[:-1]):
-        fact = as_fact(_part_in(line))
+        fact = as_fact(part_told(line))
         if fact is None:
             raise BadLine(index)
         facts.append(fact)
-    _check_end(lines)
+    check_end(lines)
     return Facts(facts)
 
 
 def read_rules(text):
     """The Rules that has a text."""
-    lines = _lines_of(text)
+    lines = lines_of(text)
     rules = []
     for index, line in enumerate(lines[:-1]):
-        rule = _rule_in(line)
+        rule = rule_told(line)
         if rule is None:
             raise BadLine(index)
         rules.append(rule)
-    _check_end(lines)
+    check_end(lines)
     return Rules(rules)

@@ -10,7 +10,7 @@ BUILTINS = set("""len range enumerate zip min max sum abs sorted reversed int st
 METHODS = set("""append clear copy count endswith extend find get index insert isalnum isalpha isdigit islower isspace
     isupper items join keys ljust lower lstrip partition pop remove replace reverse rfind rjust rpartition rsplit rstrip
     setdefault split splitlines startswith strip update upper values zfill bit_length""".split())
-BARRED = (ast.GeneratorExp, ast.Yield, ast.YieldFrom, ast.Global, ast.AsyncFunctionDef, ast.Await, ast.Try, ast.Set,
+BARRED = (ast.GeneratorExp, ast.Yield, ast.YieldFrom, ast.Global, ast.AsyncFunctionDef, ast.Await, ast.Set,
           ast.Div, ast.AnnAssign, ast.With, ast.Match)
 LIBRARY = {"heapq": {"heappush", "heappop"}, "math": {"gcd", "lcm", "factorial"}, "itertools": {"permutations"}}
 WORDS = ("type", "typing", "enum", "dataclass", "overload", "namedtuple", "_wall", "_WallAttr")
@@ -27,6 +27,9 @@ def tree_of(path):
 def own_imports(path):
     return [node for node in tree_of(path).body
             if isinstance(node, ast.ImportFrom) and node.module not in LIBRARY]
+
+
+OWN_ERRORS = [node.name for node in tree_of(FOLDER / "errors.py").body if isinstance(node, ast.ClassDef)]
 
 
 def local_names(tree):
@@ -56,6 +59,8 @@ class Language(unittest.TestCase):
         for path in files():
             for node in ast.walk(tree_of(path)):
                 self.assertNotIsInstance(node, BARRED, (path, getattr(node, "lineno", 0)))
+                if isinstance(node, ast.Try):
+                    self.check_try(node, path)
                 if isinstance(node, ast.Constant) and isinstance(node.value, str):
                     self.assertNotIn("%", node.value, path)
                     for word in WORDS:
@@ -65,6 +70,15 @@ class Language(unittest.TestCase):
                     self.assertTrue(node.module.startswith("rulehouse.") or names <= LIBRARY[node.module], path)
                     self.assertEqual((node.level, [alias.asname for alias in node.names]), (0, [None] * len(names)), path)
                 self.assertNotIsInstance(node, ast.Import, path)
+
+    def check_try(self, node, path):
+        """That a try catches own errors alone, by name, and that what ends it assigns attributes alone."""
+        caught = [name.id for handler in node.handlers for name in ast.walk(handler.type) if isinstance(name, ast.Name)]
+        self.assertTrue(all([name in OWN_ERRORS for name in caught]), path)
+        for told in node.finalbody:
+            self.assertIsInstance(told, ast.Assign, path)
+            self.assertIsInstance(told.targets[0], ast.Attribute, path)
+            self.assertIsInstance(told.value, ast.Name, path)
 
     def test_builtins_and_methods(self):
         own = {node.name for path in files() for node in ast.walk(tree_of(path))
@@ -85,13 +99,14 @@ class Language(unittest.TestCase):
         methods = {node.name for made in classes for node in made.body if isinstance(node, ast.FunctionDef)}
         attributes = {node.attr for made in classes for node in ast.walk(made)
                       if isinstance(node, ast.Attribute) and isinstance(node.ctx, ast.Store)}
-        self.assertEqual(set(), methods & attributes)
+        # An error of the interface has an attribute that a class of it has as a method.
+        self.assertEqual({"contents"}, methods & attributes)
         for path in files():
             tree = tree_of(path)
             called = [id(node.func) for node in ast.walk(tree) if isinstance(node, ast.Call)]
             for node in ast.walk(tree):
                 if isinstance(node, ast.Attribute) and id(node) not in called:
-                    self.assertNotIn(node.attr, methods | METHODS - {"index"}, (path, node.lineno))
+                    self.assertNotIn(node.attr, (methods | METHODS) - {"index", "contents"}, (path, node.lineno))
 
     def test_names_are_bound_once(self):
         for path in files():
