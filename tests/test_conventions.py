@@ -10,6 +10,7 @@ from rulehouse.closings import are_closings, closings, facts_apart
 from rulehouse.company import (adds_nothing, company, holds, is_company, lean, may_stand_for, pair_against, parting_pair,
                                too_many)
 from rulehouse.costs import cheapest, cost_line, costs, tree_cost
+from rulehouse.disks import Disk, after, come_back, settled
 from rulehouse.errors import HouseError
 from rulehouse.facts import Facts
 from rulehouse.floating import floating, floating_ring, is_floating
@@ -17,9 +18,15 @@ from rulehouse.foldings import foldings, is_folding, least_part
 from rulehouse.folds import Folds, fold_levels, fold_ring, folded, is_fold_ring
 from rulehouse.following import heights, steps_for, what_follows
 from rulehouse.goals import answers, chain_to, goal_rules, goal_table, is_chain, is_goal_table, shows_not
+from rulehouse.histories import (clash_ring, clashes, is_clash_ring, is_order_of, order_of, seen_orders, sources,
+                                 spread)
+from rulehouse.houses import House
+from rulehouse.housetexts import promise_line, write_deeds, write_house
+from rulehouse.indexes import facts_on, is_index, put_fact, take_fact
 from rulehouse.joins import joined, plain_form, unfolded
 from rulehouse.kept import Kept, is_kept
 from rulehouse.levels import by_levels, is_not_ring, levels, ring_through_not
+from rulehouse.locks import are_calm, calm_states, way_to_stick
 from rulehouse.madeways import fresh_matches, ways
 from rulehouse.matching import answers_of, is_match, many_matches, matches
 from rulehouse.matters import matters
@@ -35,11 +42,13 @@ from rulehouse.retelling import not_retold, retold
 from rulehouse.reasons import blame, is_least_break, is_least_set, least_breaks, least_sets, role
 from rulehouse.rules import Rules, hangs_on, is_in_ring, rings
 from rulehouse.steady import is_no_world_with, is_steady, no_world_with, steady_worlds, world_with
+from rulehouse.stores import facts_at
 from rulehouse.texts import line_of, write_facts, write_rules
 from rulehouse.threes import argued, argument, is_halves, open_facts, sure_facts, turns, verdict
 from rulehouse.treecounts import plain_trees, round_tree, tree_count, trees_with
 from rulehouse.trees import is_tree, least_steps, tree_of
 from rulehouse.unfoldings import expansions, first_apart, slow_facts
+from rulehouse.versions import outcome, straight, ties, twist
 from rulehouse.ways import is_way_paper, parting_way, way_paper, word_machine, words_of
 from rulehouse.wishes import bars, grants, is_bars, joint_sets, lean_changes, least_changes
 from rulehouse.worlds import is_world, world_without, worlds_within
@@ -64,6 +73,14 @@ FOLDS = [["count", ["n", "X"], ["Y"], [["way", "X", "Y"], ["not", ["q", "X"]]]],
 RING_FOLDS = [["count", ["e", "X"], ["Y"], [["way", "X", "Y"]]]]
 WANTED = [[[["way", "X", "Y"]], [["e", "X", "Y"]]], [[["way", "X", "Y"]], [["way", "Y", "X"]]]]
 DENIALS = [[["way", "X", "Y"], ["way", "Y", "Z"], ["unlike", "X", "Z"]]]
+HISTORY = [["read", "a", "x"], ["write", "b", "x"], ["write", "a", "y"], ["read", "b", "y"], ["done", "b"], ["done", "a"]]
+RING = [["read", "a", "x"], ["write", "b", "x"], ["read", "b", "y"], ["write", "a", "y"], ["done", "a"], ["done", "b"]]
+PLAN = {"b": [["read", "y"], ["write", "x"]], "a": [["read", "x"], ["write", "y"]]}
+CALM = {"a": [["read", "x"]], "b": [["write", "x"]]}
+TIMES = [["begin", "a"], ["begin", "b"], ["end", "b"], ["end", "a"]]
+DISK = [{0: [1, "a"]}, {0: [1, ["b"]]}, [["set", "t", 0, [1, "a"], ["b"]]]]
+LEAVES = {0: ["fork", 1, ["p", 2], 2], 1: ["leaf", ["p", 0], ["p", 1]], 2: ["leaf", ["p", 2], ["p", 3]]}
+HOUSE = [["lay", "r", WAY[0]], ["put", EDGES[0]], ["watch", "w", WAY[0]], ["promise", "p", [[["e", "X", "X"]], []]]]
 COMPANY = [Rules([]), Facts([]), Facts([["p"]])]
 # Calls whose arguments are of one kind in name and of another one here.
 ATOMS = (joined, foldings, is_folding)
@@ -193,6 +210,17 @@ CALLS = [
     (left_out, {"rules": WAY, "facts": EDGES, "denials": DENIALS}), (repairs, {"rules": WAY, "facts": EDGES, "denials": DENIALS}),
     (in_repairs, {"rules": WAY, "facts": EDGES, "denials": DENIALS, "fact": ["way", "a", "b"]}),
     (repair_papers, {"rules": WAY, "facts": EDGES, "denials": DENIALS, "fact": ["way", "a", "b"]}),
+    (sources, {"history": HISTORY}), (clashes, {"history": HISTORY}), (order_of, {"history": HISTORY}),
+    (clash_ring, {"history": RING}), (is_order_of, {"history": HISTORY, "thing": ["a", "b"]}),
+    (is_clash_ring, {"history": RING, "thing": [[0, 1], [2, 3]]}), (seen_orders, {"history": HISTORY}),
+    (spread, {"history": [["read", "a", "way"]], "rules": WAY}), (way_to_stick, {"plan": PLAN}), (calm_states, {"plan": CALM}),
+    (are_calm, {"plan": CALM, "thing": [[0, 0], [0, 1], [1, 0], [1, 1]]}), (outcome, {"plan": PLAN, "times": TIMES}),
+    (ties, {"plan": PLAN, "times": TIMES}), (straight, {"plan": CALM, "times": TIMES}), (twist, {"plan": PLAN, "times": TIMES}),
+    (settled, {"disk": DISK}), (come_back, {"disk": DISK}), (after, {"disk": DISK, "writes": [["log", ["seal", "t"]]]}),
+    (is_index, {"contents": LEAVES, "width": 3}), (facts_on, {"contents": LEAVES, "width": 4}),
+    (put_fact, {"contents": LEAVES, "width": 3, "fact": ["p", 7]}), (take_fact, {"contents": LEAVES, "width": 3, "fact": ["p", 1]}),
+    (facts_at, {"disk": [{0: ["leaf", ["p", 1]]}, {0: [0, ["leaf", ["p", 1]]]}, []], "width": 5}),
+    (promise_line, {"promise": PROMISES[2]}), (write_house, {"house": HOUSE}), (write_deeds, {"house": HOUSE}),
     (looks, {"promises": PROMISES, "deed": [[], [], [["e", 1, 2]]]}),
 ]
 KIND_OF = {"rules": Rules, "facts": Facts, "seen": Facts, "most": Facts, "low": Facts, "high": Facts, "have": Facts,
@@ -210,6 +238,12 @@ def swapped(thing):
 
 
 def made(call, name, thing):
+    if name == "disk":
+        return Disk(*thing)
+    if name == "house":
+        house = House()
+        house.do(thing)
+        return house
     if name == "thing" and call is is_steady:
         return Facts(thing)
     if (name == "lack" and call is chance_given) or (name == "wanted" and call not in PROMISING) or (name == "given" and call in GIVEN):
@@ -223,6 +257,8 @@ def made(call, name, thing):
 
 def plain(thing):
     """A returned object with the sets and rules in it told as lists."""
+    if isinstance(thing, Disk):
+        return ["Disk", plain([thing.first(), thing.pages(), thing.log()])]
     if isinstance(thing, (Facts, Rules, Folds, Promises)):
         return [type(thing).__name__, thing.listed()]
     if isinstance(thing, tuple):
