@@ -8,16 +8,29 @@ from rulehouse.parts import as_fact
 from rulehouse.rules import is_number_of
 
 
+def _cases_by_head(rules, facts):
+    """The pair of the facts of wide and of the dict from heads to the pairs (plain facts, not facts) of their cases.
+
+    The last pair is kept with the rules, as calls often ask the same ones.
+    """
+    kept = rules.memory.get("heads")
+    if kept is None or kept[0] != facts:
+        wide, found = wide_cases(patterns_of(rules), facts.listed())
+        by_head = {}
+        for head, below, nots in found:
+            by_head.setdefault(head, []).append((below, nots))
+        kept = (facts, wide, by_head)
+        rules.memory["heads"] = kept
+    return kept[1:]
+
+
 class Hearing:
     """What the claims of an argument tell, as far as they are looked through."""
 
     def __init__(self, rules, facts):
         self._given = {fact: True for fact in facts.listed()}
         self._patterns = patterns_of(rules)
-        self._wide, found = wide_cases(self._patterns, list(self._given))
-        self._by_head = {}
-        for head, below, nots in found:
-            self._by_head.setdefault(head, []).append((below, nots))
+        self._wide, self._by_head = _cases_by_head(rules, facts)
         self._sure = {fact: True for fact in self._given}
         self._never = {}
 

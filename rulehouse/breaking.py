@@ -70,8 +70,10 @@ def safe_closings(promises, kind, number):
 def are_safe_closings(promises, kind, number, thing):
     """Whether any object is a list of the pairs (case, closing) of all cases of a kind and a promise, in order."""
     kept = _checked_kind(promises, kind, number)
+    if not isinstance(thing, (list, tuple)):
+        return False
     cases = cases_of(promises, kept, number)
-    if not isinstance(thing, (list, tuple)) or len(thing) != len(cases):
+    if len(thing) != len(cases):
         return False
     for pair, case in zip(thing, cases):
         if not isinstance(pair, (list, tuple)) or len(pair) != 2:

@@ -78,8 +78,10 @@ def is_same_case(thing, case):
 def are_closings(promises, number, thing):
     """Whether any object is a list of the pairs (case, closing) of all cases of a promise, in order."""
     check_number(promises, number)
+    if not isinstance(thing, (list, tuple)):
+        return False
     cases = _cases(promises, number)
-    if not isinstance(thing, (list, tuple)) or len(thing) != len(cases):
+    if len(thing) != len(cases):
         return False
     for pair, (case, held, barred) in zip(thing, cases):
         if not isinstance(pair, (list, tuple)) or len(pair) != 2 or not is_same_case(pair[0], case):

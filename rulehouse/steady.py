@@ -1,16 +1,21 @@
 """Steady worlds, and papers that there is none with some facts and without others."""
 
-from rulehouse.cases import behind
 from rulehouse.facts import Facts
 from rulehouse.opens import opens_of
 from rulehouse.parts import as_fact
+from rulehouse.turning import turning_of
 
 CLASH = ("clash",)
 
 
 def is_steady(rules, facts, thing):
     """Whether any object is a set of facts that is its own behind."""
-    return isinstance(thing, Facts) and behind(rules, facts, thing) == thing
+    if not isinstance(thing, Facts):
+        return False
+    turning = turning_of(rules, facts)
+    bits = turning.bits_of(thing.listed())
+    # What is behind a set is of wide, so a set with other facts is none.
+    return bits is not None and turning.behind(bits) == bits
 
 
 def _worlds(opens, low, high, only_one):

@@ -1,7 +1,6 @@
 """What is sure, what is never, and what is open, where rules say not."""
 
 from rulehouse.arguing import Hearing
-from rulehouse.cases import behind
 from rulehouse.facts import facts_in_order
 from rulehouse.finding import calls_by, letters_alone, patterns_of
 from rulehouse.following import checked_fact
@@ -93,4 +92,10 @@ def is_halves(rules, facts, low, high):
     """Whether low is within high, and each of both is behind of the other."""
     if not low.is_within(high):
         return False
-    return behind(rules, facts, low) == high and behind(rules, facts, high) == low
+    turning = turning_of(rules, facts)
+    lower = turning.bits_of(low.listed())
+    upper = turning.bits_of(high.listed())
+    # What is behind a set is of wide, so sets with other facts are no halves.
+    if lower is None or upper is None:
+        return False
+    return turning.behind(lower) == upper and turning.behind(upper) == lower

@@ -37,6 +37,10 @@ class Turning:
                 found = found | self.bits[fact]
         return found
 
+    def bits_of(self, facts):
+        """The bits of facts, together, None if one is not of wide."""
+        return self._sum_of(facts) if all([fact in self.bits for fact in facts]) else None
+
     def behind(self, seen):
         """The bits of what is behind the facts with some bits."""
         return closed(self.held, [row for row in self.leads if row[2] & seen == 0])

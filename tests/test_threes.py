@@ -41,6 +41,14 @@ def slow_argued(rules, facts, claims):
     return sure, never
 
 
+class Outside(unittest.TestCase):
+    def test_sets_with_facts_outside_wide_are_no_halves(self):
+        rules = rules_of("p if not q")
+        self.assertIs(is_halves(rules, Facts([]), facts_of("p"), facts_of("p")), True)
+        for low, high in ((["p"], ["p", "q"]), (["q"], ["p", "q"]), (["q"], ["q"]), ([], ["q"]), ([], ["p", "q"]), (["p", "zz"], ["p", "zz"])):
+            self.assertIs(is_halves(rules, Facts([]), facts_of(*low), facts_of(*high)), False)
+
+
 class Turns(unittest.TestCase):
     def test_the_example(self):
         self.assertEqual(turns(WIN, MOVES), [Facts([]), MOVES | facts_of("win a", "win b", "win c"),
@@ -75,7 +83,14 @@ class Turns(unittest.TestCase):
             for facts in every:
                 alone = Rules(rules.listed())
                 self.assertEqual(turns(rules, facts), turns(alone, facts))
+                for low in every:
+                    for high in every:
+                        self.assertEqual(is_halves(rules, facts, low, high), is_halves(Rules(rules.listed()), facts, low, high))
                 for fact in (("win", 1), ("win", 2), ("left", 1)):
+                    told = argument(rules, facts, fact)
+                    self.assertEqual(told, argument(alone, facts, fact))
+                    for other in every:
+                        self.assertEqual(argued(rules, other, fact, told), argued(Rules(rules.listed()), other, fact, told))
                     self.assertEqual(verdict(rules, facts, fact), verdict(Rules(rules.listed()), facts, fact))
 
     def test_nothing_at_all(self):
