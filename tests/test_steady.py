@@ -185,6 +185,13 @@ class Limits(unittest.TestCase):
 
 
 class Again(unittest.TestCase):
+    def test_cases_with_what_is_never(self):
+        rules = rules_of("p if not q", "q if not p", "p if r, not t", "r if not s", "t if r, not q")
+        facts = facts_of("s")
+        self.assertEqual(steady_worlds(rules, facts), [facts_of("p", "s"), facts_of("q", "s")])
+        self.assertIsNone(no_world_with(rules, facts, facts_of("q"), facts_of("p", "t")))
+        self.assertIs(is_no_world_with(rules, facts, facts_of("q"), facts_of("p"), CLASH), False)
+
     def test_the_same_rules_with_other_facts_in_between(self):
         rules = rules_of("p if not q", "q if not p", "r if p, f", "w if f, q, not w")
         for _ in range(3):

@@ -139,7 +139,7 @@ class Stores(unittest.TestCase):
                     writes = come_back(disk)
                     stopped = after(disk, writes[:dice.randint(0, len(writes))])
                     self.assertEqual(facts_at(after(stopped, come_back(stopped)), width), Facts(sorted(wanted, key=str)))
-        self.assertGreater(min(full, busy), 60)
+        self.assertGreater(min(full, busy), 30)
 
     def do(self, store, word, name, fact, width, works, seals, dice):
         """Does one thing, held to put_fact and take_fact; returns whether it was busy."""
