@@ -1,7 +1,11 @@
 """Objects of all kinds, for calls that are let pass any object."""
 
+from rulehouse.disks import Disk
 from rulehouse.errors import BadBody, HouseError
 from rulehouse.facts import Facts
+from rulehouse.houses import House
+from rulehouse.locks import Locks
+from rulehouse.promises import Promises
 from rulehouse.rules import Rules
 
 
@@ -14,6 +18,7 @@ def odd_objects():
         BadBody(0), HouseError(),
         [None], [True], [[]], ((),), [{}], [["a"], "a"], ("a", True), ["a", None], ["a", ["a"]],
         ("a", Facts([])), ["not", "a"], ("unlike", "a"), ("not", "a", "b"),
+        House(), Disk({}, {}, []), Promises([]), Locks({"a": [("read", "x")]}), ("a", House()), [House()],
     ]
 
 
