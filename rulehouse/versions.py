@@ -32,11 +32,11 @@ def _checked_times(plan, times):
 
 
 def _relations(works, word):
-    """The dict of the relations that works write, or that they read, at some read not having written them ahead."""
+    """The dict of the relations that works read, or write, at some such work not having written them ahead."""
     found = {}
     written = {}
     for told, relation in works:
-        if told == word and (word == WRITE or relation not in written):
+        if told == word and relation not in written:
             found[relation] = True
         if told == WRITE:
             written[relation] = True

@@ -194,7 +194,8 @@ class Disks(unittest.TestCase):
         for thing in odd_objects() + [
                 ("set", "t", 1, None), ("set", "t", 1, None, 1, 2), ("set", "T", 1, None, 1), ("set", "t", -1, None, 1), ("set", "t", True, None, 1),
                 ("set", "t", 1, {}, 1), ("set", "t", 1, None, {}), ("set", "t", 1, 5, 1), ("set", "t", 0, 1, 3), ("set", "u", 0, 2, 3), ("back", 0, 0),
-                ("back", -1, 0, 1), ("back", True, 0, 1), ("back", 0, 1, 1), ("back", 0, 0, 2), ("back", 1, 0, 1), ("back", 0, 0, True), ("seal", "u"),
+                ("back", -1, 0, 1), ("back", True, 0, 1), ("back", 0, 1, 1), ("back", 0, 0, 2), ("back", 1, 0, 1), ("back", 0, 0, True), ("seal", "u"), ("back", False, 0, 1),
+                ("back", 0, False, 1), ("set", "t", False, 2, 3), ("set", "t", 0, None, 3), ("over", ["t"]), ("seal", ("t",)), ("over", True),
                 ("over", "t"), ("seal",), ("seal", "t", 1), ("over", "u"), ("done", "t"), ("seal", None), ("back", "0", 0, 1), {0: "seal", 1: "t"}]:
             with self.assertRaises(BadRecord) as caught:
                 Disk({0: 1}, None, [SET, thing, None])
@@ -210,6 +211,14 @@ class Disks(unittest.TestCase):
                      [SET, ("set", "u", 1, None, 3), ("set", "t", 0, 2, 2)]):
             with self.assertRaises(BadPage):
                 Disk({0: 1}, {}, rows)
+
+    def test_truths_are_no_contents(self):
+        for record in (("set", "t", 0, True, 2), ("set", "t", 0, 1, True), ("set", "t", 0, (True,), 2), ("set", "t", 0, 1, ((False,),))):
+            with self.assertRaises(BadRecord) as caught:
+                Disk({0: 1}, {0: (0, 1)}, [record])
+            self.assertEqual(caught.exception.index, 0)
+        with self.assertRaises(BadWrite):
+            after(Disk({0: 1}, {0: (0, 1)}, []), [("page", 0, 0, True)])
 
     def test_bad_pages(self):
         for thing in (None, 3, "ab", [], ((0, 1),), Facts([])):

@@ -93,6 +93,9 @@ class Indexes(unittest.TestCase):
                       {**TWO, 2: ("leaf", C)}, {**TWO, 2: ("leaf", C, D, E, F)}, {**TWO, 0: ("fork", 1, C, 2, E)}, {**TWO, 0: ("fork", 1, C)},
                       {**TWO, 0: ("fork", 1, ("p", "Y"), 2)}, {**TWO, 0: ("fork", "a", C, 2)}, {**TWO, 0: ("fork", -1, C, 2)},
                       {**TWO, 0: ("knot", 1, C, 2)}, {**TWO, 2: ("fork", 3, E, 4), 3: ("leaf", C, D), 4: ("leaf", E, F)},
+                      {0: ("fork", 0, C, 0)}, {0: ("fork", 1, C, 2), 1: ("fork", 0, A, 2), 2: ("fork", 1, D, 0)}, {**TWO, 0: ("fork", 1, 5, 2)},
+                      {**TWO, 0: ("fork", 1, "p", 2)}, {**TWO, 0: ("fork", 1, ("p", ("a",)), 2)}, {**TWO, 0: ("fork", 1, (), 2)},
+                      {0: ("leaf", 1)}, {0: ("leaf", ())}, {0: ("leaf", ("p", ("a",)))}, {0: ("leaf", ("p",), "p")},
                       {**TWO, "a": None}, {**TWO, -1: None}, {**TWO, 5: {}}, {0: ("leaf", A), True: ("leaf",)}):
             self.assertIs(is_index(wrong, 3), False, wrong)
         for thing in odd_objects() + [[("leaf",)], (EMPTY,), facts_of("p 1")]:
