@@ -18,7 +18,11 @@ class Shelves:
         if fact in self.known:
             return
         self.known[fact] = True
-        drawers = self._drawers.setdefault((fact[0], len(fact)), {(): {}})
+        kind = (fact[0], len(fact))
+        if kind not in self._drawers:
+            self._drawers[kind] = {(): {(): [fact]}}
+            return
+        drawers = self._drawers[kind]
         for places in list(drawers):
             _put_in_drawer(drawers[places], places, fact)
 

@@ -42,9 +42,10 @@ class Growth:
     def next_steps(self):
         """Goes one round on: the steps (head, number, facts) that were not there in the round ahead."""
         steps = self._steps
-        fresh = Shelves(self._fresh)
-        for stride in self._strides:
-            steps.extend(stride.taken(fresh, self._barred))
+        if self._fresh:
+            fresh = Shelves(self._fresh)
+            for stride in self._strides:
+                steps.extend(stride.taken(fresh, self._barred))
         self._steps = []
         self._fresh = []
         self._many += 1

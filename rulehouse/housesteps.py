@@ -15,9 +15,9 @@ UNWATCH = "unwatch"
 PROMISE = "promise"
 RELEASE = "release"
 # For each kind of what is kept under names the words of the steps that put it there and away.
-OF_RULES = (LAY, LIFT)
-OF_WATCHERS = (WATCH, UNWATCH)
-OF_PROMISES = (PROMISE, RELEASE)
+OF_RULES = ("lay", "lift")
+OF_WATCHERS = ("watch", "unwatch")
+OF_PROMISES = ("promise", "release")
 
 
 def told_as(word, thing):

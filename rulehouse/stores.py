@@ -72,5 +72,4 @@ class Store:
 
 def facts_at(disk, width):
     """The facts of the settled contents of a disk."""
-    check_width(width)
     return facts_on(settled(disk), width)
