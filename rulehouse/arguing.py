@@ -1,11 +1,11 @@
 """Arguments of claims, looked through claim by claim."""
 
-from rulehouse.cases import wide_cases
 from rulehouse.finding import clashes, filled, patterns_of
 from rulehouse.matching import is_call_of
 from rulehouse.names import is_thing
 from rulehouse.parts import as_fact
 from rulehouse.rules import is_number_of
+from rulehouse.turning import wide_cases
 
 
 def _cases_by_head(rules, facts):
@@ -17,7 +17,7 @@ def _cases_by_head(rules, facts):
     if kept is None or kept[0] != facts:
         wide, found = wide_cases(patterns_of(rules), facts.listed())
         by_head = {}
-        for head, below, nots in found:
+        for head, number, below, nots in found:
             by_head.setdefault(head, []).append((below, nots))
         kept = (facts, wide, by_head)
         rules.memory["heads"] = kept

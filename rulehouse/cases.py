@@ -1,8 +1,9 @@
 """Cases of rules with nots, and what comes of facts behind a set that is seen."""
 
-from rulehouse.facts import Facts
-from rulehouse.finding import Shelves, calls_by, filled, patterns_of, sorted_matches
-from rulehouse.growing import grown, grown_steps
+from rulehouse.facts import Facts, facts_in_order
+from rulehouse.finding import Shelves, patterns_of, sorted_matches
+from rulehouse.growing import grown
+from rulehouse.turning import turning_of
 
 
 def _grown_wide(rules, facts):
@@ -25,24 +26,12 @@ def cases(rules, facts):
     return found
 
 
-def nots_by(pattern, facts):
-    """The facts behind the nots of a body where its atoms become facts, each once."""
-    if not pattern.nots:
-        return ()
-    calls = calls_by(pattern, facts)
-    return tuple(list({filled(atom, calls): True for atom in pattern.nots}))
-
-
-def wide_cases(patterns, facts):
-    """The pair of the dict from all facts of wide to rounds, and the list of all cases.
-
-    A case is told here as a triple (head, plain facts, not facts).
-    """
-    rounds, steps = grown_steps(patterns, facts)
-    return rounds, [(head, below, nots_by(patterns[number], below)) for head, number, below in steps]
-
-
 def behind(rules, facts, seen):
     """The least set with all facts and the heads of cases none of whose not facts is seen."""
+    turning = turning_of(rules, facts)
+    bits = turning.bits_of(seen.listed())
+    if bits is not None:
+        return facts_in_order(turning.facts_of(turning.behind(bits)))
+    # What is seen and not of wide can bar cases, too, and has no bit.
     barred = {fact: True for fact in seen.listed()}
     return Facts(list(grown(patterns_of(rules), facts.listed(), barred)))

@@ -3,8 +3,8 @@
 from rulehouse.facts import Facts
 from rulehouse.finding import clashes, filled, patterns_of
 from rulehouse.freezing import calls_up_to_names, first_new, parts_of_rules, things_named
-from rulehouse.cases import nots_by
 from rulehouse.growing import Growth
+from rulehouse.turning import nots_by
 
 
 def _instances(rules, more):

@@ -4,7 +4,6 @@ from rulehouse.arguing import Hearing
 from rulehouse.facts import facts_in_order
 from rulehouse.finding import calls_by, letters_alone, patterns_of
 from rulehouse.following import checked_fact
-from rulehouse.growing import Growth
 from rulehouse.turning import turning_of
 
 
@@ -36,44 +35,47 @@ def verdict(rules, facts, fact):
     return "open" if bit & turning.possible else "never"
 
 
-def _sure_claims(patterns, facts, barred, told):
-    """The claims of what is sure if just barred facts may stand, but for what is told; told goes along."""
-    growth = Growth(patterns, facts.listed(), {fact: True for fact in barred.listed()})
-    claims = []
-    while not growth.is_over():
-        for head, number, below in growth.next_steps():
-            if head not in told:
-                told[head] = True
-                pattern = patterns[number]
-                claims.append((head, ("sure", number, letters_alone(pattern, calls_by(pattern, below)))))
-    return claims
+def _sure_steps(turning, told, barred):
+    """The pairs (head, step) that tell more bits sure if just barred ones may stand, but for what is told."""
+    found = []
+    rows = [row for row in turning.leads if row[2] & barred == 0]
+    last = None
+    while told != last:
+        last = told
+        for row in rows:
+            if row[0] & told == 0 and row[1] & told == row[1]:
+                told = told | row[0]
+                found.append((row[0], turning.steps[row]))
+    return found
 
 
-def _claims_that_tell(patterns, facts, found, fact):
-    """The claims turn by turn, up to the one that tells a fact; found are the turns."""
-    told = {given: True for given in facts.listed()}
+def _claims_that_tell(patterns, turning, bit):
+    """The claims turn by turn, up to the one that tells a bit."""
+    told = turning.held
     claims = []
-    for index in range(2, len(found)):
+    for index in range(2, len(turning.turned)):
         if index % 2 == 1:
-            some = found[index - 2] - found[index]
-            claims.append(("never", tuple(some.listed())))
-            if fact in some:
+            some = turning.turned[index - 2] & ~turning.turned[index]
+            claims.append(("never", tuple(turning.facts_of(some))))
+            if bit & some:
                 return claims
             continue
-        for head, claim in _sure_claims(patterns, facts, found[index - 1], told):
-            claims.append(claim)
-            if head == fact:
+        for head, (number, below) in _sure_steps(turning, told, turning.turned[index - 1]):
+            pattern = patterns[number]
+            told = told | head
+            claims.append(("sure", number, letters_alone(pattern, calls_by(pattern, below))))
+            if head == bit:
                 return claims
     return None
 
 
 def argument(rules, facts, fact):
     """An argument that tells a fact sure or never, None for an open one."""
-    kept = checked_fact(fact)
-    found = turns(rules, facts)
-    if kept in facts or kept not in found[1]:
+    turning = turning_of(rules, facts)
+    bit = turning.bits.get(checked_fact(fact), 0)
+    if bit & ~turning.held == 0:
         return []
-    return _claims_that_tell(patterns_of(rules), facts, found, kept)
+    return None if bit & turning.possible & ~turning.sure else _claims_that_tell(patterns_of(rules), turning, bit)
 
 
 def argued(rules, facts, fact, thing):

@@ -1,8 +1,25 @@
 """Turns of rules with nots, told in bits: the cases are found once, and each turn goes through them."""
 
-from rulehouse.cases import wide_cases
-from rulehouse.finding import patterns_of
+from rulehouse.finding import calls_by, filled, patterns_of
+from rulehouse.growing import grown_steps
 from rulehouse.parts import atom_key
+
+
+def nots_by(pattern, facts):
+    """The facts behind the nots of a body where its atoms become facts, each once."""
+    if not pattern.nots:
+        return ()
+    calls = calls_by(pattern, facts)
+    return tuple(list({filled(atom, calls): True for atom in pattern.nots}))
+
+
+def wide_cases(patterns, facts):
+    """The pair of the dict from all facts of wide to rounds, and the list of all cases.
+
+    A case is told here as (head, number, plain facts, not facts).
+    """
+    rounds, steps = grown_steps(patterns, facts)
+    return rounds, [(head, number, below, nots_by(patterns[number], below)) for head, number, below in steps]
 
 
 class Turning:
@@ -10,19 +27,20 @@ class Turning:
 
     self.leads has the triples (head, plain facts, not facts) of the unlike cases that can tell
     anything: what is given needs no case, and holds no case up. Facts behind nots outside wide are
-    left out, as no turn has them.
+    left out, as no turn has them. self.steps leads them to the rule's number and all plain facts
+    of the first case with them.
     """
 
     def __init__(self, rules, facts):
         rounds, found = wide_cases(patterns_of(rules), facts.listed())
         self.bits = {fact: 1 << index for index, fact in enumerate(sorted(list(rounds), key=atom_key))}
         self.held = self._sum_of(facts.listed())
-        rows = {}
-        for head, below, nots in found:
+        self.steps = {}
+        for head, number, below, nots in found:
             row = (self.bits[head], self._sum_of(below) & ~self.held, self._sum_of(nots))
             if row[0] & self.held == 0 and row[0] & row[1] == 0:
-                rows[row] = True
-        self.leads = list(rows)
+                self.steps.setdefault(row, (number, below))
+        self.leads = list(self.steps)
         self.turned = self._all_turns()
         sure, possible = self.turned[-2:]
         if len(self.turned) % 2 == 1:
