@@ -10,7 +10,7 @@ from rulehouse.names import is_integer
 from rulehouse.prices import odd_key
 from rulehouse.ratios import as_fraction, lowest
 from rulehouse.reasons import as_set, checked_question_of
-from rulehouse.supports import Supports
+from rulehouse.supports import supports_of
 from rulehouse.trees import tree_of
 
 
@@ -86,7 +86,7 @@ def chance(rules, facts, fact, chances):
     """The chance that a fact follows."""
     kept = checked_question_of(rules, fact)
     _check_chances(facts, chances)
-    supports = Supports(rules, facts)
+    supports = supports_of(rules, facts)
     whole = 1
     for given in supports.base:
         whole = whole * chances[given][1]
@@ -99,7 +99,7 @@ def chance_given(rules, facts, fact, chances, follow, lack):
     _check_chances(facts, chances)
     following = list_of_facts(follow)
     lacking = list_of_facts(lack)
-    supports = Supports(rules, facts)
+    supports = supports_of(rules, facts)
     holds = [True] * (1 << len(supports.base))
     for other in following:
         holds = [one and follows for one, follows in zip(holds, supports.follows_from(other))]
@@ -115,7 +115,7 @@ def chance_given(rules, facts, fact, chances, follow, lack):
 def splits(rules, facts, fact):
     """A pair (yes, no) of lists of splits, one of which holds of each set: of reasons, and of breaks."""
     kept = checked_question_of(rules, fact)
-    supports = Supports(rules, facts)
+    supports = supports_of(rules, facts)
     yes, no = all_halves(supports.follows_from(kept), len(supports.base))
     return tuple([[(supports.set_of(one), supports.set_of(other)) for one, other in rows] for rows in (yes, no)])
 
@@ -145,7 +145,7 @@ def is_splits(rules, facts, fact, thing):
     no = _numbers_of(facts, thing[1])
     if yes is None or no is None:
         return False
-    follows = Supports(rules, facts).follows_from(kept)
+    follows = supports_of(rules, facts).follows_from(kept)
     every = len(follows) - 1
     if not all([follows[one] for one, other in yes]) or any([follows[every - other] for one, other in no]):
         return False
@@ -155,7 +155,7 @@ def is_splits(rules, facts, fact, thing):
 def shares(rules, facts, fact):
     """The dict from all given facts, in order, to the shares of orders in which a fact begins with each of them."""
     kept = checked_question_of(rules, fact)
-    supports = Supports(rules, facts)
+    supports = supports_of(rules, facts)
     follows = supports.follows_from(kept)
     many = len(supports.base)
     sizes = [0]

@@ -9,8 +9,12 @@ from rulehouse.rules import refuse_nots
 
 
 def all_heights(rules, facts):
-    """The dict from all that follows, in any order, to heights."""
-    return grown(patterns_of(rules), facts.listed(), {})
+    """The dict from all that follows, in any order, to heights: the last one is kept, and never changed."""
+    kept = rules.memory.get("heights")
+    if kept is None or kept[0] != facts:
+        kept = (facts, grown(patterns_of(rules), facts.listed(), {}))
+        rules.memory["heights"] = kept
+    return kept[1]
 
 
 def checked_fact(fact):

@@ -4,7 +4,7 @@ from rulehouse.errors import NotGiven
 from rulehouse.following import checked_fact
 from rulehouse.parts import as_fact
 from rulehouse.rules import refuse_nots
-from rulehouse.supports import Supports, least_numbers
+from rulehouse.supports import least_numbers, supports_of
 
 
 def checked_question_of(rules, fact):
@@ -27,7 +27,7 @@ def as_set(facts, thing):
 
 
 def _least_sets(rules, facts, fact):
-    supports = Supports(rules, facts)
+    supports = supports_of(rules, facts)
     return [supports.set_of(number) for number in least_numbers(supports.follows_from(fact))]
 
 
@@ -44,7 +44,7 @@ def is_least_set(rules, facts, fact, thing):
 
 
 def _least_breaks(rules, facts, fact):
-    supports = Supports(rules, facts)
+    supports = supports_of(rules, facts)
     # All others of the set with a number stand at the same place from the end.
     breaks = [not follows for follows in reversed(supports.follows_from(fact))]
     return [supports.set_of(number) for number in least_numbers(breaks)]

@@ -6,7 +6,7 @@ from rulehouse.finding import Pattern, Shelves, filled, found_calls, sorted_matc
 from rulehouse.following import all_heights, checked_fact
 from rulehouse.parts import as_body, loose_letters
 from rulehouse.rules import refuse_nots
-from rulehouse.supports import Supports, least_numbers
+from rulehouse.supports import least_numbers, supports_of
 from rulehouse.trees import tree_of
 from rulehouse.worlds import world_without
 
@@ -45,7 +45,7 @@ class Quarrels:
     """Which sets of given facts break denials, told by their numbers."""
 
     def __init__(self, rules, facts, patterns):
-        self._supports = Supports(rules, facts)
+        self._supports = supports_of(rules, facts)
         shelves = Shelves(self._supports.all_facts())
         rows = {}
         for pattern in patterns:

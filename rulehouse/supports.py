@@ -86,6 +86,15 @@ class Supports:
         return tuple([fact for index, fact in enumerate(self.base) if number >> index & 1])
 
 
+def supports_of(rules, facts):
+    """The Supports of rules and facts; the last one is kept with the rules, as calls often ask the same ones."""
+    kept = rules.memory.get("supports")
+    if kept is None or kept[0] != facts:
+        kept = (facts, Supports(rules, facts))
+        rules.memory["supports"] = kept
+    return kept[1]
+
+
 def choice_key(number):
     """What the numbers of sets are ordered by in THE ORDER OF CHOICES."""
     places = []

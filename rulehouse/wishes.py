@@ -6,7 +6,7 @@ from rulehouse.finding import patterns_of
 from rulehouse.partings import many_bits
 from rulehouse.reasons import as_set
 from rulehouse.rules import refuse_nots
-from rulehouse.supports import Supports, choice_key, least_numbers
+from rulehouse.supports import choice_key, least_numbers, supports_of
 from rulehouse.trees import tree_nodes, tree_of
 
 
@@ -61,7 +61,7 @@ class Changes:
     """All changes for a wish, told by numbers: with a bit for each fact that is taken or put."""
 
     def __init__(self, rules, facts, wish):
-        self._supports = Supports(rules, wish.all)
+        self._supports = supports_of(rules, wish.all)
         self._given = sum([1 << index for index, fact in enumerate(self._supports.base) if fact in facts])
         granting = _granting(self._supports, wish)
         self.granting = [granting[number ^ self._given] for number in range(len(granting))]
@@ -98,7 +98,7 @@ def lean_changes(rules, facts, wanted, barred, menu):
 
 
 def _joint_sets(rules, facts, wanted):
-    supports = Supports(rules, facts)
+    supports = supports_of(rules, facts)
     return [supports.set_of(number) for number in least_numbers(_all_wanted(supports, wanted))]
 
 

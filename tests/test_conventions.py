@@ -312,6 +312,24 @@ class Conventions(unittest.TestCase):
             call(**arguments)
         self.assertEqual((rules, facts), (Rules(WAY), Facts(EDGES)))
 
+    def test_rules_that_were_asked_ahead_tell_the_same(self):
+        shared = {}
+        for calls in (CALLS, CALLS[::-1]):
+            for call, told in calls:
+                fresh = plain(call(*[made(call, name, thing) for name, thing in told.items()]))
+                arguments = {name: made(call, name, thing) for name, thing in told.items()}
+                for name, thing in told.items():
+                    if isinstance(arguments[name], Rules):
+                        arguments[name] = shared.setdefault(str(thing), arguments[name])
+                self.assertEqual(plain(call(**arguments)), fresh, call)
+                if "facts" in told and isinstance(arguments["facts"], Facts):
+                    others = {**arguments, "facts": Facts(told["facts"][:1])}
+                    try:
+                        call(**others)
+                    except HouseError:
+                        pass
+                    self.assertEqual(plain(call(**arguments)), fresh, call)
+
     def test_a_call_that_raises_changes_nothing(self):
         facts, rules = Facts(EDGES), Rules(WAY)
         for call in (lambda: rules | Rules([(("e",), [])]), lambda: rules.without(7), lambda: put_in(BODY, {"X": None}),
