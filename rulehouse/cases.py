@@ -3,7 +3,7 @@
 from rulehouse.facts import Facts, facts_in_order
 from rulehouse.finding import Shelves, patterns_of, sorted_matches
 from rulehouse.growing import grown
-from rulehouse.turning import turning_of
+from rulehouse.turning import kept_turning
 
 
 def _grown_wide(rules, facts):
@@ -28,10 +28,10 @@ def cases(rules, facts):
 
 def behind(rules, facts, seen):
     """The least set with all facts and the heads of cases none of whose not facts is seen."""
-    turning = turning_of(rules, facts)
-    bits = turning.bits_of(seen.listed())
+    turning = kept_turning(rules, facts)
+    # What is seen and not of wide can bar cases, too, and has no bit.
+    bits = None if turning is None else turning.bits_of(seen.listed())
     if bits is not None:
         return facts_in_order(turning.facts_of(turning.behind(bits)))
-    # What is seen and not of wide can bar cases, too, and has no bit.
     barred = {fact: True for fact in seen.listed()}
     return Facts(list(grown(patterns_of(rules), facts.listed(), barred)))

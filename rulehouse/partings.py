@@ -4,7 +4,7 @@ from rulehouse.facts import Facts
 from rulehouse.finding import clashes, filled, patterns_of
 from rulehouse.freezing import calls_up_to_names, first_new, parts_of_rules, things_named
 from rulehouse.growing import Growth
-from rulehouse.turning import nots_by
+from rulehouse.turning import nots_at, places_of_nots
 
 
 def _instances(rules, more):
@@ -30,11 +30,12 @@ def _instances(rules, more):
 def _cases_from(patterns, plain):
     """All facts and cases that can come of facts, and of what stands behind the nots of these cases."""
     growth = Growth(patterns, list(plain), {})
+    places = [places_of_nots(pattern) for pattern in patterns]
     found = []
     while not growth.is_over():
         behind_nots = {}
         for head, number, below in growth.next_steps():
-            nots = nots_by(patterns[number], below)
+            nots = nots_at(places[number], below)
             found.append((head, below, nots))
             for fact in nots:
                 behind_nots[fact] = True

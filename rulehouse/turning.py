@@ -1,16 +1,30 @@
 """Turns of rules with nots, told in bits: the cases are found once, and each turn goes through them."""
 
-from rulehouse.finding import calls_by, filled, patterns_of
+from rulehouse.finding import patterns_of
 from rulehouse.growing import grown_steps
 from rulehouse.parts import atom_key
 
 
-def nots_by(pattern, facts):
-    """The facts behind the nots of a body where its atoms become facts, each once."""
-    if not pattern.nots:
-        return ()
-    calls = calls_by(pattern, facts)
-    return tuple(list({filled(atom, calls): True for atom in pattern.nots}))
+def _place_of(pattern, term):
+    """The pair of the index of an atom of a body and a place in it where a letter stands, (None, term) for a thing."""
+    for index, atom in enumerate(pattern.atoms):
+        if term not in pattern.seeds and term in atom[1:]:
+            return (index, atom.index(term, 1))
+    return (None, term)
+
+
+def places_of_nots(pattern):
+    """For each atom behind a not its relation, and the places where its terms stand in the atoms of the body."""
+    return [(atom[0], [_place_of(pattern, term) for term in atom[1:]]) for atom in pattern.nots]
+
+
+def nots_at(places, facts):
+    """The tuple of the facts behind the nots of a body, each once, if its atoms become facts; see places_of_nots."""
+    found = {}
+    for relation, row in places:
+        things = [at if index is None else facts[index][at] for index, at in row]
+        found[(relation,) + tuple(things)] = True
+    return tuple(list(found))
 
 
 def wide_cases(patterns, facts):
@@ -19,7 +33,8 @@ def wide_cases(patterns, facts):
     A case is told here as (head, number, plain facts, not facts).
     """
     rounds, steps = grown_steps(patterns, facts)
-    return rounds, [(head, number, below, nots_by(patterns[number], below)) for head, number, below in steps]
+    places = [places_of_nots(pattern) for pattern in patterns]
+    return rounds, [(head, number, below, nots_at(places[number], below)) for head, number, below in steps]
 
 
 class Turning:
@@ -88,10 +103,16 @@ def closed(start, rows):
     return found
 
 
+def kept_turning(rules, facts):
+    """The Turning of rules and facts if it is kept with the rules, None if not."""
+    kept = rules.memory.get("turning")
+    return None if kept is None or kept[0] != facts else kept[1]
+
+
 def turning_of(rules, facts):
     """The Turning of rules and facts; the last one is kept with the rules, as calls often ask the same ones."""
-    kept = rules.memory.get("turning")
-    if kept is None or kept[0] != facts:
-        kept = (facts, Turning(rules, facts))
-        rules.memory["turning"] = kept
-    return kept[1]
+    found = kept_turning(rules, facts)
+    if found is None:
+        found = Turning(rules, facts)
+        rules.memory["turning"] = (facts, found)
+    return found

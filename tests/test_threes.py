@@ -83,7 +83,8 @@ class Turns(unittest.TestCase):
             for facts in every:
                 alone = Rules(rules.listed())
                 self.assertEqual(turns(rules, facts), turns(alone, facts))
-                for low in every:
+                for low in every + [facts_of("win 7"), facts_of("win 2", "left 1")]:
+                    self.assertEqual(behind(rules, facts, low), behind(Rules(rules.listed()), facts, low))
                     for high in every:
                         self.assertEqual(is_halves(rules, facts, low, high), is_halves(Rules(rules.listed()), facts, low, high))
                 for fact in (("win", 1), ("win", 2), ("left", 1)):
