@@ -52,7 +52,7 @@ class Disk:
         self._first = checked_contents(first)
         found = _checked_log(self._first, log)
         self._pages = _checked_pages(found, pages)
-        self._records = tuple(found.records)
+        self._logged = tuple(found.records)
 
     def first(self):
         """The dict, ascending, from pages to first contents."""
@@ -64,11 +64,11 @@ class Disk:
 
     def log(self):
         """The list of the records."""
-        return list(self._records)
+        return list(self._logged)
 
     def __eq__(self, other):
         return (isinstance(other, Disk) and self._first == other._first and self._pages == other._pages
-                and self._records == other._records)
+                and self._logged == other._logged)
 
 
 def settled(disk):
