@@ -95,9 +95,9 @@ def is_halves(rules, facts, low, high):
     if not low.is_within(high):
         return False
     turning = turning_of(rules, facts)
-    lower = turning.bits_of(low.listed())
     upper = turning.bits_of(high.listed())
     # What is behind a set is of wide, so sets with other facts are no halves.
-    if lower is None or upper is None:
+    if upper is None:
         return False
+    lower = turning.bits_of(low.listed())
     return turning.behind(lower) == upper and turning.behind(upper) == lower

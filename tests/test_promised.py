@@ -177,7 +177,8 @@ class Promised(unittest.TestCase):
                  (number, index, facts, calls, {letter: True for letter in match}),
                  first[:3] + ({"X": 0},) + first[4:], first[:3] + ((),) + first[4:], first[:1] + (0,) + first[2:],
                  first[:2] + (facts_of("way 0 0"),) + first[3:], first[:2] + (first[2] | facts_of("edge 8 9"),) + first[3:],
-                 (number, index, facts | facts_of("edge 8 9"), calls, match)]
+                 (number, index, facts | facts_of("edge 8 9"), calls, match), (4, None, facts_of("node 0", "edge 0 0"), {}, {"X": 0})]
+        self.assertIs(is_falling_out(WAY, GIVEN, WANTED, [(4, None, facts_of("node 0", "edge 1 1", "node 1"), {}, {"X": 0})]), True)
         for thing in odd_objects() + wrong:
             for ahead in ([], [one for one in rows if one[1] is None], [one for one in rows if one[1] is None][1:], rows):
                 self.assertIs(is_falling_out(WAY, GIVEN, WANTED, ahead + [thing]), False, thing)
