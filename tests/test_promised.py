@@ -186,6 +186,13 @@ class Promised(unittest.TestCase):
             if thing not in ([], ()):
                 self.assertIs(is_falling_out(WAY, GIVEN, WANTED, thing), False, thing)
 
+    def test_deeds_that_can_not_be_done(self):
+        told = (rules_of("p X Y if e X, e Y, unlike X Y, unlike X 7"), NONE, Promises([((("p", "A", "B"),), ())]))
+        facts = facts_of("e 1", "e 2", "e 7")
+        for one, other, is_right in ((1, 2, True), (2, 1, True), (1, 1, False), (7, 1, False), (1, 7, True), (1, 3, False), (3, 1, False)):
+            row = (0, 0, facts, {"X": one, "Y": other}, {"A": one, "B": other})
+            self.assertIs(is_falling_out(*told, [row]), is_right, row)
+
     def test_what_is_out_need_not_be_kept(self):
         rules = rules_of("p if e", "q if p")
         wanted = Promises([((("p",),), ()), ((("q",),), ())])
