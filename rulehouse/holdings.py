@@ -35,10 +35,19 @@ def _check_names(names, steps):
                 taken[first].pop(step[1])
 
 
+def _alone(promises, last):
+    """The dict from names to Promises of each promise alone, those of the last holding where they are the same."""
+    found = {}
+    for name, promise in promises.items():
+        is_alike = last is not None and last.promising.get(name) == promise
+        found[name] = last.alone[name] if is_alike else Promises([promise])
+    return found
+
+
 class Holding:
     """Given facts, and rules, watchers and promises under names; it never changes.
 
-    What stands, and the Rules, are taken from the holding ahead of it as far as they are the same.
+    What is made of them is taken from the holding ahead of it as far as they are the same.
     """
 
     def __init__(self, given, laid, watched, promises, last):
@@ -46,6 +55,7 @@ class Holding:
         self.laid = laid
         self.watched = watched
         self.promising = promises
+        self.alone = _alone(promises, last)
         is_alike = last is not None and list(last.laid.items()) == list(laid.items())
         self.ruling = last.ruling if is_alike else Rules(list(laid.values()))
         self.what_stands = last.what_stands if is_alike and last.base == given else by_levels(self.ruling, given)
@@ -67,8 +77,8 @@ class Holding:
     def all_broken(self):
         """The list of the pairs (name, first match) of the promises that are not kept, by names."""
         found = []
-        for name, promise in self.promising.items():
-            broken = Promises([promise]).all_broken(self.what_stands)
+        for name, promises in self.alone.items():
+            broken = promises.all_broken(self.what_stands)
             if broken:
                 found.append((name, broken[0][1]))
         return found

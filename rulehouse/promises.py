@@ -67,6 +67,8 @@ class Promises:
 
     def __init__(self, promises):
         self._promises = _checked_promises(promises)
+        # Promises never change: what others make of them, and need again, they keep here.
+        self.memory = {}
 
     def listed(self):
         """The list of the promises."""
@@ -76,12 +78,10 @@ class Promises:
         """The list of the pairs (number, match) at which facts break promises."""
         shelves = Shelves(facts.listed())
         found = []
-        for number, (body, ways) in enumerate(self._promises):
-            pattern = Pattern(body + ways)
-            told = Pattern(body)
-            for match in sorted_matches(told, shelves, shelves.known, pattern.seeds):
-                calls = {**pattern.seeds, **match}
-                if not any([filled(way, calls) in shelves.known for way in ways]):
+        for number, clause in enumerate(clauses_of(self)):
+            for match in sorted_matches(clause, shelves, shelves.known, clause.seeds):
+                calls = {**clause.seeds, **match}
+                if not any([filled(way, calls) in shelves.known for way in clause.ways]):
                     found.append((number, match))
         return found
 
@@ -97,6 +97,7 @@ class Bundle:
 
     def __init__(self, promises):
         self._promises = tuple(promises)
+        self.memory = {}
 
     def listed(self):
         """The list of the promises."""
@@ -113,7 +114,10 @@ def breaks_at(facts, promise, thing):
 
 
 class Clause:
-    """A promise taken apart: what must stand for it to matter, and what may stand for it to be kept."""
+    """A promise taken apart: what must stand for it to matter, and what may stand for it to be kept.
+
+    It can be searched with as a Pattern of its body can; its seeds have the things of its ways, too.
+    """
 
     def __init__(self, promise):
         body, ways = promise
@@ -128,8 +132,10 @@ class Clause:
 
 
 def clauses_of(promises):
-    """The list of the clauses of promises."""
-    return [Clause(promise) for promise in promises.listed()]
+    """The tuple of the clauses of promises, made once and kept with them."""
+    if "clauses" not in promises.memory:
+        promises.memory["clauses"] = tuple([Clause(promise) for promise in promises.listed()])
+    return promises.memory["clauses"]
 
 
 def is_number_in(promises, number):
