@@ -18,7 +18,7 @@ class Wish:
         self.wanted = list_of_facts(wanted)
         self.barred = list_of_facts(barred)
         self.to_put = Facts(list_of_facts(menu)) - facts
-        self.all = facts | self.to_put
+        self.every = facts | self.to_put
 
     def is_granted_by(self, following):
         """Whether the wish is granted where just some facts follow."""
@@ -61,7 +61,7 @@ class Changes:
     """All changes for a wish, told by numbers: with a bit for each fact that is taken or put."""
 
     def __init__(self, rules, facts, wish):
-        self._supports = supports_of(rules, wish.all)
+        self._supports = supports_of(rules, wish.every)
         self._given = sum([1 << index for index, fact in enumerate(self._supports.base) if fact in facts])
         granting = _granting(self._supports, wish)
         self.granting = [granting[number ^ self._given] for number in range(len(granting))]
@@ -121,7 +121,7 @@ def bars(rules, facts, wanted, barred, menu):
     """The list of the pairs of a joint set and a tree of a barred fact, None if some change grants the wish."""
     wish = Wish(rules, facts, wanted, barred, menu)
     found = []
-    for told in _joint_sets(rules, wish.all, wish.wanted):
+    for told in _joint_sets(rules, wish.every, wish.wanted):
         tree = _tree_in(rules, told, wish.barred)
         if tree is None:
             return None
@@ -140,11 +140,11 @@ def is_bars(rules, facts, wanted, barred, menu, thing):
     wish = Wish(rules, facts, wanted, barred, menu)
     if not isinstance(thing, (list, tuple)):
         return False
-    left = {told: True for told in _joint_sets(rules, wish.all, wish.wanted)}
+    left = {told: True for told in _joint_sets(rules, wish.every, wish.wanted)}
     for pair in thing:
         if not isinstance(pair, (list, tuple)) or len(pair) != 2:
             return False
-        told = as_set(wish.all, pair[0])
+        told = as_set(wish.every, pair[0])
         if told not in left or not _is_barred_tree(rules, told, wish.barred, pair[1]):
             return False
         left.pop(told)
